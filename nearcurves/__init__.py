@@ -1,0 +1,1 @@
+"""Nearcurves: the making of a number library's functions, with exact answers."""

@@ -1,0 +1,55 @@
+"""What several tests need."""
+
+import unittest
+from fractions import Fraction
+from random import Random
+
+from nearcurves.errors import BadNumber
+from nearcurves.polys import Poly
+
+# What is no ratio, of many kinds.
+NO_RATIOS = [
+    None, True, False, "", "1", "1/2", b"1", 1.0, 0.5, (), [], (1,), [1], (1, 2, 3), [1, 2, 3], (1, 0), [1, 0], (0, 0),
+    (1, -1), [3, -2], (True, 1), (1, True), [False, 1], [1, True], (1.0, 2), (1, 2.0), ("1", 2), (1, "2"), (None, 1),
+    (1, None), ((1, 2), 3), (1, (2, 3)), [[1, 2], [3, 4]], ((1, 2),), {}, {1: 2, 3: 4}, {1, 2}, range(2), Fraction(1, 2),
+    Poly((1, 2)), object(), int, len, "12", b"12",
+]
+
+
+class Asking(unittest.TestCase):
+    def bad(self, what, number, function, *arguments):
+        with self.assertRaises(BadNumber) as caught:
+            function(*arguments)
+        self.assertEqual(caught.exception.what, what)
+        self.assertIs(caught.exception.number, number)
+
+
+def fraction(value):
+    """A ratio, passed in any way, as a Fraction."""
+    return Fraction(value) if isinstance(value, int) else Fraction(*value)
+
+
+def pair(number):
+    """A Fraction, or an integer, as a ratio is told."""
+    number = Fraction(number)
+    return (number.numerator, number.denominator)
+
+
+def random_ratio(random, digits):
+    """A pair in some terms, with at most so many digits above and below."""
+    return (random.randrange(-10 ** digits + 1, 10 ** digits), random.randrange(1, 10 ** digits))
+
+
+def random_poly(seed, degree, digits):
+    """A Poly of just this degree."""
+    random = Random(seed)
+    numbers = [random_ratio(random, digits) for _ in range(degree)]
+    return Poly(numbers + [(random.choice((1, -1)) * random.randrange(1, 10 ** digits), random.randrange(1, 10 ** digits))])
+
+
+def power_of(poly, many):
+    """The product of a Poly and itself, so many times."""
+    product = Poly((1,))
+    for _ in range(many):
+        product = product * poly
+    return product
