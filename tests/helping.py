@@ -4,7 +4,7 @@ import unittest
 from fractions import Fraction
 from random import Random
 
-from nearcurves.errors import BadNumber
+from nearcurves.errors import BadInterval, BadNumber, BadRow
 from nearcurves.polys import Poly
 
 # What is no ratio, of many kinds.
@@ -15,6 +15,15 @@ NO_RATIOS = [
     Poly((1, 2)), object(), int, len, "12", b"12",
 ]
 
+# Pairs of values that are no interval.
+NO_INTERVALS = [
+    (1, 1), (1, 0), ((1, 2), (2, 4)), ((1, 2), [1, 2]), (0, True), (False, 1), (None, 1), (0, None), ("0", "1"), (0, 1.0),
+    ((0, 0), 1), (0, (1, -1)), ([], []), (Fraction(0), 1), (0, Poly((1,))),
+]
+
+# What is no number of bits of a gap.
+NO_BITS = [-1, 61, 10 ** 30, True, False, None, "1", 1.0, (1, 1), [], Poly(())]
+
 
 class Asking(unittest.TestCase):
     def bad(self, what, number, function, *arguments):
@@ -22,6 +31,17 @@ class Asking(unittest.TestCase):
             function(*arguments)
         self.assertEqual(caught.exception.what, what)
         self.assertIs(caught.exception.number, number)
+
+    def bad_interval(self, low, high, function, *arguments):
+        with self.assertRaises(BadInterval) as caught:
+            function(*arguments)
+        self.assertIs(caught.exception.low, low)
+        self.assertIs(caught.exception.high, high)
+
+    def bad_row(self, row, function, *arguments):
+        with self.assertRaises(BadRow) as caught:
+            function(*arguments)
+        self.assertIs(caught.exception.row, row)
 
 
 def fraction(value):

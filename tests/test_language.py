@@ -1,12 +1,28 @@
-"""Some of the rules that the code of the package keeps to: sizes, characters, imports, and what is not used."""
+"""Some of the rules that the code of the package keeps to: sizes, characters, imports, names, and what is not used."""
 
 import ast
+import builtins
+import re
 import unittest
 from pathlib import Path
 
 FOLDER = Path(__file__).resolve().parent.parent / "nearcurves"
 FILES = sorted(FOLDER.glob("*.py"))
-LIBRARY = {"math": {"gcd", "lcm", "isqrt", "comb", "perm", "factorial"}}
+LIBRARY = {"math": {"gcd", "lcm", "isqrt", "comb", "perm", "factorial"}, "heapq": {"heappush", "heappop"}}
+BUILTINS = {
+    "len", "range", "enumerate", "zip", "min", "max", "sum", "abs", "sorted", "reversed", "int", "str", "bool", "list",
+    "tuple", "dict", "set", "isinstance", "ord", "repr", "any", "all", "divmod", "ValueError", "NotImplemented",
+}
+METHODS = set(
+    "append clear copy count endswith extend find get index insert isalnum isalpha isdigit islower isspace isupper items join "
+    "keys ljust lower lstrip partition pop remove replace reverse rfind rjust rpartition rsplit rstrip setdefault split "
+    "splitlines startswith strip update upper values zfill bit_length".split()
+)
+UNUSED = set(
+    "register mro elements open input law type typing typing_extensions enum Enum IntEnum StrEnum Flag IntFlag Generic Protocol "
+    "ABC ABCMeta namedtuple NamedTuple TypedDict abstractmethod eval exec compile globals locals vars dir id help".split()
+)
+COMPREHENSIONS = (ast.ListComp, ast.DictComp, ast.SetComp, ast.GeneratorExp)
 
 
 def trees():
@@ -14,7 +30,29 @@ def trees():
         yield path.name, ast.parse(path.read_text(encoding="utf-8"))
 
 
-class TestLanguage(unittest.TestCase):
+def nodes(*kinds):
+    for name, tree in trees():
+        for node in ast.walk(tree):
+            if isinstance(node, kinds):
+                yield name, node
+
+
+def bound_names(tree):
+    """All names that parameters, assignments, loops and comprehensions bind."""
+    for node in ast.walk(tree):
+        if isinstance(node, ast.arg):
+            yield node.arg
+        elif isinstance(node, ast.Name) and isinstance(node.ctx, ast.Store):
+            yield node.id
+
+
+def targets_of(comprehension):
+    return {
+        node.id for part in comprehension.generators for node in ast.walk(part.target) if isinstance(node, ast.Name)
+    } - {"_"}
+
+
+class TestFiles(unittest.TestCase):
     def test_the_folder_has_files_of_the_package_alone(self):
         others = [path.name for path in FOLDER.iterdir() if path.name != "__pycache__" and path not in FILES]
         self.assertEqual(others, [])
@@ -29,36 +67,147 @@ class TestLanguage(unittest.TestCase):
             self.assertLessEqual(max(len(line) for line in lines), 120, path.name)
 
     def test_functions_are_small(self):
-        for name, tree in trees():
-            for node in ast.walk(tree):
-                if isinstance(node, ast.FunctionDef):
-                    self.assertLessEqual(node.end_lineno - node.lineno + 1, 40, f"{name}: {node.name}")
+        for name, node in nodes(ast.FunctionDef):
+            self.assertLessEqual(node.end_lineno - node.lineno + 1, 40, f"{name}: {node.name}")
 
+
+class TestImports(unittest.TestCase):
     def test_imports(self):
-        own = {path.stem for path in FILES}
-        for name, tree in trees():
-            for node in ast.walk(tree):
-                self.assertNotIsInstance(node, ast.Import, name)
-                if isinstance(node, ast.ImportFrom):
-                    allowed = LIBRARY.get(node.module)
-                    if allowed is None:
-                        package, _, module = node.module.partition(".")
-                        self.assertTrue(package == "nearcurves" and module in own, f"{name}: {node.module}")
-                    else:
-                        self.assertLessEqual({alias.name for alias in node.names}, allowed, name)
+        own = {path.stem: ast.parse(path.read_text(encoding="utf-8")) for path in FILES}
+        for name, node in nodes(ast.Import):
+            self.fail(f"{name}: {node.lineno}")
+        for name, node in nodes(ast.ImportFrom):
+            allowed = LIBRARY.get(node.module)
+            names = {alias.name for alias in node.names}
+            self.assertFalse([alias for alias in node.names if alias.asname], name)
+            if allowed is None:
+                package, _, module = node.module.partition(".")
+                self.assertTrue(package == "nearcurves" and module in own, f"{name}: {node.module}")
+                allowed = {
+                    item.name if isinstance(item, (ast.FunctionDef, ast.ClassDef)) else item.targets[0].id
+                    for item in own[module].body
+                    if isinstance(item, (ast.FunctionDef, ast.ClassDef, ast.Assign))
+                }
+            self.assertLessEqual(names, allowed, name)
 
-    def test_whole_numbers_alone(self):
+    def test_no_two_files_import_from_each_other(self):
+        needs = {path.stem: set() for path in FILES}
+        for name, node in nodes(ast.ImportFrom):
+            if node.module.startswith("nearcurves."):
+                needs[name[:-3]].add(node.module.partition(".")[2])
+        while needs:
+            free = [name for name, wanted in needs.items() if not wanted & set(needs)]
+            self.assertTrue(free, needs)
+            for name in free:
+                del needs[name]
+
+    def test_imports_are_used_and_bound_once(self):
+        for name, tree in trees():
+            imported = [alias.name for node in tree.body if isinstance(node, ast.ImportFrom) for alias in node.names]
+            self.assertEqual(len(imported), len(set(imported)), name)
+            used = {node.id for node in ast.walk(tree) if isinstance(node, ast.Name) and isinstance(node.ctx, ast.Load)}
+            self.assertEqual(set(imported) - used, set(), name)
+
+
+class TestNames(unittest.TestCase):
+    def test_nothing_has_the_name_of_a_builtin_an_import_or_a_class(self):
+        for name, tree in trees():
+            imported = {alias.name for node in tree.body if isinstance(node, ast.ImportFrom) for alias in node.names}
+            classes = {node.name for node in tree.body if isinstance(node, ast.ClassDef)}
+            bound = set(bound_names(tree))
+            defined = {node.name for node in tree.body if isinstance(node, (ast.FunctionDef, ast.ClassDef))}
+            self.assertEqual(bound & (imported | classes), set(), name)
+            self.assertEqual((bound | defined | imported) & set(dir(builtins)), set(), name)
+            self.assertEqual(defined & imported, set(), name)
+
+    def test_words_that_are_not_used(self):
+        for name, node in nodes(ast.Name, ast.Attribute, ast.arg, ast.FunctionDef, ast.ClassDef, ast.keyword):
+            words = {getattr(node, field, None) for field in ("id", "attr", "arg", "name")}
+            self.assertEqual(words & UNUSED, set(), name)
+
+    def test_builtins(self):
         for name, tree in trees():
             for node in ast.walk(tree):
-                self.assertNotIsInstance(node, ast.Div, name)
-                if isinstance(node, ast.Constant):
-                    self.assertNotIsInstance(node.value, (float, complex), name)
+                if isinstance(node, ast.Name) and hasattr(builtins, node.id):
+                    self.assertIn(node.id, BUILTINS, f"{name}: {node.lineno}")
+
+    def test_methods_and_attributes(self):
+        own = {item.name for _, node in nodes(ast.ClassDef) for item in node.body if isinstance(item, ast.FunctionDef)}
+        stored = {node.attr for _, node in nodes(ast.Attribute) if isinstance(node.ctx, ast.Store)}
+        for name, node in nodes(ast.Call):
+            if isinstance(node.func, ast.Attribute):
+                self.assertIn(node.func.attr, METHODS | own, f"{name}: {node.lineno}")
+        for name, node in nodes(ast.Attribute):
+            self.assertIn(node.attr, METHODS | own | stored, f"{name}: {node.lineno}")
+        # What the document itself calls so in one class and otherwise in another one.
+        self.assertLessEqual(own & stored, {"degree", "slope"})
+        self.assertLessEqual(stored & METHODS, {"split"})
+
+    def test_underscores(self):
+        for name, tree in trees():
+            for word in bound_names(tree):
+                self.assertTrue(word == "_" or not word.startswith("_"), f"{name}: {word}")
+            for node in ast.walk(tree):
+                self.assertFalse(isinstance(node, ast.Name) and node.id == "_" and isinstance(node.ctx, ast.Load), name)
+
+
+class TestExpressions(unittest.TestCase):
+    def test_whole_numbers_alone(self):
+        for name, node in nodes(ast.Div):
+            self.fail(name)
+        for name, node in nodes(ast.Constant):
+            self.assertNotIsInstance(node.value, (float, complex), name)
+        for name, node in nodes(ast.BinOp):
+            if isinstance(node.op, ast.Pow):
+                self.assertTrue(isinstance(node.right, ast.Constant) and 0 <= node.right.value <= 64, name)
+
+    def test_strings(self):
+        for name, node in nodes(ast.Constant):
+            if isinstance(node.value, str):
+                self.assertIsNone(re.search("[%\t]", node.value), name)
 
     def test_what_is_not_used(self):
-        barred = (ast.Global, ast.AsyncFunctionDef, ast.AsyncFor, ast.AsyncWith, ast.Await)
+        barred = (
+            ast.Global, ast.Nonlocal, ast.AsyncFunctionDef, ast.AsyncFor, ast.AsyncWith, ast.Await, ast.AnnAssign, ast.Yield,
+            ast.YieldFrom, ast.AugAssign, ast.GeneratorExp, ast.Set, ast.SetComp, ast.NamedExpr, ast.Delete,
+        )
+        for name, node in nodes(*barred):
+            self.fail(f"{name}: {node.lineno}")
+        for name, node in nodes(ast.FunctionDef):
+            self.assertEqual(node.decorator_list, [], name)
+            self.assertIsNone(node.returns, name)
+            self.assertFalse([item for item in ast.walk(node) if isinstance(item, ast.FunctionDef) and item != node], name)
+
+    def test_comparisons_by_is(self):
+        for name, node in nodes(ast.Compare):
+            for sign, right in zip(node.ops, node.comparators):
+                if isinstance(sign, (ast.Is, ast.IsNot)):
+                    self.assertTrue(isinstance(right, ast.Constant) and right.value in (None, True, False), name)
+
+    def test_what_is_iterated_at_once(self):
+        at_once = {"zip", "enumerate", "reversed"}
         for name, tree in trees():
+            allowed = set()
             for node in ast.walk(tree):
-                self.assertNotIsInstance(node, barred, name)
+                if isinstance(node, (ast.For, ast.comprehension)):
+                    allowed.add(id(node.iter))
+                if isinstance(node, ast.Call) and isinstance(node.func, ast.Name):
+                    if node.func.id in {"list", "tuple", "dict", "sorted", "sum", "enumerate", "zip"}:
+                        allowed.update(id(item) for item in node.args[:1])
+            for node in ast.walk(tree):
+                if isinstance(node, ast.Call) and isinstance(node.func, ast.Name) and node.func.id in at_once:
+                    self.assertIn(id(node), allowed, f"{name}: {node.lineno}")
+
+    def test_comprehensions_within_one_another_have_their_own_names(self):
+        for name, node in nodes(*COMPREHENSIONS):
+            for inner in ast.walk(node):
+                if inner is not node and isinstance(inner, COMPREHENSIONS):
+                    self.assertEqual(targets_of(node) & targets_of(inner), set(), f"{name}: {node.lineno}")
+
+    def test_errors_that_are_caught_are_own_ones(self):
+        own = {node.name for name, node in nodes(ast.ClassDef) if name == "errors.py"}
+        for name, node in nodes(ast.ExceptHandler):
+            self.assertIn(node.type.id, own, name)
 
 
 if __name__ == "__main__":
