@@ -163,6 +163,11 @@ def zeros(poly, low, high, bits):
     """All zeros of a polynomial in an interval, as rows (one, other, times) of where they are, ascending."""
     need_zeros(poly, low, high)
     need_bits(bits)
+    return tuple(zero_rows(poly, low, high, bits))
+
+
+def zero_rows(poly, low, high, bits):
+    """The rows of all zeros in an interval, as a list, for any number of bits and a Poly of degree 0 or more."""
     ratios, rows = parted_zeros(poly)
     product = product_of(rows)
     found = []
@@ -175,7 +180,7 @@ def zeros(poly, low, high, bits):
         start = ratio
     if lower(start, high):
         found.extend(zeros_between(product, rows, start, high, bits))
-    return tuple(found)
+    return found
 
 
 def zeros_between(product, rows, low, high, bits):

@@ -5,7 +5,7 @@ from fractions import Fraction
 from math import factorial
 from random import Random
 
-from checking import is_told_ratio, product_of, worth
+from checking import is_told_ratio, product_of, row_numbers, worth
 from helping import NO_RATIOS, Asking, fraction, pair, random_poly, random_ratio
 
 from nearcurves import rows
@@ -15,14 +15,6 @@ from nearcurves.rows import (
 )
 
 NO_WHOLES = [value for value in NO_RATIOS if not (isinstance(value, int) and not isinstance(value, bool))] + [(2, 1), [4, 2]]
-
-
-def numbers(row, many):
-    """The first numbers of a row by the products of the document."""
-    found = [fraction(row.start)]
-    for k in range(many - 1):
-        found.append(found[-1] * worth(row.top, Fraction(k)) / worth(row.bottom, Fraction(k)))
-    return found
 
 
 def some_rows():
@@ -93,7 +85,7 @@ class TestRow(Asking):
 class TestNumbers(Asking):
     def test_number_at(self):
         for row in some_rows():
-            wanted = numbers(row, 12)
+            wanted = row_numbers(row, 12)
             for k in range(12):
                 self.assertEqual(fraction(number_at(row, k)), wanted[k])
                 self.assertTrue(is_told_ratio(number_at(row, k)))
@@ -135,7 +127,7 @@ class TestMadeRows(Asking):
         for row in some_rows():
             for factor in (1, -1, (1, 2), [-6, 4], 7, (-(10 ** 30), 3)):
                 times = fraction(factor)
-                wanted = [number * times ** (row.step * k + row.shift) for k, number in enumerate(numbers(row, 12))]
+                wanted = [number * times ** (row.step * k + row.shift) for k, number in enumerate(row_numbers(row, 12))]
                 self.same(scaled(row, factor), wanted, row.step, row.shift)
 
     def test_bad_factors(self):
@@ -145,14 +137,14 @@ class TestMadeRows(Asking):
     def test_powered(self):
         for row in some_rows():
             for many in (1, 2, 5):
-                self.same(powered(row, many), numbers(row, 12), row.step * many, row.shift * many)
+                self.same(powered(row, many), row_numbers(row, 12), row.step * many, row.shift * many)
 
     def test_bad_manies(self):
         for many in NO_WHOLES + [0, -1]:
             self.bad("many", many, powered, exp_row(), many)
 
     def slopes(self, row, many):
-        found = numbers(row, many + 1)
+        found = row_numbers(row, many + 1)
         if row.shift >= 1:
             return [(row.step * k + row.shift) * found[k] for k in range(many)], row.shift - 1
         return [row.step * (k + 1) * found[k + 1] for k in range(many)], row.step - 1
