@@ -98,7 +98,8 @@ def is_row_of_bar(value):
 
 
 def bar_parts(function, powers, low, high, bar):
-    """The tail and the parts of a function for a bar; None for any value that is none. TooWide()."""
+    """The tail and the parts of a function for a bar; None for any value that is none."""
+    need_hunted(function, powers, low, high)
     need_narrow(function, low, high)
     if not isinstance(bar, Bar) or not is_whole_from(bar.terms, 0) or not are_rows(bar.rows, powers, low, high):
         return None
@@ -110,7 +111,6 @@ def bar_parts(function, powers, low, high, bar):
 
 def bar_number(function, powers, low, high, bar):
     """The number of a bar; None for any value that is none."""
-    need_hunted(function, powers, low, high)
     found = bar_parts(function, powers, low, high, bar)
     if found is None:
         return None
@@ -120,7 +120,6 @@ def bar_number(function, powers, low, high, bar):
 
 def bar_share(function, powers, low, high, bar):
     """The number of a bar for shares of the function; None for any value that is none."""
-    need_hunted(function, powers, low, high)
     found = bar_parts(function, powers, low, high, bar)
     if found is None:
         return None

@@ -9,7 +9,7 @@ from nearcurves.errors import BadInterval, Fewer, Pole
 from nearcurves.functions import Mixed, Pieces, Quotient, greater_size, is_endless, is_outside, sums, tail, terms_for
 from nearcurves.polys import Poly
 from nearcurves.ratios import lower, minus, plus, share, told
-from nearcurves.signs import count_zeros
+from nearcurves.signs import Split, count_zeros, never_below
 
 MOST_BITS = 60
 
@@ -115,11 +115,18 @@ def sign_of_parts(parts, rest):
 
 def are_all_above(parts, rest):
     """Whether all parts are above a ratio at all points of their intervals."""
-    for top, bottom, low, high in parts:
-        room = top - bottom * rest
-        if not lower(0, room.at(low)) or count_zeros(room, low, high) > 0:
-            return False
-    return True
+    return all([is_above_zero(top - bottom * rest, low, high) for top, bottom, low, high in parts])
+
+
+def is_above_zero(poly, low, high):
+    """Whether a Poly is above 0 at all points of an interval."""
+    if not lower(0, poly.at(low)) or not lower(0, poly.at(high)):
+        return False
+    answer = never_below(poly, low, high)
+    if not isinstance(answer, Split):
+        return False
+    # The rest of a split is 0 at ends alone, as its zeros are single ones; so only the root could be.
+    return answer.root.degree() < 1 or count_zeros(answer.root, low, high) == 0
 
 
 def signed_parts(function, low, high, bits):

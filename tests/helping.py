@@ -43,6 +43,26 @@ class Asking(unittest.TestCase):
             function(*arguments)
         self.assertIs(caught.exception.row, row)
 
+    def keep_what_they_are_given(self, fields):
+        """That classes, a dict with the names of their attributes, keep values just as they are, and lists as tuples."""
+        for kind, names in fields.items():
+            for value in (0, None, True, "text", (2, 4), (), {}, Poly((1,)), object(), ((1, 2), [3]), 1.5):
+                made = kind(*[value] * len(names))
+                for name in names:
+                    self.assertIs(getattr(made, name), value)
+            inner = [1]
+            row = [inner, 2]
+            made = kind(*[row] * len(names))
+            row.append(3)
+            for name in names:
+                self.assertEqual(getattr(made, name), ([1], 2))
+                self.assertIs(getattr(made, name)[0], inner)
+            self.assertNotEqual(kind(*range(len(names))), kind(*range(len(names))))
+
+    def are_defined_in(self, module, *names):
+        for name in names:
+            self.assertEqual(getattr(module, name).__module__, module.__name__)
+
 
 def fraction(value):
     """A ratio, passed in any way, as a Fraction."""

@@ -410,23 +410,16 @@ class TestShares(Judging):
                 shows_share(value, ONE, wide, -1, 1, 0)
 
 
-class TestObjects(unittest.TestCase):
+class TestObjects(Asking):
     def test_they_keep_what_they_are_given(self):
-        fields = {Paper: ("terms", "above", "under"), Within: ("paper",), Beyond: ("point", "error"), Near: ("terms", "slack"),
-                  Greatest: ("least", "most", "point", "paper")}
-        for kind, names in fields.items():
-            for value in (0, None, "text", (2, 4), {}, ONE, object()):
-                made = kind(*[value] * len(names))
-                self.assertTrue(all(getattr(made, name) is value for name in names))
-            row = [[1], 2]
-            made = kind(*[row] * len(names))
-            row.append(3)
-            self.assertTrue(all(getattr(made, name) == ([1], 2) for name in names))
-            self.assertNotEqual(kind(*range(len(names))), kind(*range(len(names))))
+        self.keep_what_they_are_given({
+            Paper: ("terms", "above", "under"), Within: ("paper",), Beyond: ("point", "error"), Near: ("terms", "slack"),
+            Greatest: ("least", "most", "point", "paper"),
+        })
 
     def test_they_are_defined_here(self):
-        for name in ("Paper", "shows", "Within", "Beyond", "Near", "within", "Greatest", "enclosed_error", "within_share", "shows_share"):
-            self.assertEqual(getattr(errors_of, name).__module__, "nearcurves.errors_of")
+        self.are_defined_in(errors_of, "Paper", "shows", "Within", "Beyond", "Near", "within", "Greatest", "enclosed_error",
+                            "within_share", "shows_share")
 
     def test_long_ends(self):
         random = Random(54)

@@ -8,7 +8,7 @@ from checking import is_endless, is_told_ratio, row_numbers, sums_by_terms, tail
 from helping import NO_BITS, NO_INTERVALS, NO_RATIOS, Asking, fraction, pair, random_poly, random_ratio
 
 from nearcurves import functions
-from nearcurves.errors import BadNumber, BadRow, Fewer, Pole, TooWide, Unlike
+from nearcurves.errors import BadNumber, Fewer, Pole, TooWide, Unlike
 from nearcurves.functions import Mixed, Pieces, Quotient, least_terms, slope_of, sums, tail, value
 from nearcurves.polys import Poly, poly_of
 from nearcurves.rows import Row, atan_row, cos_row, exp_row, log_row, power_row, powered, scaled, sin_row, terms_of
@@ -90,8 +90,7 @@ class TestMaking(Asking):
 
     def test_they_are_not_compared_and_defined_here(self):
         self.assertNotEqual(Quotient(ONE, ONE), Quotient(ONE, ONE))
-        for name in ("Mixed", "Quotient", "Pieces", "sums", "tail", "least_terms", "value", "slope_of"):
-            self.assertEqual(getattr(functions, name).__module__, "nearcurves.functions")
+        self.are_defined_in(functions, "Mixed", "Quotient", "Pieces", "sums", "tail", "least_terms", "value", "slope_of")
 
 
 def some_functions():

@@ -234,6 +234,18 @@ class TestEnclosed(Judging):
             self.assertLessEqual(least, fraction(found.most))
             self.assertGreaterEqual(least * Fraction(11, 10), fraction(found.least))
 
+    def test_facts(self):
+        # On an interval within another one the least error is not greater; with more powers neither.
+        wide = self.holds(runge(), (0, 1, 2), -2, 2, 30)
+        for function, powers, low, high in ((runge(), (0, 1, 2), -1, 2), (runge(), (0, 1, 2), (1, 3), 1), (runge(), (0, 1, 2, 5), -2, 2)):
+            self.assertLessEqual(fraction(self.holds(function, powers, low, high, 30).least), fraction(wide.most))
+        # For the powers 0, .., n the errors at the points of a bar with n + 2 pairs have, nearly, unlike signs by turns.
+        found = self.holds(mixed(exp_row()), (0, 1, 2), -1, 1, 20)
+        self.assertEqual(len(found.bar.rows), 4)
+        errors = [value_near(mixed(exp_row()), fraction(point))[0] - worth(found.poly, fraction(point)) for point, _ in found.bar.rows]
+        self.assertTrue(all(one * other < 0 for one, other in zip(errors, errors[1:])))
+        self.assertTrue(all(abs(abs(error) - fraction(found.most)) < Fraction(1, 2 ** 17) for error in errors))
+
     def test_polynomials_of_the_powers(self):
         for function, powers in ((poly_of("x^2 - 3*x^5"), (2, 5)), (poly_of("x^2 - 3*x^5"), (0, 2, 3, 5)), (Poly(()), (0, 1)), (Poly(()), (3,)),
                                  (mixed(power_row(2)), (0, 1, 2)), (Quotient(poly_of("x^3 + x"), poly_of("x^2 + 1")), (1,)),
@@ -436,24 +448,22 @@ class TestLeastDegree(Judging):
             least_degree(wide, -1, 1, 0, 0, 0)
 
 
-class TestObjects(unittest.TestCase):
+class TestObjects(Asking):
     def test_they_keep_what_they_are_given(self):
-        fields = {Bar: ("terms", "rows"), Enclosed: ("poly", "least", "most", "bar", "paper"), Nearer: ("poly", "error"),
-                  LeastDegree: ("degree", "poly", "paper", "bar"), NoDegree: ("bar",), Unsure: ("degree", "bar")}
-        for kind, names in fields.items():
-            for value in (0, None, "text", (2, 4), {}, ONE, object()):
-                made = kind(*[value] * len(names))
-                self.assertTrue(all(getattr(made, name) is value for name in names))
-            row = [[1], 2]
-            made = kind(*[row] * len(names))
-            row.append(3)
-            self.assertTrue(all(getattr(made, name) == ([1], 2) for name in names))
-            self.assertNotEqual(kind(*range(len(names))), kind(*range(len(names))))
+        self.keep_what_they_are_given({
+            Bar: ("terms", "rows"), Enclosed: ("poly", "least", "most", "bar", "paper"), Nearer: ("poly", "error"),
+            LeastDegree: ("degree", "poly", "paper", "bar"), NoDegree: ("bar",), Unsure: ("degree", "bar"),
+        })
 
     def test_they_are_defined_here(self):
-        for name in ("Bar", "bar_number", "bar_share", "Enclosed", "enclosed", "enclosed_share", "is_enclosed", "is_enclosed_share", "Nearer", "one_less",
-                     "LeastDegree", "NoDegree", "Unsure", "least_degree"):
-            self.assertEqual(getattr(intervalfits, name).__module__, "nearcurves.intervalfits")
+        self.are_defined_in(intervalfits, "Bar", "bar_number", "bar_share", "Enclosed", "enclosed", "enclosed_share", "is_enclosed",
+                            "is_enclosed_share", "Nearer", "one_less", "LeastDegree", "NoDegree", "Unsure", "least_degree")
+
+    def test_equal_calls_and_arguments(self):
+        powers, low = [0, 2], [-4, 4]
+        one, other = enclosed(runge(), powers, low, 2, 20), enclosed(runge(), (0, 2), -1, 2, 20)
+        self.assertEqual((one.poly, one.least, one.most, one.bar.rows), (other.poly, other.least, other.most, other.bar.rows))
+        self.assertEqual((powers, low), ([0, 2], [-4, 4]))
 
 
 class TestHard(Judging):

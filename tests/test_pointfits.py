@@ -214,6 +214,16 @@ class TestNearest(unittest.TestCase):
             powers = tuple(sorted(random.sample(range(13), random.randrange(1, 6))))
             self.holds(points, powers)
 
+    def test_points_taken_away_and_powers_put_in(self):
+        for seed in range(15):
+            points = drawn(seed, 7, 2, seed % 2 == 0)
+            least = fraction(nearest(points, (0, 3)).error)
+            for place in range(7):
+                kept = [row[:place] + row[place + 1:] for row in (points.points, points.numbers, points.weights)]
+                self.assertLessEqual(fraction(nearest(Points(*kept), (0, 3)).error), least)
+            for powers in ((0, 1, 3), (0, 3, 4), (0, 3, 12)):
+                self.assertLessEqual(fraction(nearest(points, powers).error), least)
+
     def test_points_on_both_sides_of_0(self):
         places = [Fraction(k, 2) for k in range(-5, 6)]
         for powers in ((0, 2, 4), (1, 3), (1, 2), (3, 4, 8), (1, 5, 12)):
@@ -405,24 +415,24 @@ class TestReach(Asking):
             self.bad("e", e, is_reach, points, (0, 1), (0, 1), e, None)
 
 
-class TestObjects(unittest.TestCase):
+class TestObjects(Asking):
     def test_they_keep_what_they_are_given(self):
-        fields = {Nearest: ("poly", "error", "bar"), Barred: ("bar",), Boundless: ("poly", "way"),
-                  Reach: ("least", "most", "low", "high", "low_tie", "high_tie")}
-        for kind, names in fields.items():
-            for value in (0, None, "text", (2, 4), {}, Poly((1,)), object()):
-                made = kind(*[value] * len(names))
-                self.assertTrue(all(getattr(made, name) is value for name in names))
-            row = [[1], 2]
-            made = kind(*[row] * len(names))
-            row.append(3)
-            self.assertTrue(all(getattr(made, name) == ([1], 2) for name in names))
-            self.assertNotEqual(kind(*range(len(names))), kind(*range(len(names))))
+        self.keep_what_they_are_given({
+            Nearest: ("poly", "error", "bar"), Barred: ("bar",), Boundless: ("poly", "way"),
+            Reach: ("least", "most", "low", "high", "low_tie", "high_tie"),
+        })
 
     def test_they_are_defined_here(self):
-        for name in ("Points", "error_of", "barred", "Nearest", "nearest", "is_nearest", "Barred", "Boundless", "Reach", "bound_of", "reach",
-                     "is_reach"):
-            self.assertEqual(getattr(pointfits, name).__module__, "nearcurves.pointfits")
+        self.are_defined_in(pointfits, "Points", "error_of", "barred", "Nearest", "nearest", "is_nearest", "Barred", "Boundless", "Reach",
+                            "bound_of", "reach", "is_reach")
+
+    def test_equal_calls_and_arguments(self):
+        points, powers, row, e = drawn(5, 6, 2, True), [0, 2], [[2, 4], 1], [90, 9]
+        one, other = nearest(points, powers), nearest(points, (0, 2))
+        self.assertEqual((one.poly, one.error, one.bar), (other.poly, other.error, other.bar))
+        one, other = reach(points, powers, row, e), reach(points, (0, 2), ((1, 2), 1), 10)
+        self.assertEqual((one.least, one.most, one.low_tie, one.high_tie), (other.least, other.most, other.low_tie, other.high_tie))
+        self.assertEqual((powers, row, e), ([0, 2], [[2, 4], 1], [90, 9]))
 
 
 if __name__ == "__main__":

@@ -200,9 +200,8 @@ class TestNamedRows(Asking):
             self.bad("a", a, power_row, a)
 
     def test_they_are_defined_here(self):
-        for name in ("Row", "number_at", "terms_of", "scaled", "powered", "slope_row", "exp_row", "sin_row", "cos_row", "atan_row",
-                     "log_row", "power_row"):
-            self.assertEqual(getattr(rows, name).__module__, "nearcurves.rows")
+        self.are_defined_in(rows, "Row", "number_at", "terms_of", "scaled", "powered", "slope_row", "exp_row", "sin_row", "cos_row", "atan_row",
+                            "log_row", "power_row")
 
 
 if __name__ == "__main__":

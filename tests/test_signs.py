@@ -190,27 +190,11 @@ class TestIsSplit(Asking):
                 self.bad_interval(low, high, is_split, Poly((1,)), low, high, value)
 
 
-class TestObjects(unittest.TestCase):
+class TestObjects(Asking):
     def test_they_keep_what_they_are_given(self):
-        kinds = ((Split, ("root", "rest", "cuts")), (Below, ("point", "number")), (Floor, ("number", "split", "point")))
-        values = [0, None, True, "text", (2, 4), (), {}, Poly((1,)), object(), ((1, 2), [3]), 1.5]
-        for kind, names in kinds:
-            for value in values:
-                made = kind(*[value] * len(names))
-                for name in names:
-                    self.assertIs(getattr(made, name), value)
-            inner = [3]
-            row = [inner, 4]
-            made = kind(*[row] * len(names))
-            row.append(5)
-            for name in names:
-                self.assertEqual(getattr(made, name), ([3], 4))
-                self.assertIs(getattr(made, name)[0], inner)
-
-    def test_they_are_not_compared(self):
-        self.assertNotEqual(Split(1, 2, ()), Split(1, 2, ()))
-        self.assertNotEqual(Below(1, 2), Below(1, 2))
-        self.assertNotEqual(Floor(1, 2, 3), Floor(1, 2, 3))
+        self.keep_what_they_are_given({
+            Split: ("root", "rest", "cuts"), Below: ("point", "number"), Floor: ("number", "split", "point"),
+        })
 
     def test_equal_calls_tell_equal_things(self):
         poly = poly_of("x^4 - 4*x^2 + 5")
@@ -218,9 +202,7 @@ class TestObjects(unittest.TestCase):
         self.assertEqual((one.root, one.rest, one.cuts), (other.root, other.rest, other.cuts))
 
     def test_they_are_defined_here(self):
-        for kind in (Split, Below, Floor):
-            self.assertEqual(kind.__module__, signs.__name__)
-            self.assertIn("__init__", vars(kind))
+        self.are_defined_in(signs, "Split", "never_below", "Below", "is_split", "count_zeros", "zeros", "Floor", "least_value")
 
     def test_a_point_of_many(self):
         poly = product_of(*[Poly((-k, 7)) for k in range(7)])
