@@ -162,7 +162,6 @@ def least_share_at(poly, part, rest, point):
 
 def value_in(parts, point):
     """The value of the part whose interval has a point."""
-    for top, bottom, _, high in parts:
-        if not lower(high, point):
-            return share(top.at(point), bottom.at(point))
-    return value_in(parts[-1:], parts[-1][3])
+    ahead = [part for part in parts[:-1] if lower(part[3], point)]
+    top, bottom, _, _ = parts[len(ahead)]
+    return share(top.at(point), bottom.at(point))

@@ -14,7 +14,7 @@ from nearcurves.errors_of import (
 )
 from nearcurves.functions import Mixed, Pieces, Quotient, least_terms, tail
 from nearcurves.polys import Poly, poly_of
-from nearcurves.rows import atan_row, cos_row, exp_row, log_row, power_row, powered, scaled, sin_row
+from nearcurves.rows import Row, atan_row, cos_row, exp_row, log_row, power_row, powered, scaled, sin_row
 from nearcurves.signs import Split, never_below
 
 ONE = Poly((1,))
@@ -253,6 +253,16 @@ class TestEnclosed(Judging):
         found = self.holds(poly_of("x^2"), poly_of("x^2"), -1, 1, 60)
         self.assertEqual((found.least, found.most), ((0, 1), (0, 1)))
 
+    def test_just_multiples_of_the_gap(self):
+        # The greatest error is at points that are no ratios.
+        for shift in (Fraction(0), Fraction(1, 10 ** 30), Fraction(-1, 10 ** 30), Fraction(1, 3)):
+            for bits in (0, 5, 30, 60):
+                for sign in (1, -1):
+                    poly = Poly((pair(sign * shift),))
+                    self.holds(poly, poly_of("x^4 - 4*x^2") * sign, 0, 2, bits)
+                    quotient = Quotient(poly_of("x^4 - 4*x^2") * poly_of("x^2 + 1") * -sign, poly_of("-1 - x^2"))
+                    self.holds(poly, quotient, 1, 2, bits)
+
     def test_endless_rows(self):
         for bits in (0, 20, 60):
             self.holds(CUBE, mixed(exp_row()), -1, 1, bits)
@@ -355,6 +365,17 @@ class TestShares(Judging):
         ):
             with self.assertRaises(Pole):
                 within_share(ONE, function, low, high, 0, 0)
+
+    def test_no_more_than_60_bits(self):
+        # Its least value is its tail with 60 bits; so only more bits would tell that it is above 0.
+        row, least = Row(1, ONE, Poly((1, 1)), 1, 1), Fraction(3, 2 ** 62)
+        factor = Poly((pair(least / tail_by_sum(mixed(row), 0, 1, 10)),))
+        function = Mixed(Poly((pair(least),)), [(factor, row)])
+        self.assertEqual((least_terms(function, 0, 1, 60), tail(function, 0, 1, 10)), (10, pair(least)))
+        with self.assertRaises(Pole):
+            within_share(Poly((0, 1)), function, 0, 1, 0, 0)
+        function = Mixed(Poly((pair(least + Fraction(1, 10 ** 40)),)), [(factor, row)])
+        self.one_answer(Poly((0, 1)), function, 0, 1, 0, 0)
 
     def test_shows_share_of_any_value(self):
         for function, low, high in self.FUNCTIONS:

@@ -5,7 +5,7 @@ from fractions import Fraction
 from math import factorial
 from random import Random
 
-from checking import is_told_ratio, product_of, row_numbers, worth
+from checking import is_told_ratio, product_of, row_numbers
 from helping import NO_RATIOS, Asking, fraction, pair, random_poly, random_ratio
 
 from nearcurves import rows

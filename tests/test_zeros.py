@@ -56,6 +56,17 @@ class TestZeros(Asking):
                 self.told(poly, pair(inner[0] + Fraction(1, 10 ** 70)), pair(inner[-1] + 1), bits, rows[1:])
                 self.told(poly, pair(inner[0] - 1), pair(inner[-1] - Fraction(1, 10 ** 70)), bits, rows[:-1])
 
+    def test_leads_with_many_divisors(self):
+        # Such as all primes from 200 to 300 divide, or two zeros that are alike among the residues of many primes.
+        product = 1
+        for number in range(201, 300, 2):
+            if all(number % divisor for divisor in range(3, 18, 2)):
+                product *= number
+        for zero, other in ((Fraction(1, product), Fraction(3)), (Fraction(2, 7), Fraction(2, 7) + product), (Fraction(0), Fraction(product))):
+            poly = line(zero) * line(other) * poly_of("x^2 - 2") * (product, 5)
+            rows = [(pair(zero), pair(zero), 1), cell_of_root(Fraction(0), 1, 2, 9) + (1,), (pair(other), pair(other), 1)]
+            self.told(poly, -1, product + 1, 9, rows)
+
     def test_square_roots_with_shifts(self):
         for shift in (Fraction(0), Fraction(1, 3), Fraction(-7, 1000), Fraction(12345678901234567, 10 ** 16)):
             for inner in (2, 3, 7, 10 ** 4 + 1):
