@@ -42,13 +42,9 @@ class Pieces:
 
 
 def greater_size(low, high):
-    """The greater one of |low| and |high|."""
+    """The greater one of |low| and |high|, for low not above high."""
     size = told(high, "high")
     other = minus(0, low)
-    if lower(size, 0):
-        size = minus(0, size)
-    if lower(other, 0):
-        other = minus(0, other)
     return other if lower(size, other) else size
 
 
@@ -230,10 +226,8 @@ def exact_value(function, point):
 
 def piece_at(function, point):
     """The Poly of Pieces for a point within the knots."""
-    for end, poly in zip(function.knots[1:], function.polys):
-        if not lower(end, point):
-            return poly
-    return function.polys[-1]
+    ahead = [knot for knot in function.knots[1:-1] if lower(knot, point)]
+    return function.polys[len(ahead)]
 
 
 def slope_of(function):

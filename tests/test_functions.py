@@ -131,7 +131,7 @@ class TestSums(Asking):
     def test_narrow_rows(self):
         cases = [
             (log_row(), (1, 2), 0), (log_row(), (501, 1000), None), (log_row(), (1, 3), 0), (exp_row(), 8, 15), (exp_row(), 1, 1),
-            (exp_row(), (3, 4), 1), (exp_row(), (1, 2), 0),
+            (exp_row(), (3, 4), 1), (exp_row(), (1, 2), 0), (exp_row(), (7, 4), 3), (exp_row(), (15, 8), 3), (exp_row(), 2, 3),
             (sin_row(), 3, 1), (power_row((1, 2)), (1, 2), 0), (power_row((-7, 2)), (4, 10), 9), (power_row((-7, 2)), (1, 2), None),
             (late_row(), 1, 199), (Row(1, ONE, Poly((2,)), 1, 0), 1, 0), (Row(1, ONE, Poly((-2,)), 3, 0), (10 ** 30 + 1, 10 ** 30), None),
             (power_row(100), 8, 0), (Row(0, ONE, ONE, 1, 0), 8, 0),

@@ -315,9 +315,12 @@ class TestShares(Judging):
         function, bar = poly_of("x^2 + 1"), Bar(0, ((0, 1),))
         self.assertIs(is_enclosed_share(function, (1,), -1, 1, Enclosed(Poly(()), 1, 1, bar, None)), True)
         self.assertIs(is_enclosed_share(function, (1,), -1, 1, Enclosed(Poly(()), (2, 2), (3, 3), bar, None)), True)
-        for poly, least, most, paper in ((Poly((0, 1)), 1, 1, None), (Poly(()), 1, (9, 10), None), (Poly(()), 1, 2, None), (Poly(()), 0, 1, None),
+        for poly, least, most, paper in ((Poly((0, 1)), 1, 1, None), (Poly(((1, 9),)), 1, 1, None), (Poly(()), 1, (9, 10), None), (Poly(()), 1, 2, None), (Poly(()), 0, 1, None),
                                          (Poly(()), 1, 1, Paper(0, None, None)), (Poly(()), 1, 1, ()), (Poly(()), 1, 0, None)):
             self.assertIs(is_enclosed_share(function, (1,), -1, 1, Enclosed(poly, least, most, bar, paper)), False)
+        flat = Bar(0, ((-1, (-1, 2)), (1, (1, 2))))
+        self.assertIs(is_enclosed_share(function, (0,), -1, 1, Enclosed(Poly(()), 0, 1, flat, None)), True)
+        self.assertIs(is_enclosed_share(function, (0,), -1, 1, Enclosed(Poly(((1, 9),)), 0, 1, flat, None)), False)
 
     def test_one_thing_changed(self):
         function, powers = mixed(exp_row()), (0, 1)
