@@ -151,9 +151,7 @@ class Tied:
     """The sums of a row that polynomials have which are near to a Fit, by linear equations for ties."""
 
     def __init__(self, fit, row, e):
-        self.fit = fit
         self.row = row
-        self.e = e
         self.columns = []
         self.costs = []
         self.scales = []
