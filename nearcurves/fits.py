@@ -130,7 +130,7 @@ def first_fit_table(fit):
         costs.extend([number, -number])
         scales.extend([load, load])
     # The last column is for what is left to 1.
-    table = Table(columns + [[0] * size + [1]], [0] * size + [1])
+    table = Table(columns + [[0] * size + [1]], [0] * size + [1], list(zip(fit.heights, fit.loads)))
     table.chosen[size] = len(columns)
     return table, costs + [0], scales + [1]
 
@@ -152,6 +152,7 @@ class Tied:
 
     def __init__(self, fit, row, e):
         self.row = row
+        self.pairs = list(zip(fit.heights, fit.loads))
         self.columns = []
         self.costs = []
         self.scales = []
@@ -162,7 +163,7 @@ class Tied:
 
     def table(self, hint):
         """A Table with the columns of a hint, then as many others as there can be, without amounts below 0."""
-        table = Table(self.columns, self.row)
+        table = Table(self.columns, self.row, self.pairs)
         choose(table, [index for index in hint if index is not None])
         if None in table.chosen:
             choose(table, [index for index in table.chosen if index is not None] + first_ones(self.columns))

@@ -8,7 +8,7 @@ PATIENCE = 20
 
 def dot(one, other):
     """The sum of the products of the items of two rows."""
-    return sum([left * right for left, right in zip(one, other) if left != 0 and right != 0])
+    return sum([left * right for left, right in zip(one, other)])
 
 
 def exact_quotients(numbers, divisor):
@@ -49,11 +49,15 @@ class Table:
 
     Ahead of all columns, each row has a column of its own, with one 1 in this row, which is told by None. The lines,
     divided by below, are the inverse of the chosen columns.
+
+    Where pairs (heights, load) are told, the columns begin with two for each of them: heights and load, and the
+    negatives of heights and load; without load if there is no more room for it.
     """
 
-    def __init__(self, columns, right):
+    def __init__(self, columns, right, pairs=()):
         size = len(right)
         self.columns = columns
+        self.pairs = pairs
         self.right = right
         self.chosen = [None] * size
         self.lines = [[1 if place == row else 0 for place in range(size)] for row in range(size)]
@@ -70,6 +74,16 @@ class Table:
             if index is not None and costs[index] != 0:
                 total = [number + costs[index] * item for number, item in zip(total, line)]
         return total
+
+    def products(self, prices):
+        """The sums of products of prices and each of the columns."""
+        found = []
+        for heights, load in self.pairs:
+            high = dot(prices, heights)
+            rest = prices[-1] * load if len(heights) < len(prices) else 0
+            found.append(rest + high)
+            found.append(rest - high)
+        return found + [dot(prices, column) for column in self.columns[len(found):]]
 
     def exchange(self, row, index, weights):
         """Puts a column, with its weights, in the place of the one that is chosen for a row."""
@@ -137,8 +151,8 @@ def entering(table, costs, scales, prices, first):
     """The index of a column that costs more than its price: the first, or the one with the greatest gain."""
     best = None
     best_gain = 0
-    for index, column in enumerate(table.columns):
-        gain = costs[index] * table.below - dot(prices, column)
+    for index, product in enumerate(table.products(prices)):
+        gain = costs[index] * table.below - product
         if gain > 0 and (best is None or gain * scales[best] > best_gain * scales[index]):
             best = index
             best_gain = gain
