@@ -6,7 +6,7 @@ below 0, which are multiplied by an integer so that all of them are integers.
 
 from math import gcd
 
-from nearcurves.linear import Table, are_amounts, choose, dot, greatest_prices
+from nearcurves.linear import System, are_amounts, choose, dot, greatest_prices
 from nearcurves.polys import Poly, over_one_bottom
 from nearcurves.ratios import lowest, plus
 
@@ -49,7 +49,7 @@ def shortened(ratio, bits):
     return lowest((top << shift) // bottom, 1 << shift)
 
 
-class Fit:
+class Heights:
     """Points with numbers and weights, and the rows of integers that stand for them."""
 
     def __init__(self, points, numbers, weights, powers):
@@ -102,7 +102,7 @@ def nearest_fit(points, numbers, weights, powers, known=()):
 
     The columns that were chosen tell where to begin with further points: they may be told as known.
     """
-    fit = Fit(points, numbers, weights, powers)
+    fit = Heights(points, numbers, weights, powers)
     if known:
         answer = fit_from(fit, known)
         if answer is not None:
@@ -110,7 +110,7 @@ def nearest_fit(points, numbers, weights, powers, known=()):
     if long_bits(points, numbers, weights, powers) > LONG_BITS:
         for bits in SHORT_BITS:
             rows = [[shortened(ratio, bits) for ratio in row] for row in (points, numbers, weights)]
-            table, costs, scales = first_fit_table(Fit(rows[0], rows[1], rows[2], powers))
+            table, costs, scales = first_fit_table(Heights(rows[0], rows[1], rows[2], powers))
             greatest_prices(table, costs, scales)
             answer = fit_from(fit, table.chosen)
             if answer is not None:
@@ -119,7 +119,7 @@ def nearest_fit(points, numbers, weights, powers, known=()):
 
 
 def first_fit_table(fit):
-    """A Table, costs and scales for a Fit: the shares' sums for all powers are 0, their sizes add up to 1 at most."""
+    """A System, costs and scales: the sums of shares for all powers are 0, their sizes add up to 1 at most."""
     size = len(fit.powers)
     columns = []
     costs = []
@@ -130,7 +130,7 @@ def first_fit_table(fit):
         costs.extend([number, -number])
         scales.extend([load, load])
     # The last column is for what is left to 1.
-    table = Table(columns + [[0] * size + [1]], [0] * size + [1], list(zip(fit.heights, fit.loads)))
+    table = System(columns + [[0] * size + [1]], [0] * size + [1], list(zip(fit.heights, fit.loads)))
     table.chosen[size] = len(columns)
     return table, costs + [0], scales + [1]
 
@@ -148,7 +148,7 @@ def fit_from(fit, hint):
 
 
 class Tied:
-    """The sums of a row that polynomials have which are near to a Fit, by linear equations for ties."""
+    """The sums of a row that polynomials have which are near to some Heights, by linear equations for ties."""
 
     def __init__(self, fit, row, e):
         self.row = row
@@ -162,8 +162,8 @@ class Tied:
             self.scales.extend([load, load])
 
     def table(self, hint):
-        """A Table with the columns of a hint, then as many others as there can be, without amounts below 0."""
-        table = Table(self.columns, self.row, self.pairs)
+        """A System with the columns of a hint, then as many others as there can be, without amounts below 0."""
+        table = System(self.columns, self.row, self.pairs)
         choose(table, [index for index in hint if index is not None])
         if None in table.chosen:
             choose(table, [index for index in table.chosen if index is not None] + first_ones(self.columns))
@@ -181,7 +181,7 @@ def first_ones(columns):
 
 
 def way_of(fit, table, row):
-    """A Poly of the powers of a Fit that is 0 at all points, and whose sum for a row is not 0; None if there is none.
+    """A Poly of the powers of some Heights that is 0 at all points, and whose sum for a row is not 0; None without one.
 
     The table is one of all columns that can be chosen.
     """
@@ -197,7 +197,7 @@ def greatest_sum(points, numbers, weights, powers, row, e):
     Of the polynomials with an error of at most e, poly is one with the greatest sum, and tie a tie that shows it; way
     is None. If there is no greatest sum, they are None, None and a Poly as way_of tells it.
     """
-    fit = Fit(points, numbers, weights, powers)
+    fit = Heights(points, numbers, weights, powers)
     whole, bottom = over_one_bottom(row)
     hint = []
     if long_bits(points, numbers, weights, powers) > LONG_BITS:
@@ -219,7 +219,7 @@ def short_hint(points, numbers, weights, powers, row, e):
         rows = [[shortened(ratio, bits) for ratio in ratios] for ratios in (points, numbers, weights)]
         # Short ratios are not met as closely as long ones, so a little more room is left.
         room = plus(shortened(e, bits), (most, 1 << (bits // 2)))
-        tied = Tied(Fit(rows[0], rows[1], rows[2], powers), row, room)
+        tied = Tied(Heights(rows[0], rows[1], rows[2], powers), row, room)
         table = tied.table([])
         if greatest_prices(table, tied.costs, tied.scales) is not None:
             return table.chosen

@@ -10,7 +10,7 @@ polynomial p is the size of (p * bottom - top) / base. Bottom and base are above
 
 from nearcurves.fits import nearest_fit, power_row_of, shortened
 from nearcurves.leasts import least_multiple
-from nearcurves.linear import Table
+from nearcurves.linear import System
 from nearcurves.polys import Poly, number_of
 from nearcurves.ratios import floor_of, lower, lowest, minus, nearest_whole, plus, share, times
 from nearcurves.signs import zero_rows
@@ -307,7 +307,7 @@ def bar_rows(points, shares):
 def any_rows(points, powers):
     """The rows of some bar for powers on points that are more than the powers."""
     columns = [power_row_of(point, powers) for point in points]
-    table = Table([row for row, _ in columns], [0] * len(powers))
+    table = System([row for row, _ in columns], [0] * len(powers))
     for index, (row, factor) in enumerate(columns):
         weights = table.weighed(row)
         free = [place for place, chosen in enumerate(table.chosen) if chosen is None and weights[place] != 0]

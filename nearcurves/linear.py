@@ -44,7 +44,7 @@ def signed_residue(number, bits):
     return residue - (1 << bits) if residue >> (bits - 1) else residue
 
 
-class Table:
+class System:
     """The sum of some chosen columns, each times an amount, is the right side; there are as many as there are rows.
 
     Ahead of all columns, each row has a column of its own, with one 1 in this row, which is told by None. The lines,
