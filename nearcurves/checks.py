@@ -6,7 +6,7 @@ from nearcurves.ratios import is_ratio, is_whole, lower
 MOST_BITS = 60
 
 
-def kept(value):
+def held(value):
     """A value as objects keep it: a list as a tuple, all else just as it is."""
     return tuple(value) if isinstance(value, list) else value
 

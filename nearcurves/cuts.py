@@ -1,7 +1,7 @@
 """Functions in as few pieces as an error needs, cut at knots."""
 
 from nearcurves.aiming import ErrorCase, planted_poly
-from nearcurves.checks import is_ascending, is_whole_within, kept, need_bits
+from nearcurves.checks import held, is_ascending, is_whole_within, need_bits
 from nearcurves.errors import BadNumber, BadRow
 from nearcurves.errors_of import one_paper, papers_for, shows
 from nearcurves.functions import need_narrow
@@ -17,18 +17,18 @@ class Cuts:
     """A function in pieces: breaks at knots, a polynomial and a paper for each piece, a bar for each but the last."""
 
     def __init__(self, breaks, polys, papers, bars):
-        self.breaks = kept(breaks)
-        self.polys = kept(polys)
-        self.papers = kept(papers)
-        self.bars = kept(bars)
+        self.breaks = held(breaks)
+        self.polys = held(polys)
+        self.papers = held(papers)
+        self.bars = held(bars)
 
 
 class BarredPiece:
     """The answer that no polynomial will do from the knot with an index to the next one, as the bar shows."""
 
     def __init__(self, index, bar):
-        self.index = kept(index)
-        self.bar = kept(bar)
+        self.index = held(index)
+        self.bar = held(bar)
 
 
 def need_cuts(function, degree, e, knots, bits):

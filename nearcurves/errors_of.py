@@ -1,6 +1,6 @@
 """How far a polynomial is from a function."""
 
-from nearcurves.checks import is_whole_from, kept, need_bits, need_ratio_from_zero
+from nearcurves.checks import held, is_whole_from, need_bits, need_ratio_from_zero
 from nearcurves.errors import BadNumber, Pole
 from nearcurves.functions import Mixed, Pieces, is_endless, need_narrow
 from nearcurves.leasts import least_multiple
@@ -16,42 +16,42 @@ class Paper:
     """Shows by two Splits that an error is at most a ratio at all points of an interval."""
 
     def __init__(self, terms, above, under):
-        self.terms = kept(terms)
-        self.above = kept(above)
-        self.under = kept(under)
+        self.terms = held(terms)
+        self.above = held(above)
+        self.under = held(under)
 
 
 class Within:
     """The answer that an error is at most a ratio at all points, as the paper shows."""
 
     def __init__(self, paper):
-        self.paper = kept(paper)
+        self.paper = held(paper)
 
 
 class Beyond:
     """The answer that the error at a point is at least this one, which is too great."""
 
     def __init__(self, point, error):
-        self.point = kept(point)
-        self.error = kept(error)
+        self.point = held(point)
+        self.error = held(error)
 
 
 class Near:
     """The answer that the greatest error is so near to a ratio that these terms do not tell on which side it is."""
 
     def __init__(self, terms, slack):
-        self.terms = kept(terms)
-        self.slack = kept(slack)
+        self.terms = held(terms)
+        self.slack = held(slack)
 
 
 class Greatest:
     """The greatest error lies between two ratios: the error at the point is at least least, all are at most most."""
 
     def __init__(self, least, most, point, paper):
-        self.least = kept(least)
-        self.most = kept(most)
-        self.point = kept(point)
-        self.paper = kept(paper)
+        self.least = held(least)
+        self.most = held(most)
+        self.point = held(point)
+        self.paper = held(paper)
 
 
 def need_target(function, low, high):

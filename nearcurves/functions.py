@@ -1,6 +1,6 @@
 """Functions, and polynomials that they are near to."""
 
-from nearcurves.checks import is_ascending, is_whole_from, kept, need_bits, need_interval
+from nearcurves.checks import held, is_ascending, is_whole_from, need_bits, need_interval
 from nearcurves.errors import BadNumber, BadRow, Fewer, Pole, TooWide, Unlike
 from nearcurves.polys import Poly
 from nearcurves.ratios import is_ratio, is_ratio_row, lower, minus, plus, share, times, told
@@ -12,7 +12,7 @@ class Mixed:
     """A Poly plus the sum of all factor * row, for some pairs (factor, row)."""
 
     def __init__(self, poly, parts):
-        self.poly = kept(poly)
+        self.poly = held(poly)
         self.parts = tuple([tuple(pair) for pair in parts])
 
 

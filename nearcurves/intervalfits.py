@@ -4,7 +4,7 @@ from nearcurves.aiming import (
     ErrorCase, ShareCase, closed_in, free_rows, is_close, planted_poly, rows_size, rows_sum, safe_error,
 )
 from nearcurves.checks import (
-    is_ascending, is_judged_ratio, is_whole_from, is_whole_within, kept, need_bits, need_interval, need_ratio_from_zero,
+    held, is_ascending, is_judged_ratio, is_whole_from, is_whole_within, need_bits, need_interval, need_ratio_from_zero,
 )
 from nearcurves.errors import BadNumber, Pole
 from nearcurves.errors_of import one_paper, papers_for, shows, shows_share
@@ -22,52 +22,52 @@ class Bar:
     """Points with shares that show that no polynomial of some powers has an error below the number of the bar."""
 
     def __init__(self, terms, rows):
-        self.terms = kept(terms)
-        self.rows = kept(rows)
+        self.terms = held(terms)
+        self.rows = held(rows)
 
 
 class Enclosed:
     """The least error lies between least, the number of the bar, and most, which the paper shows for the poly."""
 
     def __init__(self, poly, least, most, bar, paper):
-        self.poly = kept(poly)
-        self.least = kept(least)
-        self.most = kept(most)
-        self.bar = kept(bar)
-        self.paper = kept(paper)
+        self.poly = held(poly)
+        self.least = held(least)
+        self.most = held(most)
+        self.bar = held(bar)
+        self.paper = held(paper)
 
 
 class Nearer:
     """The nearest polynomial of one degree less, and its error."""
 
     def __init__(self, poly, error):
-        self.poly = kept(poly)
-        self.error = kept(error)
+        self.poly = held(poly)
+        self.error = held(error)
 
 
 class LeastDegree:
     """The least degree that will do, a polynomial with its paper, and a bar for the degree less 1."""
 
     def __init__(self, degree, poly, paper, bar):
-        self.degree = kept(degree)
-        self.poly = kept(poly)
-        self.paper = kept(paper)
-        self.bar = kept(bar)
+        self.degree = held(degree)
+        self.poly = held(poly)
+        self.paper = held(paper)
+        self.bar = held(bar)
 
 
 class NoDegree:
     """The answer that no degree will do, as the bar shows."""
 
     def __init__(self, bar):
-        self.bar = kept(bar)
+        self.bar = held(bar)
 
 
 class Unsure:
     """The answer that the least error of a degree is too near to tell; lower ones are barred."""
 
     def __init__(self, degree, bar):
-        self.degree = kept(degree)
-        self.bar = kept(bar)
+        self.degree = held(degree)
+        self.bar = held(bar)
 
 
 def need_hunted(function, powers, low, high):

@@ -1,6 +1,6 @@
 """The nearest polynomial on points."""
 
-from nearcurves.checks import is_ascending, is_judged_ratio, is_whole_within, kept, need_ratio_from_zero
+from nearcurves.checks import held, is_ascending, is_judged_ratio, is_whole_within, need_ratio_from_zero
 from nearcurves.errors import BadRow
 from nearcurves.fits import greatest_sum, nearest_fit, raised
 from nearcurves.polys import Poly, number_of, over_one_bottom
@@ -32,36 +32,36 @@ class Nearest:
     """A polynomial with the least error, this error, and a bar that shows that there is no lesser one."""
 
     def __init__(self, poly, error, bar):
-        self.poly = kept(poly)
-        self.error = kept(error)
-        self.bar = kept(bar)
+        self.poly = held(poly)
+        self.error = held(error)
+        self.bar = held(bar)
 
 
 class Barred:
     """The answer that a bar leaves no polynomial."""
 
     def __init__(self, bar):
-        self.bar = kept(bar)
+        self.bar = held(bar)
 
 
 class Boundless:
     """The answer that all numbers are sums: a polynomial, and a way that changes its sum, but no value at a point."""
 
     def __init__(self, poly, way):
-        self.poly = kept(poly)
-        self.way = kept(way)
+        self.poly = held(poly)
+        self.way = held(way)
 
 
 class Reach:
     """The least and the greatest sum, polynomials that have them, and ties that show that there are no others."""
 
     def __init__(self, least, most, low, high, low_tie, high_tie):
-        self.least = kept(least)
-        self.most = kept(most)
-        self.low = kept(low)
-        self.high = kept(high)
-        self.low_tie = kept(low_tie)
-        self.high_tie = kept(high_tie)
+        self.least = held(least)
+        self.most = held(most)
+        self.low = held(low)
+        self.high = held(high)
+        self.low_tie = held(low_tie)
+        self.high_tie = held(high_tie)
 
 
 def told_row(ratios):

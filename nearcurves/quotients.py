@@ -1,6 +1,6 @@
 """Quotients of polynomials: which errors are possible on points, and how far they are from functions on intervals."""
 
-from nearcurves.checks import is_judged_ratio, is_whole_within, kept, need_bits, need_ratio_from_zero
+from nearcurves.checks import held, is_judged_ratio, is_whole_within, need_bits, need_ratio_from_zero
 from nearcurves.errors import BadNumber, Pole
 from nearcurves.errors_of import (
     Beyond, Near, Within, are_splits, have_terms, judged_papers, need_target, one_paper, papers_for,
@@ -21,24 +21,24 @@ class Fit:
     """A top and a bottom that fit, with an error that is small enough."""
 
     def __init__(self, top, bottom):
-        self.top = kept(top)
-        self.bottom = kept(bottom)
+        self.top = held(top)
+        self.bottom = held(bottom)
 
 
 class Bars:
     """Shares that show that an error is not possible."""
 
     def __init__(self, shares):
-        self.shares = kept(shares)
+        self.shares = held(shares)
 
 
 class Possible:
     """The least multiple of a gap that is possible, a Fit for it, and Bars for the multiple ahead of it."""
 
     def __init__(self, number, fit, bars):
-        self.number = kept(number)
-        self.fit = kept(fit)
-        self.bars = kept(bars)
+        self.number = held(number)
+        self.fit = held(fit)
+        self.bars = held(bars)
 
 
 def need_degrees(m, n):

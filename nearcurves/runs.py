@@ -1,6 +1,6 @@
 """Points in runs of neighbors, each with a polynomial of its own, and in pieces that are joined."""
 
-from nearcurves.checks import is_ascending, is_judged_ratio, is_whole_from, is_whole_within, kept, need_ratio_from_zero
+from nearcurves.checks import held, is_ascending, is_judged_ratio, is_whole_from, is_whole_within, need_ratio_from_zero
 from nearcurves.errors import BadNumber, BadRow, Fewer
 from nearcurves.functions import Pieces
 from nearcurves.joins import are_joined, joint_row, nearest_joined
@@ -16,28 +16,28 @@ class Runs:
     """A division into the fewest runs: their ends, a polynomial for each, and a bar for each but the last."""
 
     def __init__(self, ends, polys, bars):
-        self.ends = kept(ends)
-        self.polys = kept(polys)
-        self.bars = kept(bars)
+        self.ends = held(ends)
+        self.polys = held(polys)
+        self.bars = held(bars)
 
 
 class BestRuns:
     """The least error of so many runs, their ends and polynomials, and a chain of runs that shows it."""
 
     def __init__(self, error, ends, polys, chain):
-        self.error = kept(error)
-        self.ends = kept(ends)
-        self.polys = kept(polys)
-        self.chain = kept(chain)
+        self.error = held(error)
+        self.ends = held(ends)
+        self.polys = held(polys)
+        self.chain = held(chain)
 
 
 class Joined:
     """Joined pieces, their error, and shares that show that none have a lesser one."""
 
     def __init__(self, pieces, error, shares):
-        self.pieces = kept(pieces)
-        self.error = kept(error)
-        self.shares = kept(shares)
+        self.pieces = held(pieces)
+        self.error = held(error)
+        self.shares = held(shares)
 
 
 class Errors:

@@ -1,6 +1,6 @@
 """Signs of polynomials at all points of an interval, their zeros, and their least values."""
 
-from nearcurves.checks import is_ascending, is_judged_ratio, kept, need_bits, need_interval
+from nearcurves.checks import held, is_ascending, is_judged_ratio, need_bits, need_interval
 from nearcurves.errors import BadNumber
 from nearcurves.isolating import cell_of, has_change, zero_spots
 from nearcurves.leasts import least_multiple
@@ -18,26 +18,26 @@ class Split:
     """
 
     def __init__(self, root, rest, cuts):
-        self.root = kept(root)
-        self.rest = kept(rest)
-        self.cuts = kept(cuts)
+        self.root = held(root)
+        self.rest = held(rest)
+        self.cuts = held(cuts)
 
 
 class Below:
     """A point at which a polynomial is below 0, and its value there."""
 
     def __init__(self, point, number):
-        self.point = kept(point)
-        self.number = kept(number)
+        self.point = held(point)
+        self.number = held(number)
 
 
 class Floor:
     """A number that a polynomial is nowhere below, with a Split, and a point that tells that it is near."""
 
     def __init__(self, number, split, point):
-        self.number = kept(number)
-        self.split = kept(split)
-        self.point = kept(point)
+        self.number = held(number)
+        self.split = held(split)
+        self.point = held(point)
 
 
 def never_below(poly, low, high):
