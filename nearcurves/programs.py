@@ -1,0 +1,337 @@
+"""Programs of whole numbers, and what they tell FOR ALL inputs."""
+
+from nearcurves.checks import held, is_whole_from, is_whole_within, need_bits, need_ratio_from_zero
+from nearcurves.drifting import drift_pairs, ideals, need_plain
+from nearcurves.errors import BadLine, BadNumber, Pole, TooLarge, TooWide
+from nearcurves.functions import Mixed, Quotient, sums
+from nearcurves.peaks import Peaks, first_negative, first_unlike, peaks_of
+from nearcurves.polys import Poly, over_one_bottom
+from nearcurves.programtexts import parsed_program
+from nearcurves.ratios import is_ratio, lower, lowest, minus, plus, times, told
+from nearcurves.shapes import difference, step_classes
+from nearcurves.signs import count_zeros
+from nearcurves.targets import tail_of, terms_within
+from nearcurves.wholecorners import moved_row, value_at
+from nearcurves.wholerows import product_row
+
+MOST_INPUTS = 1 << 64
+MOST_TABLE_INPUTS = 1024
+MOST_WORD = 200
+
+
+class Program:
+    """A program, told by its text."""
+
+    def __init__(self, text):
+        if not isinstance(text, str):
+            raise BadLine(0, 0)
+        parsed = parsed_program(text)
+        self.text = text
+        self.tables = tuple(parsed.tables)
+        self.steps = tuple(parsed.steps)
+        self.names = tuple([step[0] for step in parsed.steps])
+
+    def at(self, x):
+        """What the program tells for an input."""
+        return self.all_at(x)[-1]
+
+    def all_at(self, x):
+        """The values of all steps for an input."""
+        need_input(x)
+        found = [x]
+        for _, sign, operand, other in self.steps:
+            number = operand[1] if operand[0] else found[operand[1]]
+            if sign == "[":
+                if not 0 <= number < len(self.tables[other]):
+                    raise TooWide()
+                found.append(self.tables[other][number])
+            elif sign in ("<<", ">>", "&", ""):
+                found.append(shifted(sign, number, other))
+            else:
+                found.append(joined_numbers(sign, number, other[1] if other[0] else found[other[1]]))
+        return tuple(found[1:])
+
+
+class Shape:
+    """The polynomials of a program, one for each rest of the input."""
+
+    def __init__(self, bits, polys):
+        self.bits = held(bits)
+        self.polys = held(polys)
+
+    def at(self, x):
+        """The value for an input."""
+        need_input(x)
+        return self.polys[x & ((1 << self.bits) - 1)].at(x)[0]
+
+
+class Peak:
+    """The least input with a greatest or a least value, and this value."""
+
+    def __init__(self, x, value):
+        self.x = held(x)
+        self.value = held(value)
+
+
+class Spill:
+    """The first step whose value does not fit in a word, and the least input at which one does not."""
+
+    def __init__(self, name, x):
+        self.name = held(name)
+        self.x = held(x)
+
+
+class Frame:
+    """What inputs and numbers stand for: the points low + step * x, and numbers divided by 2 ** bits."""
+
+    def __init__(self, low, step, bits):
+        if not is_ratio(low):
+            raise BadNumber("low", low)
+        if not is_ratio(step) or not lower(0, step):
+            raise BadNumber("step", step)
+        need_bits(bits)
+        self.low = told(low, "low")
+        self.step = told(step, "step")
+        self.bits = bits
+
+    def point(self, x):
+        """The point of an integer."""
+        return plus(self.low, times(self.step, x))
+
+
+class Fine:
+    """The answer that an error is small enough at all inputs."""
+
+
+class Off:
+    """The answer that the error at an input is too great."""
+
+    def __init__(self, x):
+        self.x = held(x)
+
+
+class NearBy:
+    """The answer that the greatest error is too near to tell, by twice a tail."""
+
+    def __init__(self, slack):
+        self.slack = held(slack)
+
+
+def need_input(x):
+    """BadNumber for what is no input."""
+    if not is_whole_from(x, 0):
+        raise BadNumber("x", x)
+
+
+def shifted(sign, number, count):
+    """A number shifted, or its rest, or itself."""
+    if sign == "<<":
+        return number << count
+    if sign == ">>":
+        return number >> count
+    return number & ((1 << count) - 1) if sign == "&" else number
+
+
+def joined_numbers(sign, number, other):
+    """The sum, the difference or the product of two numbers."""
+    if sign == "+":
+        return number + other
+    return number - other if sign == "-" else number * other
+
+
+def shape(program):
+    """The Shape of a program without tables."""
+    last = step_classes(program)[-1]
+    return Shape(last.bits, [Poly([(number, 1 << bits) for number in row]) for row, bits in last.rows])
+
+
+def alike(one, other):
+    """None if two programs tell the same for all inputs; otherwise the least input at which they do not."""
+    first = step_classes(one)[-1]
+    return first_unlike(first, step_classes(other)[-1], None)
+
+
+def never_falls(program):
+    """None if a program never tells less for the next input; otherwise the least input at which it does."""
+    last = step_classes(program)[-1]
+    rows = []
+    for rest, pair in enumerate(last.rows):
+        row, bits = last.row_of(rest + 1)
+        rows.append(difference((moved_row(row, 1), bits), pair))
+    return first_negative(rows, last.bits, None)
+
+
+def never_negative(program):
+    """None if a program tells at least 0 for all inputs; otherwise the least input at which it does not."""
+    last = step_classes(program)[-1]
+    return first_negative([row for row, _ in last.rows], last.bits, None)
+
+
+def values_below(program, many):
+    """The values of all steps for all inputs below many, as a list, for a program with tables; None for any other.
+
+    The errors of what looks at inputs below a bound.
+    """
+    if not is_whole_from(many, 1):
+        raise BadNumber("many", many)
+    most = MOST_TABLE_INPUTS if program.tables else MOST_INPUTS
+    if many > most:
+        raise TooLarge("many", many, most)
+    if program.tables:
+        return [program.all_at(x) for x in range(many)]
+    step_classes(program)
+    return None
+
+
+def step_peaks(program, many):
+    """The Peaks of all steps, as a list."""
+    values = values_below(program, many)
+    if values is None:
+        return [class_peaks(classes, many) for classes in step_classes(program)]
+    found = []
+    for place in range(len(program.steps)):
+        found.append(Peaks())
+        for x, row in enumerate(values):
+            found[-1].look(row[place], 1, x)
+    return found
+
+
+def class_peaks(classes, many):
+    """The Peaks of some Classes."""
+    return peaks_of([(row or (0,), (1 << bits,)) for row, bits in classes.rows], classes.bits, many)
+
+
+def greatest(program, many):
+    """The greatest value, and the least input with it."""
+    return last_peak(program, many, True)
+
+
+def least(program, many):
+    """The least value, and the least input with it."""
+    return last_peak(program, many, False)
+
+
+def last_peak(program, many, is_most):
+    """The Peak of the last step."""
+    if values_below(program, many) is None:
+        peaks = class_peaks(step_classes(program)[-1], many)
+    else:
+        peaks = step_peaks(program, many)[-1]
+    top, bottom, x = peaks.most if is_most else peaks.least
+    return Peak(x, top // bottom)
+
+
+def fits(program, many, word):
+    """None if the values of all steps fit in a word at all inputs; otherwise a Spill."""
+    if not is_whole_within(word, 1, MOST_WORD):
+        raise BadNumber("word", word)
+    values = values_below(program, many)
+    half = 1 << (word - 1)
+    if values is not None:
+        for x, row in enumerate(values):
+            for name, value in zip(program.names, row):
+                if not -half <= value < half:
+                    return Spill(name, x)
+        return None
+    spill = None
+    most = many - 1
+    for name, classes in zip(program.names, step_classes(program)):
+        rows = [difference(((half - 1,), 0), pair) for pair in classes.rows]
+        more = [difference(pair, ((-half,), 0)) for pair in classes.rows]
+        for x in (first_negative(rows, classes.bits, most), first_negative(more, classes.bits, most)):
+            if x is not None and (spill is None or x < spill.x):
+                spill = Spill(name, x)
+        # A later step is told for a lesser input alone.
+        most = most if spill is None else spill.x - 1
+    return spill
+
+
+def least_word(program, many):
+    """The least word in which all values of all steps fit at all inputs."""
+    word = 1
+    for peaks in step_peaks(program, many):
+        for top, bottom, _ in (peaks.most, peaks.least):
+            value = top // bottom
+            word = max(word, (value if value >= 0 else -1 - value).bit_length() + 1)
+    return word
+
+
+def alike_below(one, other, many):
+    """None if two programs tell the same for all inputs below many; otherwise the least one at which they do not."""
+    values = values_below(one, many)
+    others = values_below(other, many)
+    if values is None and others is None:
+        return first_unlike(step_classes(one)[-1], step_classes(other)[-1], many)
+    for x in range(many):
+        if one.at(x) != other.at(x):
+            return x
+    return None
+
+
+def error_peak(program, values, top, bottom, frame, many):
+    """The row (error top, error bottom, x) of the greatest error against top / bottom, which has no pole."""
+    tops, below = over_one_bottom(top.moved(frame.low, frame.step).numbers)
+    bottoms, factor = over_one_bottom(bottom.moved(frame.low, frame.step).numbers)
+    tops = [number * factor for number in tops] or [0]
+    bottoms = [number * below for number in bottoms]
+    if value_at(bottoms, 0, 1) < 0:
+        tops, bottoms = [-number for number in tops], [-number for number in bottoms]
+    if values is not None:
+        peaks = Peaks()
+        for x, row in enumerate(values):
+            size = value_at(bottoms, x, 1) << frame.bits
+            peaks.look(row[-1] * value_at(bottoms, x, 1) - (value_at(tops, x, 1) << frame.bits), size, x)
+        return peaks.farthest()
+    classes = step_classes(program)[-1]
+    pairs = [error_rows(pair, tops, bottoms, frame.bits) for pair in classes.rows]
+    return peaks_of(pairs, classes.bits, many).farthest()
+
+
+def error_rows(pair, tops, bottoms, bits):
+    """The rows (top, bottom) of a class's polynomial divided by 2 ** bits, less a quotient."""
+    row, shift = pair
+    product = product_row(list(row), bottoms)
+    more = bits + shift
+    return difference((product, 0), ([number << more for number in tops], 0)), [number << more for number in bottoms]
+
+
+def greatest_error(program, function, frame, many):
+    """The greatest error against a polynomial or a quotient, and the least input with it."""
+    values = values_below(program, many)
+    top, bottom = (function.top, function.bottom) if isinstance(function, Quotient) else (function, Poly((1,)))
+    low, high = frame.point(0), frame.point(many - 1)
+    if bottom.at(low)[0] == 0 or (many > 1 and count_zeros(bottom, low, high) > 0):
+        raise Pole()
+    above, below, x = error_peak(program, values, top, bottom, frame, many)
+    return Peak(x, lowest(above, below))
+
+
+def error_within(program, function, frame, many, e, bits):
+    """Whether the error against a Mixed function is at most e at all inputs: Fine, Off or NearBy."""
+    values = values_below(program, many)
+    need_ratio_from_zero(e, "e")
+    need_bits(bits)
+    low, high = frame.point(0), frame.point(many)
+    terms = terms_within(function, low, high, (1, 1 << bits))
+    rest = tail_of(function, low, high, terms)
+    near = sums(function, terms) if isinstance(function, Mixed) else function
+    above, below, x = error_peak(program, values, near, Poly((1,)), frame, many)
+    if not lower(minus(e, rest), (above, below)):
+        return Fine()
+    return Off(x) if lower(plus(e, rest), (above, below)) else NearBy(times(2, rest))
+
+
+def ideal(program):
+    """The Poly that a program without tables and rests would tell without roundings."""
+    need_plain(program)
+    return ideals(program)[-1]
+
+
+def drifts(program, many):
+    """For each step, between what ratios its value less that of its ideal is at all inputs below many."""
+    need_plain(program)
+    if not is_whole_from(many, 1):
+        raise BadNumber("many", many)
+    if many > MOST_INPUTS:
+        raise TooLarge("many", many, MOST_INPUTS)
+    return drift_pairs(program, many)
