@@ -39,7 +39,7 @@ def is_before(one, other):
 
 
 class Turns:
-    """Where rows turn, up to a most input, or everywhere if this is None. Slopes of unlike classes are often the same."""
+    """Where rows turn, up to a most input, or everywhere if this is None; slopes of many classes are the same."""
 
     def __init__(self, most):
         self.most = most
@@ -55,7 +55,7 @@ class Turns:
             self.known[key] = turns(key, self.most)
         return self.known[key]
 
-    def places(self, slope, rest, bits, last):
+    def places_for(self, slope, rest, bits, last):
         """The first place of a class, those next to zeros of a slope, and the last, unless it is None; ascending."""
         found = {0: True}
         if last is not None:
@@ -91,7 +91,7 @@ def places_of(top, bottom, rest, bits, last, known):
     slope = slope_of_row(top)
     if len(bottom) > 1:
         slope = slope_of_quotient(top, bottom)
-    return known.places(slope, rest, bits, last)
+    return known.places_for(slope, rest, bits, last)
 
 
 def slope_of_quotient(top, bottom):
@@ -137,7 +137,7 @@ def first_negative(rows, bits, most):
 def first_place(row, rest, bits, last, known):
     """The least place of a class, up to the last unless this is None, at which a row in x is below 0; or None."""
     ahead = 0
-    for place in known.places(slope_of_row(row), rest, bits, last):
+    for place in known.places_for(slope_of_row(row), rest, bits, last):
         if is_negative(row, rest, bits, place):
             return first_between(row, rest, bits, ahead, place)
         ahead = place
@@ -156,7 +156,7 @@ def is_negative(row, rest, bits, place):
 
 
 def first_between(row, rest, bits, low, high):
-    """The least place up to high at which a row is below 0: it is so at high, and turns nowhere between low and high."""
+    """The least place at which a row is below 0: it is so at high, and turns nowhere between low and high."""
     if is_negative(row, rest, bits, low):
         return low
     while high - low > 1:
