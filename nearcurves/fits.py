@@ -185,7 +185,7 @@ def way_of(fit, table, row):
 
     The table is one of all columns that can be chosen.
     """
-    for index, line in zip(table.chosen, table.lines):
+    for index, line in zip(table.chosen, table.inverse):
         if index is None and dot(line, row) != 0:
             return poly_of_powers(fit.powers, line, 1)
     return None

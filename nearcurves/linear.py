@@ -47,8 +47,8 @@ def signed_residue(number, bits):
 class System:
     """The sum of some chosen columns, each times an amount, is the right side; there are as many as there are rows.
 
-    Ahead of all columns, each row has a column of its own, with one 1 in this row, which is told by None. The lines,
-    divided by below, are the inverse of the chosen columns.
+    Ahead of all columns, each row has a column of its own, with one 1 in this row, which is told by None. The inverse
+    of the chosen columns has lines that are to be divided by below.
 
     Where pairs (heights, load) are told, the columns begin with two for each of them: heights and load, and the
     negatives of heights and load; without load if there is no more room for it.
@@ -60,17 +60,17 @@ class System:
         self.pairs = pairs
         self.right = right
         self.chosen = [None] * size
-        self.lines = [[1 if place == row else 0 for place in range(size)] for row in range(size)]
+        self.inverse = [[1 if place == row else 0 for place in range(size)] for row in range(size)]
         self.below = 1
 
     def weighed(self, column):
         """What the chosen columns are to be multiplied by for a column as their sum, times below."""
-        return [dot(line, column) for line in self.lines]
+        return [dot(line, column) for line in self.inverse]
 
     def prices(self, costs):
         """The row, times below, whose products with the chosen columns are their costs; None costs 0."""
         total = [0] * len(self.right)
-        for index, line in zip(self.chosen, self.lines):
+        for index, line in zip(self.chosen, self.inverse):
             if index is not None and costs[index] != 0:
                 total = [number + costs[index] * item for number, item in zip(total, line)]
         return total
@@ -88,9 +88,9 @@ class System:
     def exchange(self, row, index, weights):
         """Puts a column, with its weights, in the place of the one that is chosen for a row."""
         factor = weights[row]
-        pivot_line = self.lines[row]
+        pivot_line = self.inverse[row]
         lines = []
-        for place, line in enumerate(self.lines):
+        for place, line in enumerate(self.inverse):
             if place != row:
                 weight = weights[place]
                 wide = [factor * number - weight * item for number, item in zip(line, pivot_line)]
@@ -98,13 +98,13 @@ class System:
             lines.append(line)
         if factor < 0:
             lines = [[-number for number in line] for line in lines]
-        self.lines = lines
+        self.inverse = lines
         self.below = abs(factor)
         self.chosen[row] = index
 
     def turn(self, row, index):
         """Puts a column in the place of a chosen one of which it is the negative."""
-        self.lines[row] = [-number for number in self.lines[row]]
+        self.inverse[row] = [-number for number in self.inverse[row]]
         self.chosen[row] = index
 
 

@@ -204,13 +204,19 @@ def poly_of(text):
     """The Poly of a text."""
     if not isinstance(text, str):
         raise BadText(0)
-    terms, end = read_terms(text, 0)
+    poly, end = read_poly(text, 0)
     if end < len(text):
         raise BadText(end + 1)
+    return poly
+
+
+def read_poly(text, at):
+    """The Poly of the text of one that begins at an index, and the index behind it and the spaces behind it."""
+    terms, end = read_terms(text, at)
     numbers = [(0, 1)] * 13
     for number, power in terms:
         numbers[power] = plus(numbers[power], number)
-    return Poly(numbers)
+    return Poly(numbers), end
 
 
 def poly_text(poly):

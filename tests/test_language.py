@@ -140,7 +140,7 @@ class TestNames(unittest.TestCase):
         for name, node in nodes(ast.Attribute):
             self.assertIn(node.attr, METHODS | own | stored, f"{name}: {node.lineno}")
         # What the document itself calls so in one class and otherwise in another one.
-        self.assertLessEqual(own & stored, {"degree", "slope", "point"})
+        self.assertLessEqual(own & stored, {"degree", "slope", "point", "names", "kept"})
         self.assertLessEqual(stored & METHODS, {"split", "index"})
 
     def test_underscores(self):
