@@ -48,7 +48,7 @@ end
 KEPT = [
     "square at least 0 from -5 to 5", "one at least -4 from -5 to 5", "one near square by 5/4 from 0 to 1", "one near runge by 1 from 0 to 1/2",
     "taylor near exp by 1/10 from -1 to 1 gap 30", "quarter alike fourth", "fourth alike quarter", "half never falls", "half fits 8 below 256",
-    "half fits 64 below 18446744073709551616", "half near one by 1 below 100 frame 0 1/2 0", "parts fits 3 below 2", "down fits 4 below 13",
+    "half fits 64 below 18446744073709551616", "half near one by 3/2 below 100 frame 0 1/2 0", "parts fits 3 below 2", "down fits 4 below 13",
     "square at least -1/1000000 from 0 to 1", "one near one by 0 from 0 to 1", "half alike half",
 ]
 
