@@ -38,16 +38,15 @@ class Desk:
     def __init__(self, text=""):
         self.made = 0
         self.known = {}
-        self.level = Level(State({}, ()), None)
-        self.level.state = self.state_with(text)
+        self.level = Level(self.state_with(State({}, ()), text), None)
 
-    def state_with(self, text):
-        """The newest state with the items of a text."""
-        entries = dict(self.level.state.entries)
+    def state_with(self, state, text):
+        """A state and the items of a text."""
+        entries = dict(state.entries)
         for name, item in items_of(text).items():
             self.made = self.made + 1
             entries[name] = (self.made, item)
-        return State(entries, self.level.state.texts)
+        return State(entries, state.texts)
 
     def entry(self, name):
         """The pair (number, item) of any value that is the name of an item."""
@@ -62,7 +61,7 @@ class Desk:
         items = items_for(asked, {name: item for name, (_, item) in state.entries.items()})
         # Items never change; so what has been found for them once, holds.
         numbers = tuple([state.entries[name][0] for name in asked.item_names()])
-        key = (asked.sort, asked.row, numbers, tuple(asked.numbers))
+        key = (asked.kind, asked.row, numbers, tuple(asked.numbers))
         if key not in self.known:
             self.known[key] = witness_of(asked, items)
         return self.known[key]
@@ -82,7 +81,7 @@ class Desk:
 
     def put(self, text):
         """Puts the items of a text in the places of those with their names, or behind the last one."""
-        self.make(self.state_with(text))
+        self.make(self.state_with(self.level.state, text))
 
     def drop(self, name):
         """Takes an item away, and all promises that name it."""

@@ -87,7 +87,7 @@ def places_of(top, bottom, rest, bits, last, known):
     Fact: but for the ends, these are next to a zero of the slope.
     """
     if last << bits <= FEW:
-        return range(last + 1)
+        return list(range(last + 1))
     slope = slope_of_row(top)
     if len(bottom) > 1:
         slope = slope_of_quotient(top, bottom)

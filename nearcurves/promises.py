@@ -16,7 +16,7 @@ MOST_DIGITS = 20
 
 
 class Promise:
-    """What the text of a promise tells: its sort, where the names of items stand, the word of a row, and numbers."""
+    """What the text of a promise tells: its kind, where the names of items stand, the word of a row, and numbers."""
 
     def __init__(self, text):
         if not isinstance(text, str):
@@ -27,16 +27,16 @@ class Promise:
         self.row = ""
         self.numbers = []
         self.take_name()
-        self.sort = self.take_word("at", "near", "alike", "never", "fits")
-        if self.sort == "at":
+        self.kind = self.take_word("at", "near", "alike", "never", "fits")
+        if self.kind == "at":
             self.take_word("least")
             self.take_ratio()
             self.take_interval()
-        elif self.sort == "near":
+        elif self.kind == "near":
             self.take_near()
-        elif self.sort == "alike":
+        elif self.kind == "alike":
             self.take_name()
-        elif self.sort == "never":
+        elif self.kind == "never":
             self.take_word("falls")
         else:
             self.take_whole()
@@ -95,19 +95,19 @@ class Promise:
         end = run_end(self.text, start)
         if self.text[start:end] in ROW_WORDS:
             self.row, self.place = self.text[start:end], end
-            self.sort = "row"
+            self.kind = "row"
         else:
             self.take_name()
         self.take_word("by")
         self.take_ratio()
-        if self.sort == "row":
+        if self.kind == "row":
             self.take_interval()
             self.take_word("gap")
             self.take_bits()
         elif self.take_word("from", "below") == "from":
             self.take_ends()
         else:
-            self.sort = "frame"
+            self.kind = "frame"
             self.take_whole()
             self.take_word("frame")
             self.take_ratio()
@@ -128,11 +128,11 @@ class Promise:
         return "".join([*found, self.text[ahead:]])
 
 
-def may_stand(sort, place, item):
+def may_stand(kind, place, item):
     """Whether an item is of a kind that may stand in a promise at the place of its first or second name."""
-    if place == 1 and sort in ("near", "frame"):
+    if place == 1 and kind in ("near", "frame"):
         return isinstance(item, (Poly, Quotient))
-    if sort in ("at", "near", "row"):
+    if kind in ("at", "near", "row"):
         return isinstance(item, Poly)
     return isinstance(item, Program)
 
@@ -141,7 +141,7 @@ def items_for(promise, items):
     """The items that a promise names. NoName."""
     names = promise.item_names()
     for place, name in enumerate(names):
-        if name not in items or not may_stand(promise.sort, place, items[name]):
+        if name not in items or not may_stand(promise.kind, place, items[name]):
             raise NoName(name)
     return [items[name] for name in names]
 
@@ -162,20 +162,20 @@ def row_function(word):
 def witness_of(promise, items):
     """None if a promise about these items is kept; otherwise its witness."""
     numbers = promise.numbers
-    if promise.sort == "at":
+    if promise.kind == "at":
         answer = never_below(items[0] - numbers[0], numbers[1], numbers[2])
         return None if isinstance(answer, Split) else answer
-    if promise.sort in ("near", "row"):
+    if promise.kind in ("near", "row"):
         # But for rows, no bits count.
-        function = items[1] if promise.sort == "near" else row_function(promise.row)
-        bits = 0 if promise.sort == "near" else numbers[3]
+        function = items[1] if promise.kind == "near" else row_function(promise.row)
+        bits = 0 if promise.kind == "near" else numbers[3]
         answer = within(items[0], function, numbers[1], numbers[2], numbers[0], bits)
         return None if isinstance(answer, Within) else answer
-    if promise.sort == "alike":
+    if promise.kind == "alike":
         return alike(items[0], items[1])
-    if promise.sort == "never":
+    if promise.kind == "never":
         return never_falls(items[0])
-    if promise.sort == "fits":
+    if promise.kind == "fits":
         return fits(items[0], numbers[1], numbers[0])
     frame = Frame(numbers[2], numbers[3], numbers[4])
     peak = greatest_error(items[0], items[1], frame, numbers[1])

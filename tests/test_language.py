@@ -186,6 +186,14 @@ class TestExpressions(unittest.TestCase):
 
     def test_what_is_iterated_at_once(self):
         at_once = {"zip", "enumerate", "reversed"}
+        barred_names = {"items", "keys", "values", "pop", "update", "append", "clear", "extend", "insert", "remove", "reverse", "setdefault", "sort", "args", "encode", "decode", "hex", "format"}
+        for name, node in nodes(ast.Attribute):
+            self.assertFalse(isinstance(node.ctx, ast.Store) and node.attr in barred_names, f"{name}: {node.lineno}")
+        for name, node in nodes(ast.Return):
+            self.assertFalse(isinstance(node.value, ast.Call) and getattr(node.value.func, "id", "") in at_once | {"range"}, f"{name}: {node.lineno}")
+        for name, node in nodes(ast.Call):
+            for item in node.args:
+                self.assertFalse(isinstance(item, ast.Starred) and not isinstance(item.value, (ast.Name, ast.Attribute)), f"{name}: {node.lineno}")
         for name, tree in trees():
             allowed = set()
             for node in ast.walk(tree):
