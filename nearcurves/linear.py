@@ -2,8 +2,6 @@
 
 # From so many bits on, exact division by a product is faster than Python's own, which is slow for long integers.
 LONG_BITS = 4000
-# After so many steps without a gain, steps are taken in an order in which they cannot go round in a circle.
-PATIENCE = 20
 
 
 def dot(one, other):
@@ -66,6 +64,10 @@ class System:
     def weighed(self, column):
         """What the chosen columns are to be multiplied by for a column as their sum, times below."""
         return [dot(line, column) for line in self.inverse]
+
+    def weight(self, row, column):
+        """What the column chosen for a row is to be multiplied by for a column as a sum, times below; None weighs 0."""
+        return 0 if column is None else dot(self.inverse[row], column)
 
     def prices(self, costs):
         """The row, times below, whose products with the chosen columns are their costs; None costs 0."""
@@ -132,23 +134,24 @@ def greatest_prices(table, costs, scales):
 
     Costs of amounts are summed up; scales, integers above 0, tell what gains are measured by.
     """
-    stale = 0
+    start = list(table.chosen)
     while True:
         prices = table.prices(costs)
-        index = entering(table, costs, scales, prices, stale > PATIENCE)
+        index = entering(table, costs, scales, prices)
         if index is None:
             return prices
         weights = table.weighed(table.columns[index])
-        amounts = table.weighed(table.right)
-        row = leaving(table.chosen, weights, amounts)
+        row = leaving(table, weights, start)
         if row is None:
             return None
-        stale = stale + 1 if amounts[row] == 0 else 0
+        is_own = table.chosen[row] is None
         table.exchange(row, index, weights)
+        if is_own:
+            start = list(table.chosen)
 
 
-def entering(table, costs, scales, prices, first):
-    """The index of a column that costs more than its price: the first, or the one with the greatest gain."""
+def entering(table, costs, scales, prices):
+    """The index of the column with the greatest gain, if one costs more than its price."""
     best = None
     best_gain = 0
     for index, product in enumerate(table.products(prices)):
@@ -156,23 +159,33 @@ def entering(table, costs, scales, prices, first):
         if gain > 0 and (best is None or gain * scales[best] > best_gain * scales[index]):
             best = index
             best_gain = gain
-            if first:
-                return best
     return best
 
 
-def leaving(chosen, weights, amounts):
+def leaving(table, weights, start):
     """The row whose column's amount is the first to come down to 0; None if none ever is."""
+    amounts = table.weighed(table.right)
     best = None
-    for row, index in enumerate(chosen):
+    for row, index in enumerate(table.chosen):
         if index is None and weights[row] != 0:
             return row
         if weights[row] > 0:
-            if best is None:
+            if best is None or is_sooner(table, weights, amounts, start, row, best):
                 best = row
-            else:
-                one = amounts[row] * weights[best]
-                other = amounts[best] * weights[row]
-                if one < other or (one == other and index < chosen[best]):
-                    best = row
     return best
+
+
+def is_sooner(table, weights, amounts, start, row, best):
+    """Whether the amount of a row comes down to 0 ahead of that of another one.
+
+    Where both do at once, it is as if the right side had a little of the first column of the start more, far less of
+    the second one, and so on: so no two amounts do, and steps cannot go round in a circle.
+    """
+    one, other = amounts[row] * weights[best], amounts[best] * weights[row]
+    for index in start:
+        if one != other:
+            return one < other
+        column = None if index is None else table.columns[index]
+        one = weights[best] * table.weight(row, column)
+        other = weights[row] * table.weight(best, column)
+    return one < other
