@@ -13,10 +13,10 @@ class State:
         self.texts = texts
 
 
-class Level:
+class Layer:
     """The states of a desk, or of an attempt or a trial at it: the newest one, those ahead of edits, those taken back.
 
-    The level ahead is that of what stands around; None for the desk itself.
+    The layer ahead is that of what stands around; None for the desk itself.
     """
 
     def __init__(self, state, ahead):
@@ -38,7 +38,7 @@ class Desk:
     def __init__(self, text=""):
         self.made = 0
         self.known = {}
-        self.level = Level(self.state_with(State({}, ()), text), None)
+        self.layer = Layer(self.state_with(State({}, ()), text), None)
 
     def state_with(self, state, text):
         """A state and the items of a text."""
@@ -50,7 +50,7 @@ class Desk:
 
     def entry(self, name):
         """The pair (number, item) of any value that is the name of an item."""
-        entries = self.level.state.entries
+        entries = self.layer.state.entries
         if not isinstance(name, str) or name not in entries:
             raise NoName(name)
         return entries[name]
@@ -75,18 +75,18 @@ class Desk:
 
     def make(self, state):
         """Makes an edit, outside of attempts and trials if all promises are kept."""
-        if self.level.ahead is None:
+        if self.layer.ahead is None:
             self.need_kept(state)
-        self.level.edit(state)
+        self.layer.edit(state)
 
     def put(self, text):
         """Puts the items of a text in the places of those with their names, or behind the last one."""
-        self.make(self.state_with(self.level.state, text))
+        self.make(self.state_with(self.layer.state, text))
 
     def drop(self, name):
         """Takes an item away, and all promises that name it."""
         self.entry(name)
-        state = self.level.state
+        state = self.layer.state
         entries = {other: entry for other, entry in state.entries.items() if other != name}
         self.make(State(entries, tuple([text for text in state.texts if name not in Promise(text).item_names()])))
 
@@ -95,7 +95,7 @@ class Desk:
         if not is_item_name(new):
             raise BadName(new)
         self.entry(name)
-        state = self.level.state
+        state = self.layer.state
         if new in state.entries:
             raise TakenName(new)
         entries = {new if other == name else other: entry for other, entry in state.entries.items()}
@@ -103,79 +103,79 @@ class Desk:
 
     def keep(self, promise):
         """Makes a promise."""
-        state = self.level.state
+        state = self.layer.state
         self.witness_in(promise, state)
         self.make(State(state.entries, state.texts if promise in state.texts else (*state.texts, promise)))
 
     def release(self, promise):
         """Gives up a promise."""
-        state = self.level.state
+        state = self.layer.state
         if not isinstance(promise, str) or promise not in state.texts:
             raise NoName(promise)
         self.make(State(state.entries, tuple([text for text in state.texts if text != promise])))
 
     def attempt(self, action):
         """Calls a function with the desk; all that it does is one edit, or nothing if an error is raised."""
-        ahead = self.level
-        level = Level(ahead.state, ahead)
-        self.level = level
+        ahead = self.layer
+        layer = Layer(ahead.state, ahead)
+        self.layer = layer
         try:
             found = action(self)
             if ahead.ahead is None:
-                self.need_kept(level.state)
+                self.need_kept(layer.state)
         finally:
-            self.level = ahead
-        ahead.edit(level.state)
+            self.layer = ahead
+        ahead.edit(layer.state)
         return found
 
     def trial(self, action):
         """Calls a function with the desk, and leaves all as it was."""
-        ahead = self.level
-        self.level = Level(ahead.state, ahead)
+        ahead = self.layer
+        self.layer = Layer(ahead.state, ahead)
         try:
             return action(self)
         finally:
-            self.level = ahead
+            self.layer = ahead
 
     def __enter__(self):
         """Begins a trial, at the end of which all is as it was."""
-        self.level = Level(self.level.state, self.level)
+        self.layer = Layer(self.layer.state, self.layer)
         return self
 
     def __exit__(self, kind, value, trace):
-        level = self.level
-        self.level = level.ahead
+        layer = self.layer
+        self.layer = layer.ahead
 
     def undo(self):
         """Takes back the last edit that stands."""
-        level = self.level
-        if not level.past:
+        layer = self.layer
+        if not layer.past:
             raise NothingToUndo()
-        level.future.append(level.state)
-        level.state = level.past.pop()
+        layer.future.append(layer.state)
+        layer.state = layer.past.pop()
 
     def redo(self):
         """Does again the edit that was taken back last."""
-        level = self.level
-        if not level.future:
+        layer = self.layer
+        if not layer.future:
             raise NothingToRedo()
-        level.past.append(level.state)
-        level.state = level.future.pop()
+        layer.past.append(layer.state)
+        layer.state = layer.future.pop()
 
     def lines(self):
         """The text of all items."""
         rows = []
-        for name, (_, item) in self.level.state.entries.items():
+        for name, (_, item) in self.layer.state.entries.items():
             rows.extend([row + "\n" for row in item_lines(name, item)])
         return "".join(rows)
 
     def names(self):
         """The names of all items, in order."""
-        return tuple(self.level.state.entries)
+        return tuple(self.layer.state.entries)
 
     def promises(self):
         """The texts of all promises, in order."""
-        return self.level.state.texts
+        return self.layer.state.texts
 
     def get(self, name):
         """The item with a name."""
@@ -183,11 +183,11 @@ class Desk:
 
     def kept(self, promise):
         """The pair of whether a promise is kept, and its witness."""
-        witness = self.witness_in(promise, self.level.state)
+        witness = self.witness_in(promise, self.layer.state)
         return witness is None, witness
 
     def broken(self):
         """The pairs of all promises that are not kept and their witnesses."""
-        state = self.level.state
+        state = self.layer.state
         found = [(promise, self.witness_in(promise, state)) for promise in state.texts]
         return tuple([(promise, witness) for promise, witness in found if witness is not None])
