@@ -9,7 +9,8 @@ from helping import Asking, fraction
 from nearcurves import desk as desk_module
 from nearcurves.desk import Desk
 from nearcurves.errors import (
-    BadInterval, BadLine, BadName, BadNumber, BadText, CurveError, NoName, NotKept, NothingToRedo, NothingToUndo, Pole, TakenName, TooLarge, TooMany,
+    BadInterval, BadLine, BadName, BadNumber, BadText, CurveError, NoName, NotKept, NothingToRedo, NothingToUndo, Pole,
+    TakenName, TooLarge, TooMany,
     TooWide, Unlike,
 )
 from nearcurves.errors_of import Beyond, Near
@@ -46,9 +47,12 @@ end
 """
 
 KEPT = [
-    "square at least 0 from -5 to 5", "one at least -4 from -5 to 5", "one near square by 5/4 from 0 to 1", "one near runge by 1 from 0 to 1/2",
-    "taylor near exp by 1/10 from -1 to 1 gap 30", "quarter alike fourth", "fourth alike quarter", "half never falls", "half fits 8 below 256",
-    "half fits 64 below 18446744073709551616", "half near one by 3/2 below 100 frame 0 1/2 0", "parts fits 3 below 2", "down fits 4 below 13",
+    "square at least 0 from -5 to 5", "one at least -4 from -5 to 5", "one near square by 5/4 from 0 to 1",
+    "one near runge by 1 from 0 to 1/2",
+    "taylor near exp by 1/10 from -1 to 1 gap 30", "quarter alike fourth", "fourth alike quarter", "half never falls",
+    "half fits 8 below 256",
+    "half fits 64 below 18446744073709551616", "half near one by 3/2 below 100 frame 0 1/2 0", "parts fits 3 below 2",
+    "down fits 4 below 13",
     "square at least -1/1000000 from 0 to 1", "one near one by 0 from 0 to 1", "half alike half",
 ]
 
@@ -112,7 +116,8 @@ class TestPromises(DeskTests):
 
     def test_at_least(self):
         desk = Desk(TEXT)
-        for promise, low, high in (("square at least 1/100 from -5 to 5", -5, 5), ("one at least 0 from -2 to 7/3", -2, (7, 3)), ("one at least 3 from 0 to 2", 0, 2)):
+        for promise, low, high in (("square at least 1/100 from -5 to 5", -5, 5),
+            ("one at least 0 from -2 to 7/3", -2, (7, 3)), ("one at least 3 from 0 to 2", 0, 2)):
             is_kept, witness = desk.kept(promise)
             self.assertIs(is_kept, False)
             self.assertIsInstance(witness, Below)
@@ -135,7 +140,8 @@ class TestPromises(DeskTests):
         self.assertGreater(fraction(witness.error), fraction((1249, 1000)))
         is_kept, witness = desk.kept("low near runge by 1/20 from 0 to 1")
         self.assertIsInstance(witness, Beyond)
-        self.assertGreaterEqual(abs(value_near(desk.get("runge"), fraction(witness.point))[0] - fraction((9, 10))), fraction(witness.error))
+        self.assertGreaterEqual(abs(value_near(desk.get("runge"), fraction(witness.point))[0] - fraction((9, 10))),
+            fraction(witness.error))
         self.assertEqual(desk.kept("low near runge by 2/5 from 0 to 1"), (True, None))
         self.raised(BadInterval, desk.kept, "one near pole by -1 from 1 to -1", low=(1, 1), high=(-1, 1))
         self.raised(Pole, desk.kept, "one near pole by -1 from -1 to 1")
@@ -143,7 +149,8 @@ class TestPromises(DeskTests):
 
     def test_near_rows(self):
         desk = Desk("poly line = x\npoly zero = 0\npoly cosine = 1 - 1/2*x^2\npoly e1 = 1 + x")
-        for word, poly, greatest in (("exp", "e1", 0.72), ("sin", "line", 0.16), ("cos", "cosine", 0.05), ("atan", "line", 0.4), ("log", "line", 0.4)):
+        for word, poly, greatest in (("exp", "e1", 0.72), ("sin", "line", 0.16), ("cos", "cosine", 0.05),
+            ("atan", "line", 0.4), ("log", "line", 0.4)):
             end = "1/2" if word in ("atan", "log") else "1"
             self.assertEqual(desk.kept(f"{poly} near {word} by 3/4 from 0 to {end} gap 20"), (True, None))
             is_kept, witness = desk.kept(f"zero near {word} by 1/8 from 0 to {end} gap 20")
@@ -177,7 +184,8 @@ class TestPromises(DeskTests):
         self.raised(BadNumber, desk.kept, "half fits 0 below 0", what="word", number=0)
         self.raised(BadNumber, desk.kept, "half fits 201 below 0", what="word", number=201)
         self.raised(BadNumber, desk.kept, "half fits 200 below 0", what="many", number=0)
-        self.raised(TooLarge, desk.kept, "half fits 200 below 18446744073709551617", what="many", number=2 ** 64 + 1, limit=2 ** 64)
+        self.raised(TooLarge, desk.kept, "half fits 200 below 18446744073709551617", what="many", number=2 ** 64 + 1,
+            limit=2 ** 64)
         self.raised(TooLarge, desk.kept, "parts fits 200 below 1025", what="many", number=1025, limit=1024)
         self.raised(TooWide, desk.kept, "parts fits 200 below 3")
         self.raised(TooMany, desk.kept, "deep fits 200 below 3", what="classes", limit=1024)
@@ -203,7 +211,8 @@ class TestPromises(DeskTests):
         desk = Desk(TEXT)
         desk.keep("half never falls")
         for promise, kind in (
-            ("half never fall", BadText), ("other never falls", NoName), ("parts never falls", Unlike), ("one at least 1 from 1 to 0", BadInterval),
+            ("half never fall", BadText), ("other never falls", NoName), ("parts never falls", Unlike),
+            ("one at least 1 from 1 to 0", BadInterval),
         ):
             self.unchanged(desk, kind, desk.keep, promise)
             self.unchanged(desk, kind, desk.kept, promise)
@@ -246,13 +255,17 @@ class TestEdits(DeskTests):
 
     def test_drop_and_rename(self):
         desk = Desk(TEXT)
-        for promise in ("quarter alike fourth", "half never falls", " fourth  alike quarter ", "half near one by 9 below 9 frame 0 1 0", "half fits 9 below 9"):
+        for promise in ("quarter alike fourth", "half never falls", " fourth  alike quarter ",
+            "half near one by 9 below 9 frame 0 1 0", "half fits 9 below 9"):
             desk.keep(promise)
         self.assertIsNone(desk.rename("fourth", "quarters"))
         self.assertEqual(desk.promises()[:3], ("quarter alike quarters", "half never falls", " quarters  alike quarter "))
-        self.assertEqual(desk.names(), ("one", "square", "taylor", "runge", "half", "quarter", "quarters", "down", "parts", "deep"))
+        self.assertEqual(desk.names(),
+            ("one", "square", "taylor", "runge", "half", "quarter", "quarters", "down", "parts", "deep"))
         desk.rename("half", "h")
-        self.assertEqual(desk.promises(), ("quarter alike quarters", "h never falls", " quarters  alike quarter ", "h near one by 9 below 9 frame 0 1 0", "h fits 9 below 9"))
+        self.assertEqual(desk.promises(),
+            ("quarter alike quarters", "h never falls", " quarters  alike quarter ", "h near one by 9 below 9 frame 0 1 0",
+                "h fits 9 below 9"))
         desk.rename("one", "half")
         self.assertEqual(desk.promises()[3], "h near half by 9 below 9 frame 0 1 0")
         self.assertIsNone(desk.drop("quarter"))
@@ -300,7 +313,8 @@ class TestEdits(DeskTests):
         self.unchanged(desk, NotKept, desk.put, "program half\ny = x & 3\nend", promise="half never falls", witness=7)
         self.unchanged(desk, NotKept, desk.put, "poly one = x\npoly other = 3", promise="one at least -4 from -5 to 5")
         # The first one in order counts, whether it can not be asked or is not kept.
-        self.unchanged(desk, NotKept, desk.put, "program fourth\ny = 0\nend\npoly half = 1", promise="quarter alike fourth", witness=4)
+        self.unchanged(desk, NotKept, desk.put, "program fourth\ny = 0\nend\npoly half = 1", promise="quarter alike fourth",
+            witness=4)
         self.unchanged(desk, NoName, desk.put, "poly fourth = 0\nprogram half\ny = x & 3\nend", name="fourth")
         self.unchanged(desk, NoName, desk.put, "quotient one = 1 over 2", name="one")
         self.unchanged(desk, Unlike, desk.put, "program half\ntable t 1 2\ny = t[x]\nend", what="table")
@@ -314,7 +328,8 @@ class TestEdits(DeskTests):
         self.unchanged(desk, NothingToRedo, desk.redo)
         states = [(desk.lines(), desk.promises())]
         for edit in (
-            lambda: desk.put("poly b = 2"), lambda: desk.keep("a at least 1 from 0 to 1"), lambda: desk.rename("a", "c"), lambda: desk.put(""), lambda: desk.drop("b"),
+            lambda: desk.put("poly b = 2"), lambda: desk.keep("a at least 1 from 0 to 1"), lambda: desk.rename("a", "c"),
+            lambda: desk.put(""), lambda: desk.drop("b"),
             lambda: desk.release("c at least 1 from 0 to 1"), lambda: desk.drop("c"),
         ):
             self.assertIsNone(edit())
@@ -379,12 +394,15 @@ class TestAttempts(DeskTests):
         self.desk.put("poly z = 1")
         self.desk.undo()
         for kind, function in (
-            (Thrown, action), (NoName, lambda tried: tried.drop("other")), (NotKept, lambda tried: tried.put("program a\ny = 7\nend")),
-            (NoName, lambda tried: tried.put("poly a = 1")), (KeyboardInterrupt, self.interrupted), (NothingToUndo, lambda tried: tried.undo()),
+            (Thrown, action), (NoName, lambda tried: tried.drop("other")),
+            (NotKept, lambda tried: tried.put("program a\ny = 7\nend")),
+            (NoName, lambda tried: tried.put("poly a = 1")), (KeyboardInterrupt, self.interrupted),
+            (NothingToUndo, lambda tried: tried.undo()),
             (NothingToRedo, lambda tried: tried.redo()), (ZeroDivisionError, lambda tried: 1 // 0),
         ):
             self.unchanged(self.desk, kind, self.desk.attempt, function)
-        self.unchanged(self.desk, NotKept, self.desk.attempt, lambda tried: tried.put("program a\ny = 7\nend"), promise="a alike b", witness=0)
+        self.unchanged(self.desk, NotKept, self.desk.attempt, lambda tried: tried.put("program a\ny = 7\nend"),
+            promise="a alike b", witness=0)
 
     def interrupted(self, tried):
         tried.put("poly c = 1")
@@ -558,7 +576,8 @@ class TestLimits(DeskTests):
         desk = Desk("\n".join(lines))
         self.assertEqual(len(desk.names()), 12)
         made = [f"p{k} at least 0 from 0 to 100" for k in range(4)] + [f"g{k} never falls" for k in range(4)]
-        made += [f"g{k} fits 200 below 18446744073709551616" for k in range(2)] + ["g5 alike g5", "g3 near p2 by 1000000 below 1024 frame -1 1/512 30"]
+        made += [f"g{k} fits 200 below 18446744073709551616" for k in range(2)] + ["g5 alike g5",
+            "g3 near p2 by 1000000 below 1024 frame -1 1/512 30"]
         for promise in made:
             desk.keep(promise)
         self.assertEqual(desk.promises(), tuple(made))
@@ -570,7 +589,8 @@ class TestLimits(DeskTests):
     def test_where_it_is_defined(self):
         self.are_defined_in(desk_module, "Desk")
         for name in (
-            "put", "drop", "rename", "keep", "release", "attempt", "trial", "undo", "redo", "lines", "names", "promises", "get", "kept", "broken", "__enter__", "__exit__",
+            "put", "drop", "rename", "keep", "release", "attempt", "trial", "undo", "redo", "lines", "names", "promises",
+            "get", "kept", "broken", "__enter__", "__exit__",
         ):
             self.assertIn(name, vars(Desk))
         self.assertNotEqual(Desk(), Desk())

@@ -17,21 +17,32 @@ BARRED = (
 
 # Wrong lines as the only one of a text, with the column.
 WRONG = [
-    ("x", 1), ("p", 2), ("pol", 4), ("po x", 3), ("poly", 5), ("polya = 1", 5), ("polynomial a = 1", 5), ("Poly a = 1", 1), ("pr", 3), ("programs a", 8),
-    ("prig", 3), ("quo a", 4), ("end", 1), ("a = x", 1), ("table t 1", 1), ("poly ", 6), ("poly a", 7), ("poly a ", 8), ("poly a =", 9), ("poly a = ", 10),
-    ("poly a b = 1", 8), ("poly = 1", 6), ("poly 1 = 1", 6), ("poly A = 1", 6), ("poly a1b2c3d4e = 1", 14), ("poly a_ = 1", 7), ("poly a == 1", 9),
-    ("poly a = y", 10), ("poly a = 1 +", 13), ("poly a = 1 + + x", 14), ("poly a = 1x", 11), ("poly a = 1 x", 12), ("poly a = x^13", 13), ("poly a = 01", 11),
-    ("poly a = 1/0", 12), ("poly a = 1;", 11), ("poly a = 1\t", 11), ("\tpoly a = 1", 1), ("poly a = 1 over 2", 12), ("poly a = " + "1" * 41, 50),
-    ("poly a = x = 1", 12), ("quotient a = 1", 15), ("quotient a = 1 ", 16), ("quotient a = 1 2", 16), ("quotient a = 1over 2", 15), ("quotient a = 1 o", 17),
-    ("quotient a = 1 ove 2", 19), ("quotient a = 1 over", 20), ("quotient a = 1 over ", 21), ("quotient a = 1 over2", 20), ("quotient a = 1 over-2", 20),
-    ("quotient a = 1 over y", 21), ("quotient a = 1 over 2 over 3", 23), ("quotient a = 1 over 0", 22), ("quotient a = 1 over 0 ", 23), ("quotient a = 1 overt 2", 20),
-    ("quotient a = 1 over 0*x + 0", 28), ("quotient a = 1 over x - x", 26), ("quotient a = 1 over 2;", 22), ("quotient a 1 over 2", 12), ("quotient a = over 2", 14),
-    ("quotient a = 1 / 2 over 3", 16), ("quotient a = 1 * over 3", 18), ("program a =", 11), ("program a b", 11), ("program", 8), ("program ", 9), ("program 1", 9),
+    ("x", 1), ("p", 2), ("pol", 4), ("po x", 3), ("poly", 5), ("polya = 1", 5), ("polynomial a = 1", 5), ("Poly a = 1", 1),
+    ("pr", 3), ("programs a", 8),
+    ("prig", 3), ("quo a", 4), ("end", 1), ("a = x", 1), ("table t 1", 1), ("poly ", 6), ("poly a", 7), ("poly a ", 8),
+    ("poly a =", 9), ("poly a = ", 10),
+    ("poly a b = 1", 8), ("poly = 1", 6), ("poly 1 = 1", 6), ("poly A = 1", 6), ("poly a1b2c3d4e = 1", 14),
+    ("poly a_ = 1", 7), ("poly a == 1", 9),
+    ("poly a = y", 10), ("poly a = 1 +", 13), ("poly a = 1 + + x", 14), ("poly a = 1x", 11), ("poly a = 1 x", 12),
+    ("poly a = x^13", 13), ("poly a = 01", 11),
+    ("poly a = 1/0", 12), ("poly a = 1;", 11), ("poly a = 1\t", 11), ("\tpoly a = 1", 1), ("poly a = 1 over 2", 12),
+    ("poly a = " + "1" * 41, 50),
+    ("poly a = x = 1", 12), ("quotient a = 1", 15), ("quotient a = 1 ", 16), ("quotient a = 1 2", 16),
+    ("quotient a = 1over 2", 15), ("quotient a = 1 o", 17),
+    ("quotient a = 1 ove 2", 19), ("quotient a = 1 over", 20), ("quotient a = 1 over ", 21), ("quotient a = 1 over2", 20),
+    ("quotient a = 1 over-2", 20),
+    ("quotient a = 1 over y", 21), ("quotient a = 1 over 2 over 3", 23), ("quotient a = 1 over 0", 22),
+    ("quotient a = 1 over 0 ", 23), ("quotient a = 1 overt 2", 20),
+    ("quotient a = 1 over 0*x + 0", 28), ("quotient a = 1 over x - x", 26), ("quotient a = 1 over 2;", 22),
+    ("quotient a 1 over 2", 12), ("quotient a = over 2", 14),
+    ("quotient a = 1 / 2 over 3", 16), ("quotient a = 1 * over 3", 18), ("program a =", 11), ("program a b", 11),
+    ("program", 8), ("program ", 9), ("program 1", 9),
 ]
 
 # Wrong lines within "program a" behind a line "s = x".
 WRONG_WITHIN = [
-    ("end x", 5), ("end;", 4), ("endx", 5), ("poly b = 1", 6), ("program b", 9), ("quotient b = 1 over 2", 10), ("s = 1", 1), ("y = z", 5), ("table t 1", 6), ("ed = ", 6),
+    ("end x", 5), ("end;", 4), ("endx", 5), ("poly b = 1", 6), ("program b", 9), ("quotient b = 1 over 2", 10),
+    ("s = 1", 1), ("y = z", 5), ("table t 1", 6), ("ed = ", 6),
     ("y = x << 61", 11), ("poly", 5), ("e", 2), ("END", 1),
 ]
 
@@ -39,7 +50,8 @@ WRONG_WITHIN = [
 class TestItems(Asking):
     def wrong(self, text, line, column):
         desk = Desk("poly keep1 = x")
-        for function in (Desk, desk.put, lambda it: desk.attempt(lambda tried: tried.put(it)), lambda it: desk.trial(lambda tried: tried.put(it))):
+        for function in (Desk, desk.put, lambda it: desk.attempt(lambda tried: tried.put(it)),
+            lambda it: desk.trial(lambda tried: tried.put(it))):
             with self.assertRaises(BadLine) as caught:
                 function(text)
             self.assertEqual((caught.exception.line, caught.exception.column), (line, column), text)
@@ -74,17 +86,20 @@ class TestItems(Asking):
 
     def test_names_told_twice(self):
         for one in ("poly a = 1", "quotient a = 1 over 2", "program a\ny = x\nend"):
-            for other, column in (("poly a = 1", 6), ("quotient a = 1 over 2", 10), ("program a", 9), ("poly a = !", 6), ("  poly  a", 9)):
+            for other, column in (("poly a = 1", 6), ("quotient a = 1 over 2", 10), ("program a", 9), ("poly a = !", 6),
+                ("  poly  a", 9)):
                 self.wrong(one + "\n" + other, one.count("\n") + 2, column)
         self.assertEqual(Desk("poly a = 1\npoly ab = 2").names(), ("a", "ab"))
 
     def test_unended_programs(self):
         for text, line in (
-            ("program a", 2), ("program a\n", 2), ("program a\n\n", 3), ("program a\ny = x", 3), ("program a\ny = x\n", 3), ("program a\ny = x\n  ", 4),
+            ("program a", 2), ("program a\n", 2), ("program a\n\n", 3), ("program a\ny = x", 3), ("program a\ny = x\n", 3),
+            ("program a\ny = x\n  ", 4),
             ("poly b = 1\nprogram a\ny = x\nend3 = y\n", 5), ("program a\ntable t 1", 3),
         ):
             self.wrong(text, line, 1)
-        for text, line in (("program a\nend", 2), ("program a\n\n  end", 3), ("program a\ntable t 1\nend\n", 3), ("poly b = 1\nprogram a\nend\n!", 3)):
+        for text, line in (("program a\nend", 2), ("program a\n\n  end", 3), ("program a\ntable t 1\nend\n", 3),
+            ("poly b = 1\nprogram a\nend\n!", 3)):
             self.wrong(text, line, 1)
 
     def test_what_is_no_string(self):
@@ -139,8 +154,10 @@ FORMS = [
 ]
 ROWS = ("exp", "sin", "cos", "atan", "log")
 RIGHT = [
-    "a at least -1/2 from 0 to 1", "  ab3  at   least 7  from -3/4  to 12/5  ", "a near b by 1/3 from -1 to 1", "p near exp by 1/1000 from -1 to 1 gap 30",
-    "p near log by 0 from -1/2 to 1/2 gap 0", "a alike b", "prog1 never falls", "a fits 64 below 18446744073709551616", "a near b by 1/8 below 1024 frame -1 1/512 60",
+    "a at least -1/2 from 0 to 1", "  ab3  at   least 7  from -3/4  to 12/5  ", "a near b by 1/3 from -1 to 1",
+    "p near exp by 1/1000 from -1 to 1 gap 30",
+    "p near log by 0 from -1/2 to 1/2 gap 0", "a alike b", "prog1 never falls", "a fits 64 below 18446744073709551616",
+    "a near b by 1/8 below 1024 frame -1 1/512 60",
     "expo near sin3 by 1 from 0 to 1", " a  alike  a ",
 ]
 
@@ -235,16 +252,21 @@ class TestPromises(Asking):
         for text in RIGHT:
             words = text.split()
             for place in range(len(words)):
-                for word in [*BARRED, "61", "60", "6", "-5", "5/0", "05", "0", "1" * 20, "1" * 21, "1" * 40, "1" * 41, "1/" + "1" * 41, "-", "--1", "abcdefghi"]:
+                for word in [*BARRED, "61", "60", "6", "-5", "5/0", "05", "0", "1" * 20, "1" * 21, "1" * 40, "1" * 41,
+                    "1/" + "1" * 41, "-", "--1", "abcdefghi"]:
                     new = " ".join([*words[:place], word, *words[place + 1:]])
                     self.assertEqual(self.told_column(new), column_of(new), new)
 
     def test_by_hand(self):
         for text, column in (
-            ("", 1), (" ", 2), ("a", 2), ("a ", 3), ("a n", 4), ("a nx", 4), ("a neverfalls", 8), ("a never fallsx", 14), ("near near b by 1 from 0 to 1", 5),
-            ("quotient alike b", 8), ("a near exp by 1 from 0 to 1", 28), ("a near exp by 1 below", 17), ("a near b by 1 from 0 to 1 gap 3", 27),
-            ("a near exp by 1 from 0 to 1 gap 61", 34), ("a near exp by 1 from 0 to 1 gap 612", 34), ("a near exp by 1 from 0 to 1 gap 06", 34), ("a fits -1 below 3", 8),
-            ("a at least 1/0 from 0 to 1", 14), ("a at least - 1 from 0 to 1", 13), ("a fits 8 below 123456789012345678901", 36), ("x alike b", 2), ("a alike table", 14),
+            ("", 1), (" ", 2), ("a", 2), ("a ", 3), ("a n", 4), ("a nx", 4), ("a neverfalls", 8), ("a never fallsx", 14),
+            ("near near b by 1 from 0 to 1", 5),
+            ("quotient alike b", 8), ("a near exp by 1 from 0 to 1", 28), ("a near exp by 1 below", 17),
+            ("a near b by 1 from 0 to 1 gap 3", 27),
+            ("a near exp by 1 from 0 to 1 gap 61", 34), ("a near exp by 1 from 0 to 1 gap 612", 34),
+            ("a near exp by 1 from 0 to 1 gap 06", 34), ("a fits -1 below 3", 8),
+            ("a at least 1/0 from 0 to 1", 14), ("a at least - 1 from 0 to 1", 13),
+            ("a fits 8 below 123456789012345678901", 36), ("x alike b", 2), ("a alike table", 14),
         ):
             self.assertEqual(self.told_column(text), column, text)
             self.assertEqual(column_of(text), column, text)
@@ -260,10 +282,14 @@ class TestPromises(Asking):
     def test_names_of_no_item(self):
         desk = Desk("poly p = x\nquotient q = 1 over 2\nprogram g\ny = x\nend")
         for text, name in (
-            ("b at least 1 from 0 to 1", "b"), ("q at least 1 from 1 to 0", "q"), ("g at least 1 from 0 to 1", "g"), ("b near c by 1 from 0 to 1", "b"),
-            ("q near p by 1 from 0 to 1", "q"), ("g near p by 1 from 0 to 1", "g"), ("p near g by 1 from 0 to 1", "g"), ("p near c by 1 from 0 to 1", "c"),
-            ("q near exp by 1 from 0 to 1 gap 3", "q"), ("g near exp by 1 from 0 to 1 gap 3", "g"), ("p alike g", "p"), ("g alike p", "p"), ("q alike p", "q"),
-            ("g alike h", "h"), ("p never falls", "p"), ("q fits 3 below 0", "q"), ("p near q by 1 below 4 frame 0 1 3", "p"), ("q near q by 1 below 4 frame 0 1 3", "q"),
+            ("b at least 1 from 0 to 1", "b"), ("q at least 1 from 1 to 0", "q"), ("g at least 1 from 0 to 1", "g"),
+            ("b near c by 1 from 0 to 1", "b"),
+            ("q near p by 1 from 0 to 1", "q"), ("g near p by 1 from 0 to 1", "g"), ("p near g by 1 from 0 to 1", "g"),
+            ("p near c by 1 from 0 to 1", "c"),
+            ("q near exp by 1 from 0 to 1 gap 3", "q"), ("g near exp by 1 from 0 to 1 gap 3", "g"), ("p alike g", "p"),
+            ("g alike p", "p"), ("q alike p", "q"),
+            ("g alike h", "h"), ("p never falls", "p"), ("q fits 3 below 0", "q"),
+            ("p near q by 1 below 4 frame 0 1 3", "p"), ("q near q by 1 below 4 frame 0 1 3", "q"),
             ("g near g by 1 below 4 frame 0 1 3", "g"), ("g near h by -1 below 0 frame 0 0 3", "h"),
         ):
             for function in (desk.keep, desk.kept, lambda it: desk.trial(lambda tried: tried.keep(it))):
@@ -274,7 +300,8 @@ class TestPromises(Asking):
 
     def test_names_for_renames(self):
         desk = Desk("poly p = x")
-        for new in [*BARRED, "", "P", "1p", "p_", "abcdefghi", "p ", " p", "\xe9", "p\n", None, 3, b"p", ("p",), ["p"], Poly((1,))]:
+        for new in [*BARRED, "", "P", "1p", "p_", "abcdefghi", "p ", " p", "\xe9", "p\n", None, 3, b"p", ("p",), ["p"],
+            Poly((1,))]:
             for name in ("p", "other", None):
                 with self.assertRaises(BadName) as caught:
                     desk.rename(name, new)

@@ -24,7 +24,8 @@ HALVES = ((1, 2), (1, 4))
 THREE = (1, (1, 2), (1, 4))
 
 NO_STEPS = [
-    (), [], None, 1, "1", (0,), (1, 0), (1, -1), (1, (1, 0)), (1, (0, 1)), (True,), (1.0,), (1,) * 6, {1: 1}, (None,), ((1, 2, 3),),
+    (), [], None, 1, "1", (0,), (1, 0), (1, -1), (1, (1, 0)), (1, (0, 1)), (True,), (1.0,), (1,) * 6, {1: 1}, (None,),
+    ((1, 2, 3),),
     Poly((1, 1)), range(2), ((1, 2), (-1, 2)),
 ]
 NO_ES = [value for value in NO_RATIOS if value is not None] + [None, -1, (-1, 2), [-1, 3]]
@@ -144,7 +145,8 @@ class TestRows(Asking):
 class TestGrids(Asking):
     def test_all_rows(self):
         for points, steps, reach in (
-            (CURVE, (1,), 9), (CURVE, ((1, 4),), 30), (CURVE, HALVES, 12), (CURVE, THREE, 9), (EVEN, HALVES, 9), (EVEN, THREE, 9),
+            (CURVE, (1,), 9), (CURVE, ((1, 4),), 30), (CURVE, HALVES, 12), (CURVE, THREE, 9), (EVEN, HALVES, 9),
+            (EVEN, THREE, 9),
             (FLAT, ((1, 3),), 9), (FLAT, (1, 1), 9), (ALONE, ((1, 7),), 9),
         ):
             found = rows_near(points, steps, reach)
@@ -194,7 +196,8 @@ class TestGrids(Asking):
 
     def test_errors_in_their_order(self):
         for steps in ((1, 1), [1, 2, 3]):
-            for function, rest in ((all_on_grid, (None,)), (best_on_grid, ()), (ranges, (None,)), (are_ranges, (None, None))):
+            for function, rest in ((all_on_grid, (None,)), (best_on_grid, ()), (ranges, (None,)),
+                (are_ranges, (None, None))):
                 with self.assertRaises(Fewer) as caught:
                     function(ALONE, steps, *rest)
                 self.assertEqual(caught.exception.what, "points")
@@ -222,14 +225,17 @@ class TestGrids(Asking):
         paper = ranges(CURVE, THREE, e)
         self.assertGreater(len(paper), 3)
         first, last = paper[0], paper[-1]
-        for other in (list(paper), paper[:-1], paper[1:], (*paper, last), (last, *paper), paper[::-1], (), None, 3, "ab", (1,), [1]):
+        for other in (list(paper), paper[:-1], paper[1:], (*paper, last), (last, *paper), paper[::-1], (), None, 3, "ab",
+            (1,), [1]):
             self.assertFalse(are_ranges(CURVE, THREE, e, other))
         self.assertFalse(are_ranges(CURVE, THREE, (1, 1000), ()))
         for item, rebuilt in ((first, lambda new: (new, *paper[1:])), (last, lambda new: (*paper[:-1], new))):
             for fields in (
-                {"start": (5, 5, 5)}, {"start": None}, {"start": (*item.start[:-1], True)}, {"low": None}, {"low": True}, {"high": "1"},
+                {"start": (5, 5, 5)}, {"start": None}, {"start": (*item.start[:-1], True)}, {"low": None}, {"low": True},
+                {"high": "1"},
                 {"high": item.low - 2}, {"below": None}, {"above": ()}, {"above": item.below}, {"below": item.above},
-                {"below": item.below[:-1]}, {"above": tuple(map(list, item.above))}, {"above": [1, 2]}, {"low": (item.low, 1)},
+                {"below": item.below[:-1]}, {"above": tuple(map(list, item.above))}, {"above": [1, 2]},
+                {"low": (item.low, 1)},
                 {"above": tuple((index, [*part]) for index, part in item.above)},
                 {"above": tuple((index, (part[0] + part[1], part[1])) for index, part in item.above)},
                 {"above": (*item.above, (99, (1, 1)))},
@@ -314,7 +320,8 @@ class TestFewestBits(Asking):
 
     def test_sizes(self):
         random = Random(64)
-        points = Points([(k, 16) for k in range(16)], [(random.randrange(-10 ** 59, 10 ** 59), 10 ** 59) for _ in range(16)])
+        points = Points([(k, 16) for k in range(16)],
+            [(random.randrange(-10 ** 59, 10 ** 59), 10 ** 59) for _ in range(16)])
         least = nearest(points, (0, 1, 2, 3, 4)).error
         bits = fewest_bits(points, 4, (least[0] * 101, least[1] * 100))
         self.assertLessEqual(bits, 16)
@@ -328,7 +335,8 @@ class TestClasses(Asking):
 
     def test_where_they_are_defined(self):
         self.are_defined_in(
-            grids, "OnGrid", "Range", "on_grid", "grid_poly", "nearest_row", "all_on_grid", "best_on_grid", "ranges", "are_ranges",
+            grids, "OnGrid", "Range", "on_grid", "grid_poly", "nearest_row", "all_on_grid", "best_on_grid", "ranges",
+            "are_ranges",
             "fewest_bits",
         )
 

@@ -12,7 +12,8 @@ from nearcurves.blocks import least_shifted
 from nearcurves.errors import BadNumber, Pole, TooWide, Unlike
 from nearcurves.functions import Mixed, Pieces, Quotient
 from nearcurves.makers import (
-    Hard, Kept, LineBar, Lines, NoKept, NoShift, NoTable, Rounding, Table, TableBar, hardest, horner, is_kept, is_lines, is_shift,
+    Hard, Kept, LineBar, Lines, NoKept, NoShift, NoTable, Rounding, Table, TableBar, hardest, horner, is_kept, is_lines,
+    is_shift,
     is_table, kept_row, least_kept, least_lines, least_shift, least_table, program_of, rounding,
 )
 from nearcurves.polys import Poly
@@ -34,11 +35,14 @@ NO_ES = [*NO_RATIOS, -1, (-1, 2)]
 # Function, frame, width, bits of the gap.
 CASES = [
     (CUBIC, Frame(-1, (1, 16), 4), 5, 0), (LINE, Frame(0, (1, 8), 3), 4, 60), (RUNGE, Frame((-1, 2), (1, 32), 6), 5, 3),
-    (BENT, Frame(0, (1, 16), 5), 4, 9), (SQUARE, Frame(0, (1, 8), 2), 4, 7), (EXP, Frame(-1, (1, 16), 5), 5, 20), (EXP, Frame(0, (1, 4), 0), 3, 0),
-    (BOTH, Frame((-1, 4), (1, 32), 7), 4, 30), (LOG, Frame(0, (1, 64), 6), 5, 40), (Poly(()), Frame(0, 1, 0), 2, 5), (Poly(((1, 2),)), Frame(0, 1, 0), 2, 5),
+    (BENT, Frame(0, (1, 16), 5), 4, 9), (SQUARE, Frame(0, (1, 8), 2), 4, 7), (EXP, Frame(-1, (1, 16), 5), 5, 20),
+    (EXP, Frame(0, (1, 4), 0), 3, 0),
+    (BOTH, Frame((-1, 4), (1, 32), 7), 4, 30), (LOG, Frame(0, (1, 64), 6), 5, 40), (Poly(()), Frame(0, 1, 0), 2, 5),
+    (Poly(((1, 2),)), Frame(0, 1, 0), 2, 5),
     (Poly((0, (1, 2))), Frame(0, 1, 0), 3, 5),
 ]
-BOUNDS = [Fraction(0), Fraction(1, 4), Fraction(1, 2), Fraction(3, 4), Fraction(1), Fraction(5, 3), Fraction(4), Fraction(100)]
+BOUNDS = [Fraction(0), Fraction(1, 4), Fraction(1, 2), Fraction(3, 4), Fraction(1), Fraction(5, 3), Fraction(4),
+    Fraction(100)]
 # Values of rows are known up to this, and no bound that is asked comes so near.
 TINY = Fraction(1, 2 ** 70)
 
@@ -105,7 +109,8 @@ class MakerTests(Asking):
         self.assertIs(judge(*arguments, answer), True)
         for fields in others:
             self.assertIs(judge(*arguments, changed(answer, **fields)), False, fields)
-        for other in (None, 0, True, "text", (), [], tuple(vars(answer).values()), object(), Hard(1, 2, 3), Rounding((), ())):
+        for other in (None, 0, True, "text", (), [], tuple(vars(answer).values()), object(), Hard(1, 2, 3),
+            Rounding((), ())):
             self.assertIs(judge(*arguments, other), False)
 
 
@@ -158,7 +163,8 @@ class TestRounding(MakerTests):
                 self.assertEqual(len(told), min(many, 2 ** width))
                 if gap == 0:
                     order = sorted(range(2 ** width), key=lambda x: (distances[x], x))
-                    self.assertEqual([vars(item) for item in told], [{"x": x, "least": pair(distances[x]), "most": pair(distances[x])} for x in order[:many]])
+                    self.assertEqual([vars(item) for item in told],
+                        [{"x": x, "least": pair(distances[x]), "most": pair(distances[x])} for x in order[:many]])
                 for item in told:
                     self.assertTrue(fraction(item.least) - TINY <= distances[item.x] <= fraction(item.most) + TINY)
                     self.assertLessEqual(fraction(item.most) - fraction(item.least), gap)
@@ -207,7 +213,8 @@ class TestTables(MakerTests):
                 if isinstance(told, Table):
                     seen.add(told.high)
                     program = program_of(told, width)
-                    self.assertEqual([program.at(x) for x in range(2 ** width)], [told.entries[x >> (width - told.high)] for x in range(2 ** width)])
+                    self.assertEqual([program.at(x) for x in range(2 ** width)],
+                        [told.entries[x >> (width - told.high)] for x in range(2 ** width)])
                 else:
                     seen.add(None)
         self.assertLessEqual({None, 0, 1, 2, 3, 4, 5}, seen)
@@ -228,21 +235,26 @@ class TestTables(MakerTests):
         arguments = (half, frame, 3, (1, 2), 0)
         told = Table(2, (0, 1, 2, 3), TableBar(0, 0, 3))
         self.judged(is_table, arguments, told, [
-            {"high": 3}, {"high": 1}, {"high": True}, {"high": None}, {"high": -1}, {"entries": (0, 1, 2)}, {"entries": (0, 1, 2, 3, 3)}, {"entries": None},
-            {"entries": (0, 1, 2, 2)}, {"entries": (0, True, 2, 3)}, {"entries": (0, (1, 1), 2, 3)}, {"entries": "0123"}, {"entries": {0: 1}}, {"bar": None},
-            {"bar": TableBar(0, 0, 1)}, {"bar": TableBar(0, 3, 0)}, {"bar": TableBar(1, 0, 3)}, {"bar": TableBar(0, 0, 4)}, {"bar": TableBar(2, 0, 3)},
-            {"bar": TableBar(False, 0, 3)}, {"bar": TableBar(0, False, 3)}, {"bar": TableBar(0, 0, "3")}, {"bar": TableBar(0, (0,), 3)}, {"bar": (0, 0, 3)},
+            {"high": 3}, {"high": 1}, {"high": True}, {"high": None}, {"high": -1}, {"entries": (0, 1, 2)},
+            {"entries": (0, 1, 2, 3, 3)}, {"entries": None},
+            {"entries": (0, 1, 2, 2)}, {"entries": (0, True, 2, 3)}, {"entries": (0, (1, 1), 2, 3)}, {"entries": "0123"},
+            {"entries": {0: 1}}, {"bar": None},
+            {"bar": TableBar(0, 0, 1)}, {"bar": TableBar(0, 3, 0)}, {"bar": TableBar(1, 0, 3)}, {"bar": TableBar(0, 0, 4)},
+            {"bar": TableBar(2, 0, 3)},
+            {"bar": TableBar(False, 0, 3)}, {"bar": TableBar(0, False, 3)}, {"bar": TableBar(0, 0, "3")},
+            {"bar": TableBar(0, (0,), 3)}, {"bar": (0, 0, 3)},
             {"bar": TableBar(None, None, None)}, {"bar": TableBar(0, 0, 0)}, {"bar": TableBar(0, -1, 3)},
         ])
         self.assertTrue(is_table(*arguments, Table(2, [0, 1, 2, 3], TableBar(1, 4, 7))))
         self.assertFalse(is_table(*arguments, NoTable(1)))
-        self.judged(is_table, (half, frame, 3, (1, 4), 0), NoTable(1), [{"x": 0}, {"x": 8}, {"x": -1}, {"x": True}, {"x": None}, {"x": "1"}, {"x": (1,)}])
+        self.judged(is_table, (half, frame, 3, (1, 4), 0), NoTable(1),
+            [{"x": 0}, {"x": 8}, {"x": -1}, {"x": True}, {"x": None}, {"x": "1"}, {"x": (1,)}])
         self.assertFalse(is_table(half, frame, 3, 2, 0, Table(1, (1, 3), TableBar(0, 0, 7))))
         self.assertTrue(is_table(half, frame, 3, 2, 0, Table(0, (2,), None)))
         self.assertFalse(is_table(half, frame, 3, 2, 0, Table(0, (2,), TableBar(0, 0, 7))))
 
     def test_bounds_within_the_gap(self):
-        # The due of the input 0 is just 1; with a gap of 1 / 4 the bound 1 / 8 is one for which all that is true may be told.
+        # The due of the input 0 is just 1; with a gap of 1 / 4 all that is true may be told for the bound 1 / 8.
         function, frame = Mixed(Poly((0,)), [(Poly((1,)), exp_row())]), Frame(0, (1, 1024), 0)
         self.assertTrue(is_table(function, frame, 1, (1, 8), 2, Table(0, (1,), None)))
         self.assertTrue(is_table(function, frame, 1, (1, 8), 2, NoTable(0)))
@@ -257,7 +269,8 @@ class TestTables(MakerTests):
         log, frame = LOG, Frame(0, 1, 0)
         pole = Quotient(Poly((1,)), Poly((-2, 1)))
         for function, arguments, at in (
-            (least_table, [log, frame, 3, 1, 4], {"width": 2, "bits": 4, "e": 3}), (is_table, [log, frame, 3, 1, 4, None], {"width": 2, "bits": 4, "e": 3}),
+            (least_table, [log, frame, 3, 1, 4], {"width": 2, "bits": 4, "e": 3}),
+            (is_table, [log, frame, 3, 1, 4, None], {"width": 2, "bits": 4, "e": 3}),
             (least_lines, [log, frame, 3, 5, 1, 4], {"width": 2, "bits": 5, "shift": 3, "e": 4}),
             (is_lines, [log, frame, 3, 5, 1, 4, None], {"width": 2, "bits": 5, "shift": 3, "e": 4}),
             (least_shift, [log, frame, 3, 2, 1, 4], {"width": 2, "bits": 5, "high": 3, "e": 4}),
@@ -266,7 +279,8 @@ class TestTables(MakerTests):
             (is_kept, [LINE, log, frame, 3, 1, 4, 5, None], {"width": 3, "bits": 5, "e": 4, "most": 6}),
         ):
             wrong = {
-                "width": NO_WIDTHS, "bits": NO_BITS, "shift": [-1, 31, True, None, "1", (1, 1)], "high": [-1, 4, True, None, "1", (1, 1)], "e": NO_ES,
+                "width": NO_WIDTHS, "bits": NO_BITS, "shift": [-1, 31, True, None, "1", (1, 1)],
+                "high": [-1, 4, True, None, "1", (1, 1)], "e": NO_ES,
                 "most": [-1, 31, True, None, "1", (1, 1)],
             }
             names = list(at)
@@ -320,7 +334,8 @@ class TestLines(MakerTests):
     def test_by_all_slopes(self):
         # No line of one bit less: by all slopes that could be.
         frame = Frame(-1, (1, 8), 3)
-        for shift, e in ((0, Fraction(1, 2)), (1, Fraction(1, 2)), (3, Fraction(1, 2)), (2, Fraction(1)), (5, Fraction(2, 3))):
+        for shift, e in ((0, Fraction(1, 2)), (1, Fraction(1, 2)), (3, Fraction(1, 2)), (2, Fraction(1)),
+            (5, Fraction(2, 3))):
             told = least_lines(CUBIC, frame, 4, shift, pair(e), 0)
             dues = dues_of(CUBIC, frame, 4)
             if told.high == 0:
@@ -344,8 +359,10 @@ class TestLines(MakerTests):
         told = least_lines(*arguments)
         self.assertEqual((told.high, told.bar), (0, None))
         self.judged(is_lines, arguments, told, [
-            {"high": 1}, {"high": None}, {"high": False}, {"shift": 0}, {"shift": True}, {"shift": None}, {"entries": ()}, {"entries": (told.entries[0],) * 2},
-            {"entries": None}, {"entries": ((True, 5),)}, {"entries": ((1,),)}, {"entries": ((1, 5, 0),)}, {"entries": ([1, 5],)}, {"entries": ((0, 0),)},
+            {"high": 1}, {"high": None}, {"high": False}, {"shift": 0}, {"shift": True}, {"shift": None}, {"entries": ()},
+            {"entries": (told.entries[0],) * 2},
+            {"entries": None}, {"entries": ((True, 5),)}, {"entries": ((1,),)}, {"entries": ((1, 5, 0),)},
+            {"entries": ([1, 5],)}, {"entries": ((0, 0),)},
             {"entries": (3,)}, {"bar": LineBar(0, 0, (0, 1), (0, 1))}, {"bar": ()},
         ])
         square = Poly((0, 0, 1))
@@ -355,11 +372,16 @@ class TestLines(MakerTests):
         bar = told.bar
         self.assertTrue(is_lines(*arguments, changed(told, bar=LineBar(0, 20, (2, 3), (0, 1)))))
         self.judged(is_lines, arguments, told, [
-            {"high": 2}, {"high": 0}, {"shift": 2}, {"bar": None}, {"bar": ()}, {"bar": changed(bar, block=1)}, {"bar": changed(bar, block=None)},
-            {"bar": changed(bar, slope=None)}, {"bar": changed(bar, slope=bar.slope + 99)}, {"bar": changed(bar, slope=bar.slope - 99)}, {"bar": changed(bar, slope=(1, 1))},
-            {"bar": changed(bar, lesser=bar.greater, greater=bar.lesser)}, {"bar": changed(bar, lesser=(0, 4))}, {"bar": changed(bar, lesser=(0, 0))},
-            {"bar": changed(bar, lesser=bar.lesser[::-1])}, {"bar": changed(bar, greater=(0, 1, 2))}, {"bar": changed(bar, greater=None)},
-            {"bar": changed(bar, greater=("0", 1))}, {"bar": changed(bar, lesser=(0, 0), greater=(0, 0))}, {"entries": told.entries[::-1]},
+            {"high": 2}, {"high": 0}, {"shift": 2}, {"bar": None}, {"bar": ()}, {"bar": changed(bar, block=1)},
+            {"bar": changed(bar, block=None)},
+            {"bar": changed(bar, slope=None)}, {"bar": changed(bar, slope=bar.slope + 99)},
+            {"bar": changed(bar, slope=bar.slope - 99)}, {"bar": changed(bar, slope=(1, 1))},
+            {"bar": changed(bar, lesser=bar.greater, greater=bar.lesser)}, {"bar": changed(bar, lesser=(0, 4))},
+            {"bar": changed(bar, lesser=(0, 0))},
+            {"bar": changed(bar, lesser=bar.lesser[::-1])}, {"bar": changed(bar, greater=(0, 1, 2))},
+            {"bar": changed(bar, greater=None)},
+            {"bar": changed(bar, greater=("0", 1))}, {"bar": changed(bar, lesser=(0, 0), greater=(0, 0))},
+            {"entries": told.entries[::-1]},
         ])
         half = Poly((0, (1, 2)))
         self.judged(is_lines, (half, frame, 3, 4, (1, 4), 0), NoTable(1), [{"x": 0}, {"x": 8}, {"x": True}, {"x": None}])
@@ -368,8 +390,10 @@ class TestLines(MakerTests):
         lines = Lines(1, 0, ((1, 0), (1, 0)), LineBar(0, -77, (1, 1), (1, 1)))
         self.assertTrue(is_lines(endless, Frame(0, (1, 1024), 0), 1, 0, (1, 8), 2, lines))
         self.assertFalse(is_lines(endless, Frame(0, (1, 1024), 0), 1, 0, (1, 2), 2, lines))
-        self.assertFalse(is_lines(endless, Frame(0, (1, 1024), 0), 1, 0, (1, 8), 2, changed(lines, bar=LineBar(0, None, (1, 1), (1, 1)))))
-        self.assertFalse(is_lines(endless, Frame(0, (1, 1024), 0), 1, 0, (1, 8), 2, changed(lines, bar=LineBar(0, 3, (1, 1), (0, 0)))))
+        self.assertFalse(is_lines(endless, Frame(0, (1, 1024), 0), 1, 0, (1, 8), 2,
+            changed(lines, bar=LineBar(0, None, (1, 1), (1, 1)))))
+        self.assertFalse(is_lines(endless, Frame(0, (1, 1024), 0), 1, 0, (1, 8), 2,
+            changed(lines, bar=LineBar(0, 3, (1, 1), (0, 0)))))
 
 
 class TestShifts(MakerTests):
@@ -410,7 +434,8 @@ class TestShifts(MakerTests):
                     else:
                         self.assertTrue(line_bar_holds(dues, width, high, told.shift - 1, e - gap, told.bar))
                         if gap == 0:
-                            self.assertGreater(least_lines(function, frame, width, told.shift - 1, pair(e), bits).high, high)
+                            self.assertGreater(least_lines(function, frame, width, told.shift - 1, pair(e), bits).high,
+                                high)
         self.assertEqual(kinds, {(NoShift, 1), (NoShift, 3), (Lines, True), (Lines, False)})
 
     def test_judge_with_one_thing_changed(self):
@@ -421,8 +446,10 @@ class TestShifts(MakerTests):
         self.assertGreater(told.shift, 0)
         bar = told.bar
         self.judged(is_shift, arguments, told, [
-            {"high": 1}, {"high": None}, {"high": False}, {"shift": told.shift - 1}, {"shift": told.shift + 1}, {"shift": True}, {"shift": None}, {"shift": 31},
-            {"entries": ()}, {"entries": ((0, 0),)}, {"entries": None}, {"bar": None}, {"bar": changed(bar, slope=bar.slope + 50)}, {"bar": changed(bar, block=1)},
+            {"high": 1}, {"high": None}, {"high": False}, {"shift": told.shift - 1}, {"shift": told.shift + 1},
+            {"shift": True}, {"shift": None}, {"shift": 31},
+            {"entries": ()}, {"entries": ((0, 0),)}, {"entries": None}, {"bar": None},
+            {"bar": changed(bar, slope=bar.slope + 50)}, {"bar": changed(bar, block=1)},
             {"bar": changed(bar, lesser=None)},
         ])
         a, b = told.entries[0]
@@ -434,8 +461,10 @@ class TestShifts(MakerTests):
         self.assertEqual(len(told.inputs), 3)
         x, y, z = told.inputs
         self.judged(is_shift, arguments, told, [
-            {"block": 1 - told.block}, {"block": None}, {"block": 2}, {"block": bool(told.block)}, {"inputs": (x,)}, {"inputs": ()}, {"inputs": (x, z)}, {"inputs": (z, y, x)},
-            {"inputs": (x, x, z)}, {"inputs": (x, y, z, z)}, {"inputs": None}, {"inputs": (x, "1", z)}, {"inputs": (0, 1, 7)}, {"inputs": (x, y, 9)},
+            {"block": 1 - told.block}, {"block": None}, {"block": 2}, {"block": bool(told.block)}, {"inputs": (x,)},
+            {"inputs": ()}, {"inputs": (x, z)}, {"inputs": (z, y, x)},
+            {"inputs": (x, x, z)}, {"inputs": (x, y, z, z)}, {"inputs": None}, {"inputs": (x, "1", z)},
+            {"inputs": (0, 1, 7)}, {"inputs": (x, y, 9)},
         ])
         half = Poly((0, (1, 2)))
         self.judged(is_shift, (half, frame, 3, 3, (1, 4), 0), NoShift(1, (1,)), [
@@ -477,17 +506,21 @@ class TestShifts(MakerTests):
 
 class TestProgramOf(MakerTests):
     def test_numbers(self):
-        self.assertEqual([program_of(Table(1, (-5, 10 ** 30 - 1), None), 3).at(x) for x in range(8)], [-5] * 4 + [10 ** 30 - 1] * 4)
+        self.assertEqual([program_of(Table(1, (-5, 10 ** 30 - 1), None), 3).at(x) for x in range(8)],
+            [-5] * 4 + [10 ** 30 - 1] * 4)
         self.assertEqual([program_of(Table(0, [7], None), 1).at(x) for x in range(2)], [7, 7])
         self.assertEqual([program_of(Lines(1, 2, ((-5, 3), (9, -2)), None), 2).at(x) for x in range(4)], [-2, -1, 2, 1])
-        self.assertEqual([program_of(Lines(0, 30, ((2 ** 30, -(2 ** 29)),), None), 2).at(x) for x in range(4)], [1, 0, 0, -1])
-        self.assertEqual([program_of(Lines(2, 0, ((1, 9), (2, 9), (3, 9), (4, 9)), None), 2).at(x) for x in range(4)], [1, 2, 3, 4])
+        self.assertEqual([program_of(Lines(0, 30, ((2 ** 30, -(2 ** 29)),), None), 2).at(x) for x in range(4)],
+            [1, 0, 0, -1])
+        self.assertEqual([program_of(Lines(2, 0, ((1, 9), (2, 9), (3, 9), (4, 9)), None), 2).at(x) for x in range(4)],
+            [1, 2, 3, 4])
 
     def test_errors_in_their_order(self):
         for width in NO_WIDTHS:
             self.bad("width", width, program_of, Table(1, (), None), width)
         for told in (
-            Table(1, (1,), None), Table(1, (1, 2, 3), None), Table(2, (1, 2, 3, 4), None), Table(0, (), None), Lines(1, 3, ((1, 2),), None),
+            Table(1, (1,), None), Table(1, (1, 2, 3), None), Table(2, (1, 2, 3, 4), None), Table(0, (), None),
+            Lines(1, 3, ((1, 2),), None),
             Lines(2, 3, ((1, 2),) * 4, None), Lines(0, 3, (), None),
         ):
             with self.assertRaises(Unlike) as caught:
@@ -517,7 +550,8 @@ class TestKept(MakerTests):
     def test_wrong_rows(self):
         for row in (None, 3, "12", (), [], (1,) * 14, (True,), (1.0,), ((1, 1),), (None,), {1: 2}, range(3), (1, "2")):
             self.bad_row(row, horner, row, None)
-        for row in (None, 3, "12", (), (1,), (1, 2, 3), (1, -1), (1, 61), (1, True), (1, 1.0), (1, None), {0: 1, 1: 2}, range(2)):
+        for row in (None, 3, "12", (), (1,), (1, 2, 3), (1, -1), (1, 61), (1, True), (1, 1.0), (1, None), {0: 1, 1: 2},
+            range(2)):
             self.bad_row(row, horner, (1, 2), row)
 
     def test_kept_row(self):
@@ -542,8 +576,10 @@ class TestKept(MakerTests):
         cubic = Poly((1, 1, (1, 2), (1, 6)))
         kinds = set()
         for poly, function, frame, width, bits in (
-            (CUBIC, CUBIC, Frame(-1, (1, 16), 6), 5, 0), (cubic, EXP, Frame(0, (1, 64), 8), 5, 20), (Poly(()), LINE, Frame(0, (1, 9), 1), 3, 0),
-            (Poly((3,)), BENT, Frame(0, (1, 9), 3), 3, 0), (Poly((1, 1)), EXP, Frame((-1, 32), (1, 256), 7), 4, 3), (LINE, LINE, Frame(0, (1, 3), 5), 10, 9),
+            (CUBIC, CUBIC, Frame(-1, (1, 16), 6), 5, 0), (cubic, EXP, Frame(0, (1, 64), 8), 5, 20),
+            (Poly(()), LINE, Frame(0, (1, 9), 1), 3, 0),
+            (Poly((3,)), BENT, Frame(0, (1, 9), 3), 3, 0), (Poly((1, 1)), EXP, Frame((-1, 32), (1, 256), 7), 4, 3),
+            (LINE, LINE, Frame(0, (1, 3), 5), 10, 9),
         ):
             dues, gap = dues_of(function, frame, width), gap_of(function, bits)
             for e in BOUNDS[1:]:
@@ -555,7 +591,8 @@ class TestKept(MakerTests):
                     many = told.kept if isinstance(told, Kept) else most + 1
                     self.assertEqual((type(told.bars), len(told.bars)), (tuple, many))
                     for kept, x in enumerate(told.bars):
-                        self.assertGreater(abs(self.by_steps(*kept_row(poly, frame, width, kept), x) - dues[x]), e - gap - TINY)
+                        self.assertGreater(abs(self.by_steps(*kept_row(poly, frame, width, kept), x) - dues[x]),
+                            e - gap - TINY)
                     if isinstance(told, Kept):
                         for x, due in enumerate(dues):
                             number = self.by_steps(*kept_row(poly, frame, width, told.kept), x)
@@ -571,15 +608,19 @@ class TestKept(MakerTests):
         short = Program("table t " + " ".join(str(told.program.at(x)) for x in range(31)) + "\ny = t[x]")
         self.assertTrue(is_kept(*arguments, changed(told, program=table)))
         self.judged(is_kept, arguments, told, [
-            {"kept": told.kept - 1}, {"kept": told.kept + 1}, {"kept": 31}, {"kept": True}, {"kept": None}, {"kept": -1}, {"program": None}, {"program": short},
-            {"program": "y = x"}, {"program": Program(table.text + "\nz = y + 1")}, {"bars": ()}, {"bars": (*told.bars, 0)}, {"bars": None}, {"bars": (32, *told.bars[1:])},
+            {"kept": told.kept - 1}, {"kept": told.kept + 1}, {"kept": 31}, {"kept": True}, {"kept": None}, {"kept": -1},
+            {"program": None}, {"program": short},
+            {"program": "y = x"}, {"program": Program(table.text + "\nz = y + 1")}, {"bars": ()}, {"bars": (*told.bars, 0)},
+            {"bars": None}, {"bars": (32, *told.bars[1:])},
             {"bars": (True, *told.bars[1:])}, {"bars": (None, *told.bars[1:])}, {"bars": ("0", *told.bars[1:])},
         ])
-        within = [x for x in range(32) if abs(self.by_steps(*kept_row(*arguments[:1], arguments[2], 5, 0), x) - dues_of(CUBIC, arguments[2], 5)[x]) <= Fraction(3, 5)]
+        within = [x for x in range(32) if abs(self.by_steps(*kept_row(*arguments[:1], arguments[2], 5, 0),
+            x) - dues_of(CUBIC, arguments[2], 5)[x]) <= Fraction(3, 5)]
         self.assertFalse(is_kept(*arguments, changed(told, bars=(within[0], *told.bars[1:]))))
         arguments = (LINE, CUBIC, Frame(-1, (1, 16), 6), 5, 1, 0, 2)
         told = least_kept(*arguments)
-        self.judged(is_kept, arguments, told, [{"bars": told.bars[:-1]}, {"bars": (*told.bars, 0)}, {"bars": None}, {"bars": (40, 40, 40)}, {"bars": "012"}])
+        self.judged(is_kept, arguments, told,
+            [{"bars": told.bars[:-1]}, {"bars": (*told.bars, 0)}, {"bars": None}, {"bars": (40, 40, 40)}, {"bars": "012"}])
 
     def test_sizes(self):
         random = Random(84)
@@ -594,15 +635,19 @@ class TestKept(MakerTests):
 class TestClasses(Asking):
     def test_they_keep_what_they_are_given(self):
         self.keep_what_they_are_given({
-            Rounding: ("wrong", "unsure"), Hard: ("x", "least", "most"), Table: ("high", "entries", "bar"), TableBar: ("block", "one", "other"), NoTable: ("x",),
-            Lines: ("high", "shift", "entries", "bar"), LineBar: ("block", "slope", "lesser", "greater"), NoShift: ("block", "inputs"),
+            Rounding: ("wrong", "unsure"), Hard: ("x", "least", "most"), Table: ("high", "entries", "bar"),
+            TableBar: ("block", "one", "other"), NoTable: ("x",),
+            Lines: ("high", "shift", "entries", "bar"), LineBar: ("block", "slope", "lesser", "greater"),
+            NoShift: ("block", "inputs"),
             Kept: ("kept", "program", "bars"), NoKept: ("bars",),
         })
 
     def test_where_they_are_defined(self):
         self.are_defined_in(
-            makers, "Rounding", "Hard", "Table", "TableBar", "NoTable", "Lines", "LineBar", "NoShift", "Kept", "NoKept", "rounding", "hardest", "least_table",
-            "least_lines", "least_shift", "program_of", "is_table", "is_lines", "is_shift", "horner", "kept_row", "least_kept", "is_kept",
+            makers, "Rounding", "Hard", "Table", "TableBar", "NoTable", "Lines", "LineBar", "NoShift", "Kept", "NoKept",
+            "rounding", "hardest", "least_table",
+            "least_lines", "least_shift", "program_of", "is_table", "is_lines", "is_shift", "horner", "kept_row",
+            "least_kept", "is_kept",
         )
 
 

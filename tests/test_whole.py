@@ -8,7 +8,8 @@ from pathlib import Path
 from helping import Asking
 
 from nearcurves import (
-    corners, cuts, desk, errors_of, functions, grids, intervalfits, makers, pointfits, polys, programs, quotients, ratios, rows, runs, signs,
+    corners, cuts, desk, errors_of, functions, grids, intervalfits, makers, pointfits, polys, programs, quotients, ratios,
+    rows, runs, signs,
 )
 from nearcurves.desk import Desk
 from nearcurves.functions import Mixed, Pieces, Quotient
@@ -31,36 +32,60 @@ HALF = [1, 2]
 
 # Calls whose answers are described wholly, with lists for tuples wherever a row or a ratio is passed.
 CALLS = [
-    (ratios.told, ([4, 6], "what")), (ratios.plus, (HALF, [1, 3])), (ratios.minus, (1, HALF)), (ratios.times, (HALF, HALF)), (ratios.share, (HALF, 3)),
-    (ratios.lower, (HALF, 1)), (ratios.floor_of, ([7, 2],)), (ratios.nearest_whole, ([7, 2],)), (ratios.ratio_text, ([7, 2],)),
-    (polys.divided, (CUBIC, Poly((1, 2)))), (polys.common, (CUBIC, CUBIC)), (polys.simple_parts, (CUBIC * CUBIC,)), (polys.poly_text, (CUBIC,)),
-    (corners.corners, (CUBIC, [-1, 1], HALF)), (corners.halved, ([1, HALF, 3],)), (signs.count_zeros, (CUBIC, [-3, 1], [3, 1])),
-    (signs.zeros, (CUBIC, [-3, 1], [3, 1], 5)), (rows.number_at, (exp_row(), 4)), (rows.terms_of, (exp_row(),)), (functions.sums, (EXP, 4)),
-    (functions.tail, (EXP, [-1, 2], HALF, 4)), (functions.least_terms, (EXP, [-1, 2], HALF, 20)), (functions.value, (RUNGE, HALF, 5)),
-    (intervalfits.one_less, (CUBIC, [-1, 1], HALF)), (pointfits.error_of, (POINTS, CUBIC)), (pointfits.barred, (POINTS, [0, 1], ((0, (1, 2)),))),
-    (pointfits.bound_of, (POINTS, [0, 1], [1, HALF], HALF, ())), (runs.run_error, (POINTS, 1, [0, 4])), (runs.error_steps, (POINTS, 1)),
-    (quotients.error_on, (POINTS, CUBIC, Poly((9, 1)))), (quotients.frontier, (POINTS, 2, HALF)), (grids.on_grid, (CUBIC, [HALF, HALF, 1, 1])),
-    (grids.grid_poly, ([1, 2], [HALF, HALF])), (grids.nearest_row, (CUBIC, [HALF, HALF, 1, 1])), (grids.all_on_grid, (POINTS, [HALF, HALF], [3, 1])),
-    (grids.best_on_grid, (POINTS, [HALF, HALF])), (grids.fewest_bits, (POINTS, 2, [3, 1])), (programs.shape, (PROGRAM,)), (programs.alike, (PROGRAM, PROGRAM)),
-    (programs.never_falls, (PROGRAM,)), (programs.never_negative, (PROGRAM,)), (programs.greatest, (PROGRAM, 99)), (programs.least, (TABLED, 99)),
-    (programs.fits, (PROGRAM, 99, 5)), (programs.least_word, (PROGRAM, 99)), (programs.alike_below, (PROGRAM, TABLED, 99)), (programs.ideal, (PROGRAM,)),
-    (programs.drifts, (PROGRAM, 99)), (programs.greatest_error, (PROGRAM, RUNGE, FRAME, 40)), (makers.rounding, (PROGRAM, CUBIC, FRAME, 4, 5)),
+    (ratios.told, ([4, 6], "what")), (ratios.plus, (HALF, [1, 3])), (ratios.minus, (1, HALF)), (ratios.times, (HALF, HALF)),
+    (ratios.share, (HALF, 3)),
+    (ratios.lower, (HALF, 1)), (ratios.floor_of, ([7, 2],)), (ratios.nearest_whole, ([7, 2],)),
+    (ratios.ratio_text, ([7, 2],)),
+    (polys.divided, (CUBIC, Poly((1, 2)))), (polys.common, (CUBIC, CUBIC)), (polys.simple_parts, (CUBIC * CUBIC,)),
+    (polys.poly_text, (CUBIC,)),
+    (corners.corners, (CUBIC, [-1, 1], HALF)), (corners.halved, ([1, HALF, 3],)),
+    (signs.count_zeros, (CUBIC, [-3, 1], [3, 1])),
+    (signs.zeros, (CUBIC, [-3, 1], [3, 1], 5)), (rows.number_at, (exp_row(), 4)), (rows.terms_of, (exp_row(),)),
+    (functions.sums, (EXP, 4)),
+    (functions.tail, (EXP, [-1, 2], HALF, 4)), (functions.least_terms, (EXP, [-1, 2], HALF, 20)),
+    (functions.value, (RUNGE, HALF, 5)),
+    (intervalfits.one_less, (CUBIC, [-1, 1], HALF)), (pointfits.error_of, (POINTS, CUBIC)),
+    (pointfits.barred, (POINTS, [0, 1], ((0, (1, 2)),))),
+    (pointfits.bound_of, (POINTS, [0, 1], [1, HALF], HALF, ())), (runs.run_error, (POINTS, 1, [0, 4])),
+    (runs.error_steps, (POINTS, 1)),
+    (quotients.error_on, (POINTS, CUBIC, Poly((9, 1)))), (quotients.frontier, (POINTS, 2, HALF)),
+    (grids.on_grid, (CUBIC, [HALF, HALF, 1, 1])),
+    (grids.grid_poly, ([1, 2], [HALF, HALF])), (grids.nearest_row, (CUBIC, [HALF, HALF, 1, 1])),
+    (grids.all_on_grid, (POINTS, [HALF, HALF], [3, 1])),
+    (grids.best_on_grid, (POINTS, [HALF, HALF])), (grids.fewest_bits, (POINTS, 2, [3, 1])), (programs.shape, (PROGRAM,)),
+    (programs.alike, (PROGRAM, PROGRAM)),
+    (programs.never_falls, (PROGRAM,)), (programs.never_negative, (PROGRAM,)), (programs.greatest, (PROGRAM, 99)),
+    (programs.least, (TABLED, 99)),
+    (programs.fits, (PROGRAM, 99, 5)), (programs.least_word, (PROGRAM, 99)), (programs.alike_below, (PROGRAM, TABLED, 99)),
+    (programs.ideal, (PROGRAM,)),
+    (programs.drifts, (PROGRAM, 99)), (programs.greatest_error, (PROGRAM, RUNGE, FRAME, 40)),
+    (makers.rounding, (PROGRAM, CUBIC, FRAME, 4, 5)),
     (makers.hardest, (CUBIC, FRAME, 4, 5, 5)), (makers.kept_row, (CUBIC, FRAME, 4, 5)),
 ]
 
 # Calls whose answers are free in parts, and what judges them, with the place of the answer among its arguments.
 JUDGED = [
-    (signs.never_below, (CUBIC + 9, [-2, 1], HALF), signs.is_split, ()), (errors_of.within, (CUBIC, BENT, [-1, 1], HALF, [9, 1], 5), errors_of.shows, "paper"),
-    (errors_of.within, (CUBIC, EXP, [-1, 1], HALF, [9, 1], 5), errors_of.shows, "paper"), (pointfits.nearest, (POINTS, [0, 1]), pointfits.is_nearest, ()),
+    (signs.never_below, (CUBIC + 9, [-2, 1], HALF), signs.is_split, ()),
+    (errors_of.within, (CUBIC, BENT, [-1, 1], HALF, [9, 1], 5), errors_of.shows, "paper"),
+    (errors_of.within, (CUBIC, EXP, [-1, 1], HALF, [9, 1], 5), errors_of.shows, "paper"),
+    (pointfits.nearest, (POINTS, [0, 1]), pointfits.is_nearest, ()),
     (errors_of.within_share, (Poly((1,)), EXP, [-1, 2], HALF, [9, 10], 5), errors_of.shows_share, "paper"),
-    (pointfits.reach, (POINTS, [0, 1], [1, HALF], [5, 1]), pointfits.is_reach, ()), (pointfits.reach, (POINTS, [0, 1], [1, HALF], HALF), pointfits.is_reach, ()),
-    (runs.joined, (POINTS, [HALF], 2, 1), runs.is_joined, ()), (cuts.least_pieces, (EXP, 1, [1, 50], [-1, [-1, 2], 0, HALF, 1], 20), cuts.are_cuts, ()),
-    (cuts.least_pieces, (BENT, 1, [1, 50], [-1, [-1, 2], 0, HALF, 1], 20), cuts.are_cuts, ()), (quotients.possible, (POINTS, 1, 1, [5, 1]), quotients.is_fit, ()),
-    (quotients.possible, (POINTS, 0, 1, [0, 1]), quotients.is_bars, ()), (grids.ranges, (POINTS, [HALF, HALF], [3, 1]), grids.are_ranges, ()),
-    (makers.least_table, (EXP, FRAME, 4, [9, 1], 9), makers.is_table, ()), (makers.least_lines, (EXP, FRAME, 4, 6, [1, 1], 9), makers.is_lines, ()),
-    (makers.least_shift, (EXP, FRAME, 4, 1, [1, 1], 9), makers.is_shift, ()), (makers.least_shift, (EXP, FRAME, 4, 0, HALF, 9), makers.is_shift, ()),
-    (makers.least_table, (EXP, FRAME, 4, [1, 8], 9), makers.is_table, ()), (makers.least_kept, (CUBIC, CUBIC, FRAME, 4, [3, 1], 9, 9), makers.is_kept, ()),
-    (makers.least_kept, (CUBIC, EXP, FRAME, 4, [3, 1], 9, 9), makers.is_kept, ()), (quotients.quotient_within, (CUBIC, Poly((5, 1)), EXP, [-1, 1], HALF, [9, 1], 5), quotients.shows_quotient, "paper"),
+    (pointfits.reach, (POINTS, [0, 1], [1, HALF], [5, 1]), pointfits.is_reach, ()),
+    (pointfits.reach, (POINTS, [0, 1], [1, HALF], HALF), pointfits.is_reach, ()),
+    (runs.joined, (POINTS, [HALF], 2, 1), runs.is_joined, ()),
+    (cuts.least_pieces, (EXP, 1, [1, 50], [-1, [-1, 2], 0, HALF, 1], 20), cuts.are_cuts, ()),
+    (cuts.least_pieces, (BENT, 1, [1, 50], [-1, [-1, 2], 0, HALF, 1], 20), cuts.are_cuts, ()),
+    (quotients.possible, (POINTS, 1, 1, [5, 1]), quotients.is_fit, ()),
+    (quotients.possible, (POINTS, 0, 1, [0, 1]), quotients.is_bars, ()),
+    (grids.ranges, (POINTS, [HALF, HALF], [3, 1]), grids.are_ranges, ()),
+    (makers.least_table, (EXP, FRAME, 4, [9, 1], 9), makers.is_table, ()),
+    (makers.least_lines, (EXP, FRAME, 4, 6, [1, 1], 9), makers.is_lines, ()),
+    (makers.least_shift, (EXP, FRAME, 4, 1, [1, 1], 9), makers.is_shift, ()),
+    (makers.least_shift, (EXP, FRAME, 4, 0, HALF, 9), makers.is_shift, ()),
+    (makers.least_table, (EXP, FRAME, 4, [1, 8], 9), makers.is_table, ()),
+    (makers.least_kept, (CUBIC, CUBIC, FRAME, 4, [3, 1], 9, 9), makers.is_kept, ()),
+    (makers.least_kept, (CUBIC, EXP, FRAME, 4, [3, 1], 9, 9), makers.is_kept, ()),
+    (quotients.quotient_within, (CUBIC, Poly((5, 1)), EXP, [-1, 1], HALF, [9, 1], 5), quotients.shows_quotient, "paper"),
     (intervalfits.enclosed, (EXP, [0, 1], [-1, 1], HALF, 10), intervalfits.is_enclosed, "bits"),
     (intervalfits.enclosed_share, (EXP, [0, 1], [-1, 1], HALF, 10), intervalfits.is_enclosed_share, "bits"),
 ]
@@ -117,7 +142,8 @@ class TestCalls(Asking):
         numbers, knots, low, ends = [1, [2, 4], 3], [0, [1, 2], 1], [1, 2], [[0, 1], 1, [3, 2]]
         poly, frame = Poly(numbers), Frame(low, [1, 3], 4)
         pieces, parts = Pieces(knots, [Poly((1,)), Poly((1,))]), [[Poly((1,)), sin_row()]]
-        mixed, points, row = Mixed(Poly(()), parts), Points(ends, numbers, numbers), Row(low, Poly((1,)), Poly((1, 1)), 1, 0)
+        mixed, points, row = Mixed(Poly(()), parts), Points(ends, numbers, numbers), Row(low, Poly((1,)), Poly((1, 1)), 1,
+            0)
         table = makers.Table(1, numbers, None)
         things = (poly, frame, pieces, mixed, points, row, table)
         kept = content((things[:-1], table.entries[0]))
@@ -146,8 +172,10 @@ class TestCalls(Asking):
         self.assertEqual(Poly((1, 2)), Poly(([2, 2], (4, 2), 0)))
         self.assertNotEqual(Poly((1,)), 1)
         for make in (
-            lambda: exp_row(), lambda: Mixed(Poly(()), ()), lambda: Quotient(Poly((1,)), Poly((1,))), lambda: Pieces((0, 1), (Poly((1,)),)), lambda: Points((0,), (1,)),
-            lambda: Program("y = x"), lambda: Frame(0, 1, 0), lambda: programs.Peak(1, 2), lambda: grids.OnGrid((1, 1), ()), lambda: makers.NoTable(1), lambda: programs.Fine(), Desk,
+            lambda: exp_row(), lambda: Mixed(Poly(()), ()), lambda: Quotient(Poly((1,)), Poly((1,))),
+            lambda: Pieces((0, 1), (Poly((1,)),)), lambda: Points((0,), (1,)),
+            lambda: Program("y = x"), lambda: Frame(0, 1, 0), lambda: programs.Peak(1, 2), lambda: grids.OnGrid((1, 1), ()),
+            lambda: makers.NoTable(1), lambda: programs.Fine(), Desk,
         ):
             self.assertFalse(make() == make())
 
@@ -155,10 +183,12 @@ class TestCalls(Asking):
 class TestInterface(Asking):
     def test_a_desk_alone_changes(self):
         # Attributes are assigned in __init__ alone, but at a desk and at what only helps to work things out.
-        helpers = {"Desk", "Level", "ItemReader", "Parsed", "Promise", "Peaks", "Level", "Search", "System", "Heights", "Errors", "Turns", "Lattice"}
+        helpers = {"Desk", "Level", "ItemReader", "Parsed", "Promise", "Peaks", "Level", "Search", "System", "Heights",
+            "Errors", "Turns", "Lattice"}
         public = {
             name for module in (
-                corners, cuts, errors_of, functions, grids, intervalfits, makers, pointfits, polys, programs, quotients, ratios, rows, runs, signs,
+                corners, cuts, errors_of, functions, grids, intervalfits, makers, pointfits, polys, programs, quotients,
+                ratios, rows, runs, signs,
             ) for name, thing in vars(module).items() if isinstance(thing, type) and thing.__module__ == module.__name__
         } - helpers
         self.assertIn("Poly", public)
@@ -167,14 +197,16 @@ class TestInterface(Asking):
                 if isinstance(node, ast.ClassDef) and node.name in public:
                     for method in node.body:
                         if isinstance(method, ast.FunctionDef) and method.name != "__init__":
-                            stored = [item for item in ast.walk(method) if isinstance(item, ast.Attribute) and isinstance(item.ctx, ast.Store)]
+                            stored = [item for item in ast.walk(method) if isinstance(item,
+                                ast.Attribute) and isinstance(item.ctx, ast.Store)]
                             self.assertEqual(stored, [], (node.name, method.name))
 
     def test_nothing_beyond_python_alone(self):
         for path in sorted(PACKAGE.glob("*.py")):
             for node in ast.walk(ast.parse(path.read_text(encoding="utf-8"))):
                 if isinstance(node, ast.ImportFrom):
-                    self.assertIn(node.module.partition(".")[0], ("nearcurves", "math", "heapq", "itertools", "collections"))
+                    self.assertIn(node.module.partition(".")[0],
+                        ("nearcurves", "math", "heapq", "itertools", "collections"))
         self.assertEqual(desk.Desk.__module__, "nearcurves.desk")
 
 
