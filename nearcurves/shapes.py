@@ -84,16 +84,11 @@ def combined(sign, one, other):
     return Classes(bits, rows, max(one.depth, other.depth))
 
 
-def need_depth(depth):
-    """TooMany("classes", 1024) where there may be more classes."""
+def cut_off(sign, one, count):
+    """The Classes of a shift to the right, or of a rest. TooMany("classes", 1024) where there may be more."""
+    depth = one.depth + count
     if depth > MOST_BITS:
         raise TooMany("classes", 1 << MOST_BITS)
-
-
-def cut_off(sign, one, count):
-    """The Classes of a shift to the right, or of a rest."""
-    depth = one.depth + count
-    need_depth(depth)
     mask = (1 << count) - 1
     rows = []
     for x in range(1 << depth):
@@ -111,7 +106,6 @@ def step_classes(program):
     """The Classes of all steps of a program, as a list. Unlike("table"), TooMany("classes", 1024)."""
     if program.tables:
         raise Unlike("table")
-    need_depth(max(depths_of(program)))
     found = [Classes(0, [((0, 1), 0)], 0)]
     for _, sign, operand, other in program.steps:
         one = classes_of(operand, found)
@@ -131,22 +125,3 @@ def classes_of(operand, found):
     """The Classes of an operand."""
     is_number, value = operand
     return Classes(0, [plain_row([value], 0)], 0) if is_number else found[value]
-
-
-def depths_of(program):
-    """The sums of COUNTs of shifts to the right and rests that hang on one another, for all steps."""
-    depths = [0]
-    for _, sign, operand, other in program.steps:
-        depth = depth_of(operand, depths)
-        if sign in (">>", "&"):
-            depth = depth + other
-        elif sign in ("+", "-", "*"):
-            depth = max(depth, depth_of(other, depths))
-        depths.append(depth)
-    return depths
-
-
-def depth_of(operand, depths):
-    """The sum for an operand."""
-    is_number, value = operand
-    return 0 if is_number else depths[value]

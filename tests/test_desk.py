@@ -148,7 +148,7 @@ class TestPromises(DeskTests):
         self.raised(BadNumber, desk.kept, "one near pole by -2/4 from 1 to 2", what="e", number=(-1, 2))
 
     def test_near_rows(self):
-        desk = Desk("poly line = x\npoly zero = 0\npoly cosine = 1 - 1/2*x^2\npoly e1 = 1 + x")
+        desk = Desk("poly line = x\npoly zero = 0\npoly cosine = 1 - 1/2*x^2\npoly e1 = 1 + x\npoly under = x - 1/2*x^2")
         for word, poly, greatest in (("exp", "e1", 0.72), ("sin", "line", 0.16), ("cos", "cosine", 0.05),
             ("atan", "line", 0.4), ("log", "line", 0.4)):
             end = "1/2" if word in ("atan", "log") else "1"
@@ -156,6 +156,14 @@ class TestPromises(DeskTests):
             is_kept, witness = desk.kept(f"zero near {word} by 1/8 from 0 to {end} gap 20")
             self.assertFalse(is_kept)
             self.assertIsInstance(witness, Beyond)
+        # On both sides of 0 the rows are near to these alone.
+        for word, poly in (("exp", "e1"), ("sin", "line"), ("cos", "cosine"), ("atan", "line"), ("log", "under")):
+            for other in ("e1", "line", "cosine", "under"):
+                e = "1/12" if word == "exp" else "1/50"
+                is_kept = desk.kept(f"{other} near {word} by {e} from -1/3 to 1/3 gap 20")[0]
+                self.assertIs(is_kept, other == poly, (word, other))
+        self.assertIs(desk.kept("line near sin by 1/100 from -1/3 to 1/3 gap 20")[0], True)
+        self.assertIs(desk.kept("line near atan by 1/100 from -1/3 to 1/3 gap 20")[0], False)
         self.raised(TooWide, desk.kept, "line near atan by 1 from 0 to 3/4 gap 20")
         self.raised(TooWide, desk.kept, "line near log by 1 from 0 to 1 gap 20")
         self.raised(BadNumber, desk.kept, "line near log by -1 from 0 to 1 gap 20", what="e", number=(-1, 1))

@@ -279,6 +279,11 @@ class TestInputsBelow(Asking):
         self.assertIsNone(fits(TABLED, 1024, 5))
         self.assertEqual(vars(fits(TABLED, 1024, 4)), {"name": "b", "x": 2})
         self.assertEqual(vars(fits(TABLED, 1024, 1)), {"name": "b", "x": 0})
+        just = Program("table t -4 3 -5 4\ny = t[x]")
+        self.assertIsNone(fits(just, 2, 3))
+        self.assertEqual([fits(just, many, 3).x for many in (3, 4)], [2, 2])
+        self.assertEqual(vars(fits(Program("table t 0 4\ny = t[x]"), 2, 3)), {"name": "y", "x": 1})
+        self.assertEqual([least_word(just, many) for many in (1, 2, 3, 4)], [3, 3, 4, 4])
         self.assertIsNone(alike_below(TABLED, SHORT, 4))
         plain = Program("a = x & 2\nb = a * -8\nc = b + 5")
         self.assertEqual(alike_below(TABLED, plain, 1024), 2)
@@ -371,6 +376,10 @@ class TestFrames(Asking):
         frame = Frame(0, (1, 4), 3)
         told = greatest_error(TABLED, Poly((0, 1)), frame, 5)
         self.assertEqual(vars(told), {"x": 0, "value": (5, 8)})
+        for function in (Poly((1, (-3, 2), (2, 5))), Quotient(Poly((1, 2)), Poly((-9, 0, -1)))):
+            told = greatest_error(TABLED, function, frame, 1000)
+            errors = [abs(Fraction(TABLED.at(x), 8) - self.values(function, Fraction(x, 4))) for x in range(1000)]
+            self.assertEqual((told.x, fraction(told.value)), (errors.index(max(errors)), max(errors)))
         told = greatest_error(TABLED, RUNGE, frame, 5)
         errors = [abs(Fraction(TABLED.at(x), 8) - 1 / (1 + Fraction(x, 4) ** 2)) for x in range(5)]
         self.assertEqual((told.x, fraction(told.value)), (errors.index(max(errors)), max(errors)))
@@ -448,6 +457,10 @@ class TestFrames(Asking):
         error_within(program, log, Frame(0, (1, 8), 3), 4, 1, 3)
         with self.assertRaises(TooWide):
             error_within(program, log, Frame(0, (1, 8), 3), 5, 1, 3)
+        for low, step, many in (((-5, 8), (1, 8), 3), ((-1, 2), (1, 8), 9)):
+            with self.assertRaises(TooWide):
+                error_within(program, log, Frame(low, step, 0), many, 9, 3)
+        error_within(program, log, Frame((-1, 2), (1, 8), 0), 8, 9, 3)
         with self.assertRaises(TooMany):
             error_within(DEEP, log, Frame(0, 1, 0), 9, None, None)
 
