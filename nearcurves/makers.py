@@ -145,11 +145,8 @@ def hardest(function, frame, width, many, bits):
     # Unlike ratios differ by more than this, so they are in the order of these integers.
     more = 2 * max([bottom for _, bottom in distances]).bit_length()
     places = sorted([((top << more) // bottom, x) for x, (top, bottom) in enumerate(distances)])
-    found = []
-    for _, x in places[:many]:
-        least = minus(distances[x], dues.slack)
-        found.append(Hard(x, (0, 1) if least[0] < 0 else least, plus(distances[x], dues.slack)))
-    return tuple(found)
+    nearest = [x for _, x in places[:many]]
+    return tuple([Hard(x, minus(distances[x], dues.slack), plus(distances[x], dues.slack)) for x in nearest])
 
 
 def least_table(function, frame, width, e, bits):

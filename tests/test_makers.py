@@ -138,6 +138,10 @@ class TestRounding(MakerTests):
         told = rounding(Program("y = 0"), Mixed(half, [(Poly((0, 1)), exp_row())]), Frame(0, 1, 0), 2, 60)
         self.assertEqual(told.wrong, (1, 2, 3))
         self.assertIn(told.unsure, ((), (0,)))
+        # A little more than 1 / 2: by however little, it stands somewhere.
+        more = Mixed(Poly(((2 ** 79 + 1, 2 ** 80),)), [(Poly((0, 1)), exp_row())])
+        told = rounding(Program("y = 0"), more, Frame(0, 1, 0), 2, 60)
+        self.assertEqual(sorted(told.wrong + told.unsure), [0, 1, 2, 3])
 
     def test_errors_in_their_order(self):
         short = Program("table t 1\ny = t[x]")
@@ -240,6 +244,7 @@ class TestTables(MakerTests):
             {"entries": (0, 1, 2, 2)}, {"entries": (0, True, 2, 3)}, {"entries": (0, (1, 1), 2, 3)}, {"entries": "0123"},
             {"entries": {0: 1}}, {"bar": None},
             {"bar": TableBar(0, 0, 1)}, {"bar": TableBar(0, 3, 0)}, {"bar": TableBar(1, 0, 3)}, {"bar": TableBar(0, 0, 4)},
+            {"bar": TableBar(2, 8, 11)}, {"bar": TableBar(-1, -4, -1)},
             {"bar": TableBar(2, 0, 3)},
             {"bar": TableBar(False, 0, 3)}, {"bar": TableBar(0, False, 3)}, {"bar": TableBar(0, 0, "3")},
             {"bar": TableBar(0, (0,), 3)}, {"bar": (0, 0, 3)},
@@ -370,7 +375,10 @@ class TestLines(MakerTests):
         told = least_lines(*arguments)
         self.assertEqual(told.high, 1)
         bar = told.bar
-        self.assertTrue(is_lines(*arguments, changed(told, bar=LineBar(0, 20, (2, 3), (0, 1)))))
+        for slope, is_right in ((14, False), (15, True), (20, True), (32, True), (33, False)):
+            self.assertIs(is_lines(*arguments, changed(told, bar=LineBar(0, slope, (2, 3), (0, 1)))), is_right)
+        self.assertFalse(is_lines(*arguments, changed(told, bar=LineBar(1, 20, (6, 7), (4, 5)))))
+        self.assertFalse(is_lines(*arguments, changed(told, bar=LineBar(-1, 20, (-2, -1), (-4, -3)))))
         self.judged(is_lines, arguments, told, [
             {"high": 2}, {"high": 0}, {"shift": 2}, {"bar": None}, {"bar": ()}, {"bar": changed(bar, block=1)},
             {"bar": changed(bar, block=None)},
@@ -394,6 +402,8 @@ class TestLines(MakerTests):
             changed(lines, bar=LineBar(0, None, (1, 1), (1, 1)))))
         self.assertFalse(is_lines(endless, Frame(0, (1, 1024), 0), 1, 0, (1, 8), 2,
             changed(lines, bar=LineBar(0, 3, (1, 1), (0, 0)))))
+        for bar in (LineBar(0, -77, (0, 1), (1, 1)), LineBar(0, 77, (1, 1), (0, 1))):
+            self.assertFalse(is_lines(endless, Frame(0, (1, 1024), 0), 1, 0, (1, 8), 2, changed(lines, bar=bar)))
 
 
 class TestShifts(MakerTests):
@@ -464,7 +474,8 @@ class TestShifts(MakerTests):
             {"block": 1 - told.block}, {"block": None}, {"block": 2}, {"block": bool(told.block)}, {"inputs": (x,)},
             {"inputs": ()}, {"inputs": (x, z)}, {"inputs": (z, y, x)},
             {"inputs": (x, x, z)}, {"inputs": (x, y, z, z)}, {"inputs": None}, {"inputs": (x, "1", z)},
-            {"inputs": (0, 1, 7)}, {"inputs": (x, y, 9)},
+            {"inputs": (0, 1, 7)}, {"inputs": (x, y, 9)}, {"block": 2, "inputs": (8, 9, 10)},
+            {"block": -1, "inputs": (-4, -3, -2)},
         ])
         half = Poly((0, (1, 2)))
         self.judged(is_shift, (half, frame, 3, 3, (1, 4), 0), NoShift(1, (1,)), [
