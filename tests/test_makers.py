@@ -481,6 +481,9 @@ class TestShifts(MakerTests):
         self.judged(is_shift, (half, frame, 3, 3, (1, 4), 0), NoShift(1, (1,)), [
             {"inputs": (0,)}, {"inputs": (3,)}, {"block": 0}, {"block": 3}, {"inputs": (True,)}, {"inputs": (1, 1, 1)},
         ])
+        # Dues 0, 0, 2 and 0, 1, 0 are just out of reach of lines; 0, 1, 2 and 0, 0, 1 are not.
+        for numbers, is_right in (((0, -1, 1), True), ((0, 2, -1), True), ((0, 1), False), ((0, (-1, 2), (1, 2)), False)):
+            self.assertIs(is_shift(Poly(numbers), frame, 2, 0, 0, 0, NoShift(0, (0, 1, 2))), is_right)
         self.assertTrue(is_shift(Poly((3,)), frame, 2, 0, 0, 0, Lines(0, 0, ((3, 0),), None)))
         self.assertFalse(is_shift(Poly((3,)), frame, 2, 0, 0, 0, Lines(0, 1, ((6, 0),), None)))
 
