@@ -167,10 +167,10 @@ def never_negative(program):
     return first_negative([row for row, _ in last.rows], last.bits, None)
 
 
-def values_below(program, many):
-    """The values of all steps for all inputs below many, as a list, for a program with tables; None for any other.
+def looked_at(program, many):
+    """A pair (values, classes), of which one is None, with the errors of what looks at inputs below a bound.
 
-    The errors of what looks at inputs below a bound.
+    For a program with tables a list of the values of all steps for each input, for any other the Classes of all steps.
     """
     if not is_whole_from(many, 1):
         raise BadNumber("many", many)
@@ -178,27 +178,19 @@ def values_below(program, many):
     if many > most:
         raise TooLarge("many", many, most)
     if program.tables:
-        return [program.all_at(x) for x in range(many)]
-    step_classes(program)
-    return None
+        return [program.all_at(x) for x in range(many)], None
+    return None, step_classes(program)
 
 
-def step_peaks(program, many):
-    """The Peaks of all steps, as a list."""
-    values = values_below(program, many)
+def step_peaks(values, classes, place, many):
+    """The Peaks of a step, for what looked_at tells."""
     if values is None:
-        return [class_peaks(classes, many) for classes in step_classes(program)]
-    found = []
-    for place in range(len(program.steps)):
-        found.append(Peaks())
-        for x, row in enumerate(values):
-            found[-1].look(row[place], 1, x)
-    return found
-
-
-def class_peaks(classes, many):
-    """The Peaks of some Classes."""
-    return peaks_of([(row or (0,), (1 << bits,)) for row, bits in classes.rows], classes.bits, many)
+        last = classes[place]
+        return peaks_of([(row or (0,), (1 << bits,)) for row, bits in last.rows], last.bits, many)
+    peaks = Peaks()
+    for x, row in enumerate(values):
+        peaks.look(row[place], 1, x)
+    return peaks
 
 
 def greatest(program, many):
@@ -213,10 +205,8 @@ def least(program, many):
 
 def last_peak(program, many, is_most):
     """The Peak of the last step."""
-    if values_below(program, many) is None:
-        peaks = class_peaks(step_classes(program)[-1], many)
-    else:
-        peaks = step_peaks(program, many)[-1]
+    values, classes = looked_at(program, many)
+    peaks = step_peaks(values, classes, -1, many)
     top, bottom, x = peaks.most if is_most else peaks.least
     return Peak(x, top // bottom)
 
@@ -225,31 +215,39 @@ def fits(program, many, word):
     """None if the values of all steps fit in a word at all inputs; otherwise a Spill."""
     if not is_whole_within(word, 1, MOST_WORD):
         raise BadNumber("word", word)
-    values = values_below(program, many)
+    values, classes = looked_at(program, many)
     half = 1 << (word - 1)
-    if values is not None:
-        for x, row in enumerate(values):
-            for name, value in zip(program.names, row):
-                if not -half <= value < half:
-                    return Spill(name, x)
-        return None
+    if values is None:
+        return class_spill(program.names, classes, many, half)
+    for x, row in enumerate(values):
+        for name, value in zip(program.names, row):
+            if not -half <= value < half:
+                return Spill(name, x)
+    return None
+
+
+def class_spill(names, classes, many, half):
+    """None if the values of all Classes are from -half to half less 1; otherwise a Spill."""
     spill = None
     most = many - 1
-    for name, classes in zip(program.names, step_classes(program)):
-        rows = [difference(((half - 1,), 0), pair) for pair in classes.rows]
-        more = [difference(pair, ((-half,), 0)) for pair in classes.rows]
-        for x in (first_negative(rows, classes.bits, most), first_negative(more, classes.bits, most)):
-            if x is not None and (spill is None or x < spill.x):
+    for name, step in zip(names, classes):
+        above = [difference(((half - 1,), 0), pair) for pair in step.rows]
+        under = [difference(pair, ((-half,), 0)) for pair in step.rows]
+        for rows in (above, under):
+            # What comes later, is told for lesser inputs alone.
+            x = first_negative(rows, step.bits, most)
+            if x is not None:
                 spill = Spill(name, x)
-        # A later step is told for a lesser input alone.
-        most = most if spill is None else spill.x - 1
+                most = x - 1
     return spill
 
 
 def least_word(program, many):
     """The least word in which all values of all steps fit at all inputs."""
+    values, classes = looked_at(program, many)
     word = 1
-    for peaks in step_peaks(program, many):
+    for place in range(len(program.steps)):
+        peaks = step_peaks(values, classes, place, many)
         for top, bottom, _ in (peaks.most, peaks.least):
             value = top // bottom
             word = max(word, (value if value >= 0 else -1 - value).bit_length() + 1)
@@ -258,18 +256,18 @@ def least_word(program, many):
 
 def alike_below(one, other, many):
     """None if two programs tell the same for all inputs below many; otherwise the least one at which they do not."""
-    values = values_below(one, many)
-    others = values_below(other, many)
-    if values is None and others is None:
-        return first_unlike(step_classes(one)[-1], step_classes(other)[-1], many)
+    _, classes = looked_at(one, many)
+    _, others = looked_at(other, many)
+    if classes is not None and others is not None:
+        return first_unlike(classes[-1], others[-1], many)
     for x in range(many):
         if one.at(x) != other.at(x):
             return x
     return None
 
 
-def error_peak(program, values, top, bottom, frame, many):
-    """The row (error top, error bottom, x) of the greatest error against top / bottom, which has no pole."""
+def error_peak(values, classes, top, bottom, frame, many):
+    """The row (error top, error bottom, x) of the greatest error against top / bottom, for what looked_at tells."""
     tops, below = over_one_bottom(top.moved(frame.low, frame.step).numbers)
     bottoms, factor = over_one_bottom(bottom.moved(frame.low, frame.step).numbers)
     tops = [number * factor for number in tops] or [0]
@@ -282,9 +280,8 @@ def error_peak(program, values, top, bottom, frame, many):
             size = value_at(bottoms, x, 1) << frame.bits
             peaks.look(row[-1] * value_at(bottoms, x, 1) - (value_at(tops, x, 1) << frame.bits), size, x)
         return peaks.farthest()
-    classes = step_classes(program)[-1]
-    pairs = [error_rows(pair, tops, bottoms, frame.bits) for pair in classes.rows]
-    return peaks_of(pairs, classes.bits, many).farthest()
+    pairs = [error_rows(pair, tops, bottoms, frame.bits) for pair in classes[-1].rows]
+    return peaks_of(pairs, classes[-1].bits, many).farthest()
 
 
 def error_rows(pair, tops, bottoms, bits):
@@ -297,25 +294,25 @@ def error_rows(pair, tops, bottoms, bits):
 
 def greatest_error(program, function, frame, many):
     """The greatest error against a polynomial or a quotient, and the least input with it."""
-    values = values_below(program, many)
+    values, classes = looked_at(program, many)
     top, bottom = (function.top, function.bottom) if isinstance(function, Quotient) else (function, Poly((1,)))
     low, high = frame.point(0), frame.point(many - 1)
     if bottom.at(low)[0] == 0 or (many > 1 and count_zeros(bottom, low, high) > 0):
         raise Pole()
-    above, below, x = error_peak(program, values, top, bottom, frame, many)
+    above, below, x = error_peak(values, classes, top, bottom, frame, many)
     return Peak(x, lowest(above, below))
 
 
 def error_within(program, function, frame, many, e, bits):
     """Whether the error against a Mixed function is at most e at all inputs: Fine, Off or NearBy."""
-    values = values_below(program, many)
+    values, classes = looked_at(program, many)
     need_ratio_from_zero(e, "e")
     need_bits(bits)
     low, high = frame.point(0), frame.point(many)
     terms = terms_within(function, low, high, (1, 1 << bits))
     rest = tail_of(function, low, high, terms)
     near = sums(function, terms) if isinstance(function, Mixed) else function
-    above, below, x = error_peak(program, values, near, Poly((1,)), frame, many)
+    above, below, x = error_peak(values, classes, near, Poly((1,)), frame, many)
     if not lower(minus(e, rest), (above, below)):
         return Fine()
     return Off(x) if lower(plus(e, rest), (above, below)) else NearBy(times(2, rest))

@@ -12,7 +12,7 @@ from nearcurves.errors import BadLine, BadText
 from nearcurves.polytexts import behind_spaces, is_digit
 
 LETTERS = "abcdefghijklmnopqrstuvwxyz"
-NAME_SIGNS = LETTERS + "0123456789"
+NAME_SIGNS = "abcdefghijklmnopqrstuvwxyz0123456789"
 MOST_SIGNS = 8
 MOST_DIGITS = 30
 MOST_COUNT = 60

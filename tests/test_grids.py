@@ -193,6 +193,10 @@ class TestGrids(Asking):
         with self.assertRaises(TooMany):
             # At 0 the error is 1/2 at least, and at 1 it is as small as this for a thousand rows.
             best_on_grid(Points((0, 1), ((1, 2), 0), (1, (1, 1000))), (1, 1))
+        told = best_on_grid(Points((0, 1), ((1, 2), (1, 2)), (1, (1, 149))), (1, 1))
+        self.assertEqual((told.error, len(told.rows), told.rows[0], told.rows[-1]), ((1, 2), 300, (0, -74), (1, 74)))
+        with self.assertRaises(TooMany):
+            best_on_grid(Points((0, 1), ((1, 2), (1, 2)), (1, (1, 151))), (1, 1))
 
     def test_errors_in_their_order(self):
         for steps in ((1, 1), [1, 2, 3]):
