@@ -65,8 +65,6 @@ def full_state(desk):
     """All that a desk tells, with what can be undone and done again."""
     rows = [(desk.lines(), desk.names(), desk.promises())]
     many = 0
-    with desk as tried:
-        pass
     try:
         while True:
             desk.undo()
