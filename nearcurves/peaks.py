@@ -3,10 +3,10 @@
 Inputs of a class are told by their places: x is the rest of the class plus the place times 2 ** bits.
 """
 
-from nearcurves.shapes import difference
-from nearcurves.turning import slope_of_row, trimmed, turns
+from nearcurves.shapes import difference, plain_row, worth_at
+from nearcurves.turning import slope_of_row, turns
 from nearcurves.wholecorners import value_at
-from nearcurves.wholerows import primitive_row, product_row
+from nearcurves.wholerows import primitive_row, product_row, stripped
 
 # Up to so many inputs, all are looked at: this is no longer than to look for places where polynomials turn.
 FEW = 1024
@@ -38,70 +38,61 @@ def is_before(one, other):
     return left > right or (left == right and one[2] < other[2])
 
 
-class Turns:
-    """Where rows turn, up to a most input, or everywhere if this is None; slopes of many classes are the same."""
+class Against:
+    """What numbers, divided by 2 ** bits, are told less of: a quotient of rows in x, the bottom above 0."""
 
-    def __init__(self, most):
-        self.most = most
-        self.known = {}
+    def __init__(self, tops, bottoms, bits):
+        self.tops = tops
+        self.bottoms = bottoms
+        self.bits = bits
+        self.square = product_row(bottoms, bottoms)
+        one = product_row(slope_of_row(tops), bottoms)
+        self.change = difference((one, 0), (product_row(tops, slope_of_row(bottoms)), 0))
 
-    def spots(self, slope):
-        """Integers k such that each zero of a slope at which its sign changes lies from k to k + 1."""
-        row = trimmed(slope)
-        if len(row) < 2:
-            return []
-        key = tuple(primitive_row(row))
-        if key not in self.known:
-            self.known[key] = turns(key, self.most)
-        return self.known[key]
+    def worth(self, number, x):
+        """The pair (top, bottom) of what is left of a number for an input."""
+        below = value_at(self.bottoms, x, 1)
+        return number * below - (value_at(self.tops, x, 1) << self.bits), below << self.bits
 
-    def places_for(self, slope, rest, bits, last):
-        """The first place of a class, those next to zeros of a slope, and the last, unless it is None; ascending."""
-        found = {0: True}
-        if last is not None:
-            found[last] = True
-        for spot in self.spots(slope):
-            place = (spot - rest) >> bits
-            for near in (place, place + 1):
-                if near >= 0 and (last is None or near <= last):
-                    found[near] = True
-        return sorted(found)
+    def slope_row(self, pair):
+        """A row with the signs of the slope of what is left of a polynomial, for the pair of its own slope."""
+        row, shift = pair
+        change = [number << (shift + self.bits) for number in self.change]
+        return difference((product_row(row, self.square), 0), (change, 0))
 
 
-def peaks_of(quotients, bits, many):
-    """The Peaks of quotients (top, bottom) of rows in x, one for each class of so many bits, for x below many."""
+def peaks_of(classes, against, many):
+    """The Peaks of what Classes tell less a quotient, for x below many."""
     peaks = Peaks()
-    known = Turns(many)
-    for rest, (top, bottom) in enumerate(quotients):
-        last = (many - 1 - rest) >> bits
-        if last >= 0:
-            for place in places_of(top, bottom, rest, bits, last, known):
-                x = rest + (place << bits)
-                peaks.look(value_at(top, x, 1), value_at(bottom, x, 1), x)
+    known = {}
+    for rest, pair in enumerate(classes.rows):
+        last = (many - 1 - rest) >> classes.bits
+        if last << classes.bits <= FEW:
+            places = list(range(last + 1))
+        else:
+            # Fact: but for the ends, a greatest or a least value stands next to a zero of the slope.
+            slope = plain_row(slope_of_row(pair[0]), pair[1])
+            if slope not in known:
+                known[slope] = turns(against.slope_row(slope), many)
+            places = places_near(known[slope], rest, classes.bits, last)
+        for place in places:
+            x = rest + (place << classes.bits)
+            top, bottom = against.worth(worth_at(pair, x), x)
+            peaks.look(top, bottom, x)
     return peaks
 
 
-def places_of(top, bottom, rest, bits, last, known):
-    """The places of a class, ascending, among which are all that may be first with the greatest or the least value.
-
-    Fact: but for the ends, these are next to a zero of the slope.
-    """
-    if last << bits <= FEW:
-        return list(range(last + 1))
-    slope = slope_of_row(top)
-    if len(bottom) > 1:
-        slope = slope_of_quotient(top, bottom)
-    return known.places_for(slope, rest, bits, last)
-
-
-def slope_of_quotient(top, bottom):
-    """The row of top' * bottom - top * bottom'."""
-    one = product_row(slope_of_row(top) or [0], bottom)
-    other = product_row(top or [0], slope_of_row(bottom) or [0])
-    size = max(len(one), len(other))
-    one = one + [0] * (size - len(one))
-    other = other + [0] * (size - len(other))
-    return [left - right for left, right in zip(one, other)]
+def places_near(spots, rest, bits, last):
+    """The first place of a class, those next to all x from k to k + 1 for some k, and the last, unless it is None."""
+    found = {0: True}
+    if last is not None:
+        found[last] = True
+    for spot in spots:
+        place = (spot - rest) >> bits
+        for near in (place, place + 1):
+            if near >= 0 and (last is None or near <= last):
+                found[near] = True
+    return sorted(found)
 
 
 def first_unlike(one, other, many):
@@ -121,23 +112,32 @@ def first_unlike(one, other, many):
 
 def first_negative(rows, bits, most):
     """The least input up to the most, or of all if this is None, at which the row of its class is below 0; or None."""
-    known = Turns(most)
+    known = {}
     best = most
     found = None
     for rest, row in enumerate(rows):
         if best is None or rest <= best:
             last = None if best is None else (best - rest) >> bits
-            place = first_place(trimmed(row), rest, bits, last, known)
+            place = first_place(stripped(row), rest, bits, last, spots_of(slope_of_row(row), most, known))
             if place is not None:
                 found = rest + (place << bits)
                 best = found - 1
     return found
 
 
-def first_place(row, rest, bits, last, known):
+def spots_of(row, most, known):
+    """What turns tells of a row; slopes of many classes are multiples of one another, and each is looked at once."""
+    row = stripped(row)
+    key = tuple(primitive_row(row)) if row else ()
+    if key not in known:
+        known[key] = turns(key, most)
+    return known[key]
+
+
+def first_place(row, rest, bits, last, spots):
     """The least place of a class, up to the last unless this is None, at which a row in x is below 0; or None."""
     ahead = 0
-    for place in known.places_for(slope_of_row(row), rest, bits, last):
+    for place in places_near(spots, rest, bits, last):
         if is_negative(row, rest, bits, place):
             return first_between(row, rest, bits, ahead, place)
         ahead = place

@@ -4,7 +4,7 @@ from nearcurves.checks import held, is_whole_from, is_whole_within, need_bits, n
 from nearcurves.drifting import drift_pairs, ideals, need_plain
 from nearcurves.errors import BadLine, BadNumber, Pole, TooLarge, TooWide
 from nearcurves.functions import Mixed, Quotient, sums
-from nearcurves.peaks import Peaks, first_negative, first_unlike, peaks_of
+from nearcurves.peaks import Against, Peaks, first_negative, first_unlike, peaks_of
 from nearcurves.polys import Poly, over_one_bottom
 from nearcurves.programtexts import parsed_program
 from nearcurves.ratios import is_ratio, lower, lowest, minus, plus, times, told
@@ -12,7 +12,6 @@ from nearcurves.shapes import difference, step_classes
 from nearcurves.signs import count_zeros
 from nearcurves.targets import tail_of, terms_within
 from nearcurves.wholecorners import moved_row, value_at
-from nearcurves.wholerows import product_row
 
 MOST_INPUTS = 1 << 64
 MOST_TABLE_INPUTS = 1024
@@ -182,14 +181,15 @@ def looked_at(program, many):
     return None, step_classes(program)
 
 
-def step_peaks(values, classes, place, many):
-    """The Peaks of a step, for what looked_at tells."""
+def step_peaks(looked, place, against, many):
+    """The Peaks of a step less a quotient, for what looked_at tells."""
+    values, classes = looked
     if values is None:
-        last = classes[place]
-        return peaks_of([(row or (0,), (1 << bits,)) for row, bits in last.rows], last.bits, many)
+        return peaks_of(classes[place], against, many)
     peaks = Peaks()
     for x, row in enumerate(values):
-        peaks.look(row[place], 1, x)
+        top, bottom = against.worth(row[place], x)
+        peaks.look(top, bottom, x)
     return peaks
 
 
@@ -205,8 +205,7 @@ def least(program, many):
 
 def last_peak(program, many, is_most):
     """The Peak of the last step."""
-    values, classes = looked_at(program, many)
-    peaks = step_peaks(values, classes, -1, many)
+    peaks = step_peaks(looked_at(program, many), -1, Against([], [1], 0), many)
     top, bottom, x = peaks.most if is_most else peaks.least
     return Peak(x, top // bottom)
 
@@ -244,10 +243,10 @@ def class_spill(names, classes, many, half):
 
 def least_word(program, many):
     """The least word in which all values of all steps fit at all inputs."""
-    values, classes = looked_at(program, many)
+    looked = looked_at(program, many)
     word = 1
     for place in range(len(program.steps)):
-        peaks = step_peaks(values, classes, place, many)
+        peaks = step_peaks(looked, place, Against([], [1], 0), many)
         for top, bottom, _ in (peaks.most, peaks.least):
             value = top // bottom
             word = max(word, (value if value >= 0 else -1 - value).bit_length() + 1)
@@ -266,53 +265,36 @@ def alike_below(one, other, many):
     return None
 
 
-def error_peak(values, classes, top, bottom, frame, many):
-    """The row (error top, error bottom, x) of the greatest error against top / bottom, for what looked_at tells."""
+def against_of(top, bottom, frame):
+    """What the points of inputs have as top / bottom, without poles, as Against."""
     tops, below = over_one_bottom(top.moved(frame.low, frame.step).numbers)
     bottoms, factor = over_one_bottom(bottom.moved(frame.low, frame.step).numbers)
-    tops = [number * factor for number in tops] or [0]
-    bottoms = [number * below for number in bottoms]
-    if value_at(bottoms, 0, 1) < 0:
-        tops, bottoms = [-number for number in tops], [-number for number in bottoms]
-    if values is not None:
-        peaks = Peaks()
-        for x, row in enumerate(values):
-            size = value_at(bottoms, x, 1) << frame.bits
-            peaks.look(row[-1] * value_at(bottoms, x, 1) - (value_at(tops, x, 1) << frame.bits), size, x)
-        return peaks.farthest()
-    pairs = [error_rows(pair, tops, bottoms, frame.bits) for pair in classes[-1].rows]
-    return peaks_of(pairs, classes[-1].bits, many).farthest()
-
-
-def error_rows(pair, tops, bottoms, bits):
-    """The rows (top, bottom) of a class's polynomial divided by 2 ** bits, less a quotient."""
-    row, shift = pair
-    product = product_row(list(row), bottoms)
-    more = bits + shift
-    return difference((product, 0), ([number << more for number in tops], 0)), [number << more for number in bottoms]
+    sign = -1 if value_at(bottoms, 0, 1) < 0 else 1
+    below, factor = lowest(sign * below, factor)
+    return Against([number * sign * factor for number in tops], [number * below for number in bottoms], frame.bits)
 
 
 def greatest_error(program, function, frame, many):
     """The greatest error against a polynomial or a quotient, and the least input with it."""
-    values, classes = looked_at(program, many)
+    looked = looked_at(program, many)
     top, bottom = (function.top, function.bottom) if isinstance(function, Quotient) else (function, Poly((1,)))
     low, high = frame.point(0), frame.point(many - 1)
     if bottom.at(low)[0] == 0 or (many > 1 and count_zeros(bottom, low, high) > 0):
         raise Pole()
-    above, below, x = error_peak(values, classes, top, bottom, frame, many)
+    above, below, x = step_peaks(looked, -1, against_of(top, bottom, frame), many).farthest()
     return Peak(x, lowest(above, below))
 
 
 def error_within(program, function, frame, many, e, bits):
     """Whether the error against a Mixed function is at most e at all inputs: Fine, Off or NearBy."""
-    values, classes = looked_at(program, many)
+    looked = looked_at(program, many)
     need_ratio_from_zero(e, "e")
     need_bits(bits)
     low, high = frame.point(0), frame.point(many)
     terms = terms_within(function, low, high, (1, 1 << bits))
     rest = tail_of(function, low, high, terms)
     near = sums(function, terms) if isinstance(function, Mixed) else function
-    above, below, x = error_peak(values, classes, near, Poly((1,)), frame, many)
+    above, below, x = step_peaks(looked, -1, against_of(near, Poly((1,)), frame), many).farthest()
     if not lower(minus(e, rest), (above, below)):
         return Fine()
     return Off(x) if lower(plus(e, rest), (above, below)) else NearBy(times(2, rest))

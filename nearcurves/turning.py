@@ -5,14 +5,7 @@ between their ends, so this comes to an end wherever zeros are.
 """
 
 from nearcurves.wholecorners import halves_of, interval_corners, sign_changes, value_at
-
-
-def trimmed(row):
-    """The row without zeros behind it."""
-    found = list(row)
-    while found and found[-1] == 0:
-        found.pop()
-    return found
+from nearcurves.wholerows import stripped
 
 
 def zero_bits(row):
@@ -26,7 +19,7 @@ def turns(row, most):
 
     So for all zeros from 0 to the most, or from 0 on if this is None.
     """
-    row = trimmed(row)
+    row = stripped(row)
     if len(row) < 2:
         return []
     bits = zero_bits(row) if most is None else min(zero_bits(row), most.bit_length())
