@@ -26,6 +26,7 @@ LOG = Mixed(Poly(()), [(Poly((1,)), log_row())])
 SQUARE = Mixed(Poly((1,)), [(Poly((0, 1)), power_row(2))])
 RUNGE = Quotient(Poly((1,)), Poly((1, 0, 1)))
 BENT = Pieces((-2, (1, 3), 5), (Poly((1, 1)), Poly(((7, 6), (1, 2)))))
+STEEP = Pieces((0, 1, 2), (Poly((1,)), Poly((10, -19, 10))))
 CUBIC = Poly((1, (-3, 2), 0, (2, 3)))
 LINE = Poly(((1, 3), (5, 2)))
 
@@ -39,7 +40,7 @@ CASES = [
     (EXP, Frame(0, (1, 4), 0), 3, 0),
     (BOTH, Frame((-1, 4), (1, 32), 7), 4, 30), (LOG, Frame(0, (1, 64), 6), 5, 40), (Poly(()), Frame(0, 1, 0), 2, 5),
     (Poly(((1, 2),)), Frame(0, 1, 0), 2, 5),
-    (Poly((0, (1, 2))), Frame(0, 1, 0), 3, 5),
+    (Poly((0, (1, 2))), Frame(0, 1, 0), 3, 5), (STEEP, Frame(0, (1, 8), 3), 4, 5), (STEEP, Frame(0, (1, 16), 6), 5, 5),
 ]
 BOUNDS = [Fraction(0), Fraction(1, 4), Fraction(1, 2), Fraction(3, 4), Fraction(1), Fraction(5, 3), Fraction(4),
     Fraction(100)]

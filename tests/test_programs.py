@@ -17,6 +17,7 @@ from nearcurves.programs import (
     ideal, least, least_word, never_falls, never_negative, shape,
 )
 from nearcurves.rows import exp_row, log_row, power_row
+from nearcurves.turning import turns
 
 NO_INPUTS = [-1, True, False, None, "1", 1.0, (1, 1), [1]]
 NO_MANY = [0, -1, True, None, "1", 2.0, (2, 1), []]
@@ -329,6 +330,55 @@ class TestInputsBelow(Asking):
         self.assertEqual(vars(greatest(program, 1024)), {"x": 1023, "value": 2 * 1023 * 123})
         with self.assertRaises(TooLarge):
             greatest(program, 1025)
+
+
+class TestTurns(Asking):
+    def row_of(self, roots):
+        """The row of integers with these zeros, Fractions."""
+        row = [1]
+        for root in roots:
+            product = [0] * (len(row) + 1)
+            for power, number in enumerate(row):
+                product[power] -= number * root.numerator
+                product[power + 1] += number * root.denominator
+            row = product
+        return row
+
+    def test_each_change_of_sign_is_told(self):
+        random = Random(75)
+        for _ in range(400):
+            many = random.randrange(1, 7)
+            near = random.choice((8, 64, 10 ** 6))
+            roots = [Fraction(random.choice((random.randrange(near), 8, 16, 4)),
+                random.choice((1, 1, 2, 3))) for _ in range(many)]
+            factor = random.choice((1, -3))
+            row = [factor * number for number in self.row_of(roots)]
+            odd = [root for root in roots if roots.count(root) % 2 == 1]
+            for most in (None, 5, 16, near):
+                told = turns(row, most)
+                for root in odd:
+                    if most is None or root <= most:
+                        self.assertTrue(any(k <= root <= k + 1 for k in told), (roots, most))
+                self.assertLessEqual(len(told), 6 * many)
+        self.assertEqual(turns([5], 9), [])
+        self.assertEqual(turns([], 9), [])
+        self.assertEqual(turns([1, 0, 1], None), [])
+
+    def test_turns_at_powers_of_two(self):
+        for roots in ((8, 3, 12), (8, 8, 8, 2), (16, 8, 4), (1, 2, 3), (4, 4, 4), (0, 5), (8,), (2048, 1024, 512)):
+            # The slope of the program is a product of these x - root, times 60.
+            row = [Fraction(number, power + 1) for power,
+                number in enumerate(self.row_of([Fraction(root) for root in roots]))]
+            lines, total = [], "0"
+            for power in range(len(row) - 1, -1, -1):
+                lines.append(f"a{power} = {total} + {row[power].numerator * (60 // row[power].denominator)}")
+                lines.append(f"b{power} = a{power} * x")
+                total = f"b{power}"
+            program = Program("\n".join(lines))
+            values = [program.at(x) for x in range(5000)]
+            for many in (5, 9, 17, 3000, 5000):
+                self.assertEqual(greatest(program, many).value, max(values[:many]))
+                self.assertEqual(least(program, many).x, values.index(min(values[:many])))
 
 
 class TestFrames(Asking):
