@@ -360,6 +360,10 @@ class TestTurns(Asking):
                     if most is None or root <= most:
                         self.assertTrue(any(k <= root <= k + 1 for k in told), (roots, most))
                 self.assertLessEqual(len(told), 6 * many)
+        for roots in ((16, 17), (1, 2), (1, 2, 4, 5), (7, 8, 24)):
+            told = turns(self.row_of([Fraction(root, 3) for root in roots]), None)
+            for root in roots:
+                self.assertTrue(any(k <= Fraction(root, 3) <= k + 1 for k in told))
         self.assertEqual(turns([5], 9), [])
         self.assertEqual(turns([], 9), [])
         self.assertEqual(turns([1, 0, 1], None), [])
