@@ -11,7 +11,7 @@ from nearcurves.cuts import BarredPiece, Cuts, are_cuts, least_pieces
 from nearcurves.errors import BadInterval, Pole, TooWide
 from nearcurves.errors_of import Paper
 from nearcurves.functions import Mixed, Pieces, Quotient, sums
-from nearcurves.intervalfits import Bar
+from nearcurves.intervalfits import Bar, bar_number
 from nearcurves.polys import Poly
 from nearcurves.rows import atan_row, exp_row, log_row, power_row, scaled, sin_row
 
@@ -148,6 +148,22 @@ class TestPieces(Asking):
             self.assertIs(are_cuts(EXP, degree, e, KNOTS, bits, BarredPiece(0, changed)), False)
         self.assertIs(are_cuts(EXP, degree, e, KNOTS, bits, BarredPiece(0, bar)), True)
         self.assertIs(are_cuts(EXP, degree, 1, KNOTS, bits, BarredPiece(0, bar)), False)
+        # The number is to be above e less the gap: just there it is not.
+        number = fraction(bar_number(EXP, (0,), KNOTS[0], KNOTS[1], bar))
+        for bits in (0, 7, 20):
+            just = number + Fraction(1, 2 ** bits)
+            self.assertIs(are_cuts(EXP, degree, pair(just), KNOTS, bits, BarredPiece(0, bar)), False)
+            self.assertIs(are_cuts(EXP, degree, pair(just - Fraction(1, 10 ** 30)), KNOTS, bits, BarredPiece(0, bar)), True)
+
+    def test_are_cuts_with_a_piece_more_or_less(self):
+        arguments = (EXP, 2, (1, 1000), KNOTS, 20)
+        told = least_pieces(*arguments)
+        rows = [told.breaks, told.polys, told.papers, told.bars]
+        self.assertIs(are_cuts(*arguments, Cuts(*rows)), True)
+        self.assertIs(are_cuts(*arguments, Cuts(*[row[1:] for row in rows])), False)
+        self.assertIs(are_cuts(*arguments, Cuts(*[row[:-1] for row in rows])), False)
+        self.assertIs(are_cuts(*arguments, Cuts(*[(row[0], *row) for row in rows])), False)
+        self.assertIs(are_cuts(*arguments, Cuts(*[(*row, row[-1]) for row in rows])), False)
 
     def test_errors_in_their_order(self):
         far = (-4, 0, (7, 2))

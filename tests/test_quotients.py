@@ -178,6 +178,19 @@ class TestPossible(Asking):
         for e in NO_RATIOS + [-1]:
             self.bad("e", e, frontier, SOME, 2, e)
 
+    def test_each_of_the_three_sums_is_asked(self):
+        points = Points((0, 1, 2, 3), (0, 1, 0, 1))
+        told = possible(points, 0, 0, 0)
+        self.assertIs(is_bars(points, 0, 0, 0, told), True)
+        for place in (0, 1):
+            # Where e and the number are 0, a and b count in the first sum alone.
+            row = list(told.shares[0])
+            row[place] = pair(fraction(row[place]) + 1)
+            self.assertIs(is_bars(points, 0, 0, 0, Bars((tuple(row), *told.shares[1:]))), False)
+        row = (told.shares[0][0], told.shares[0][1], pair(fraction(told.shares[0][2]) + 1))
+        self.assertIs(is_bars(points, 0, 0, 0, Bars((row, *told.shares[1:]))), False)
+        self.assertIs(is_bars(points, 0, 0, 0, Bars(((0, 0, 0),) * 4)), False)
+
     def test_least_possible(self):
         for points in (PLANTED, SOME, PAIR, ALONE):
             for m, n in ((0, 0), (0, 2), (1, 1), (1, 2), (2, 0), (3, 4)):

@@ -314,6 +314,29 @@ class TestJoined(Asking):
         self.joined_holds(short, (4, (17, 2), 13, 19), 6, 3, told)
 
 
+class TestJudgesOfJoined(Asking):
+    def test_shares_for_all_joined_pieces(self):
+        # All numbers are 0, so nothing is asked of shares but that all joined pieces have the sum 0.
+        points = Points(tuple(range(7)), (0,) * 7)
+        none = Pieces((0, 3, 6), (Poly(()), Poly(())))
+        for shares, is_right in (
+            ((), True), (((0, (1, 4)), (1, (-1, 2)), (2, (1, 4))), True), (((2, (1, 4)), (3, (-1, 2)), (4, (1, 4))), False),
+            (((3, (1, 4)), (4, (-1, 2)), (5, (1, 4))), True), (((0, (1, 4)), (1, (-1, 4))), False), (((0, 1), (1, -2), (2, 1)), False),
+        ):
+            self.assertIs(is_joined(points, (3,), 1, 0, Joined(none, 0, shares)), is_right, shares)
+        # For slopes that are equal, too, more shares will do.
+        smooth = ((1, (1, 16)), (2, (-3, 16)), (3, (3, 16)), (4, (-1, 16)))
+        self.assertIs(is_joined(points, (3,), 2, 0, Joined(none, 0, smooth)), False)
+        self.assertIs(is_joined(points, (3,), 2, 1, Joined(none, 0, smooth)), False)
+        self.assertIs(is_joined(points, (4,), 2, 1, Joined(Pieces((0, 4, 6), none.polys), 0, smooth)), True)
+
+    def test_degrees_of_pieces(self):
+        points = Points((0, 1, 2), (0, 0, 0))
+        self.assertIs(is_joined(points, (), 1, 0, Joined(Pieces((0, 2), (Poly(()),)), 0, ())), True)
+        self.assertIs(is_joined(points, (), 1, 0, Joined(Pieces((0, 2), (Poly((0, 2, -3, 1)),)), 0, ())), False)
+        self.assertIs(is_joined(points, (), 3, 0, Joined(Pieces((0, 2), (Poly((0, 2, -3, 1)),)), 0, ())), True)
+
+
 class TestClasses(Asking):
     def test_they_keep_what_they_are_given(self):
         self.keep_what_they_are_given({
