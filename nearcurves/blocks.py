@@ -154,7 +154,8 @@ def bars_lines(ends, size, shift, bar):
         return lows[one[0]] > highs[one[0]]
     if one[0] == one[1] or other[0] == other[1]:
         return False
-    return bars_lesser(lows, highs, *one, slope) and bars_greater(lows, highs, *other, slope + 1)
+    above = slope + 1
+    return bars_lesser(lows, highs, *one, slope) and bars_greater(lows, highs, *other, above)
 
 
 def bars_straight(ends, size, block, inputs):
