@@ -76,7 +76,8 @@ def fit_or_shares(points, m, n, e):
     sides = Sides(points.points, points.numbers, points.weights, m, n, e)
     for bits in SHORT_BITS:
         rows = [[shortened(ratio, bits) for ratio in row] for row in (points.points, points.numbers, points.weights)]
-        short = Sides(*rows, m, n, shortened(e, bits))
+        short_e = shortened(e, bits)
+        short = Sides(*rows, m, n, short_e)
         system = short.system()
         greatest_prices(system, short.costs, short.scales)
         answer = answer_from(sides, system.chosen)

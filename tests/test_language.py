@@ -52,6 +52,27 @@ def targets_of(comprehension):
     } - {"_"}
 
 
+def is_plain(node):
+    """Whether it is a name, an attribute off a name, a literal, or a list, tuple or dict of these."""
+    if isinstance(node, (ast.List, ast.Tuple)):
+        return all(is_plain(item) for item in node.elts)
+    if isinstance(node, ast.Dict):
+        return all(item is not None and is_plain(item) for item in [*node.keys, *node.values])
+    if isinstance(node, ast.Attribute):
+        return isinstance(node.value, ast.Name)
+    return isinstance(node, (ast.Name, ast.Constant))
+
+
+def beside_stars(call):
+    """What a call passes behind its first star; all that it passes, if a double star stands in it."""
+    passed = [*call.args, *call.keywords]
+    starred = [place for place, item in enumerate(call.args) if isinstance(item, ast.Starred)]
+    start = starred[0] if starred else len(passed)
+    if any(item.arg is None for item in call.keywords):
+        start = 0
+    return [item.value if isinstance(item, (ast.Starred, ast.keyword)) else item for item in passed[start:]]
+
+
 class TestFiles(unittest.TestCase):
     def test_the_folder_has_files_of_the_package_alone(self):
         others = [path.name for path in FOLDER.iterdir() if path.name != "__pycache__" and path not in FILES]
@@ -207,6 +228,22 @@ class TestExpressions(unittest.TestCase):
             for item in node.args:
                 if isinstance(item, ast.Starred):
                     self.assertIsInstance(item.value, (ast.Name, ast.Attribute), f"{name}: {node.lineno}")
+
+    def test_what_stands_behind_stars_in_calls(self):
+        for name, node in nodes(ast.Call):
+            for item in beside_stars(node):
+                self.assertTrue(is_plain(item), f"{name}: {item.lineno}: {ast.unparse(item)}")
+
+    def test_forms_of_calls_with_stars(self):
+        for text in (
+            "f(a + 1)", "f(a + 1, *b)", "f(*b, c, d.e, 1, [c, (2, d.e)], {'k': c})", "f(*b, k=c)", "f(a, k=b, **c)",
+        ):
+            self.assertTrue(all(is_plain(item) for item in beside_stars(ast.parse(text).body[0].value)), text)
+        for text in (
+            "f(*b, c + 1)", "f(*b, g(c))", "f(*g(b))", "f(*b, c[0])", "f(*b, -1)", "f(*b, c.d.e)", "f(*b, [c + 1])",
+            "f(*b, k=c + 1)", "f(a + 1, **b)", "f(**b.c.d)", "f(*b, {**c})", "f(*b, *[*c])",
+        ):
+            self.assertFalse(all(is_plain(item) for item in beside_stars(ast.parse(text).body[0].value)), text)
 
     def test_comprehensions_within_one_another_have_their_own_names(self):
         for name, node in nodes(*COMPREHENSIONS):
